@@ -1,0 +1,106 @@
+"""The interface: names, parameters, files, methods, and which module imports from which."""
+
+import ast
+import importlib
+import inspect
+import pathlib
+import unittest
+
+import roundpromises
+from roundpromises.one import Task
+from roundpromises.sights import Panel
+from roundpromises.tables import Table, constant
+
+FOLDER = pathlib.Path(roundpromises.__file__).parent
+ORDER = ["errors", "rows", "terms", "promises", "sights", "tables", "one", "serving", "forms"]
+FUNCTIONS = {
+    "rows": "is_row(thing, length) rows(size, length) first_of(row, places) last_of(row, places) "
+            "latest_of(row, places) until(row, moment)",
+    "terms": "is_condition(thing, names) holds(condition, times) is_cases(thing, names) letters_of(cases) "
+             "letter_of(cases, times)",
+    "promises": "is_promise(thing, inputs) asked(promise, inputs, row) allowed(promises, inputs, row) "
+                "is_stronger(one, other, inputs, length) parting_row(one, other, inputs, length)",
+    "sights": "is_environment(panel, thing) arrivals_of(panel, environment) many_environments(panel) "
+              "environments(panel) look_alike(one, other, length, moment)",
+    "tables": "constant(size, length, moment) sooner(one, other) later(one, other) rung(panel, table, environment)",
+    "one": "is_right(task, environment, moment) good(task, arrivals) keeps(task, table) earliest(task) latest(task) "
+           "had(task, arrivals) quarrel(task) is_quarrel(task, thing) against(task, quarrel, table) "
+           "on_top(task, promise) tightest(task, condition, which, names)",
+    "serving": "serves(one, other) are_even(one, other) translator(one, other) is_translator(one, other, thing) "
+               "translated(one, other, translator, table) parting_promises(one, other) is_parting(one, other, thing)",
+    "forms": "is_form(thing, letters) matches(form, word) form_behind(form, word) are_alike(one, other, letters) "
+             "parting_word(one, other, letters)",
+}
+CLASSES = {
+    ("sights", "Panel"): ["__init__(self, inputs, length, sight, slip)", "with_sight(self, sight)",
+                          "with_slip(self, slip)", "__eq__(self, other)"],
+    ("tables", "Table"): ["__init__(self, size, length, answers)", "answers(self)", "answer(self, arrivals)",
+                          "__eq__(self, other)"],
+    ("one", "Task"): ["__init__(self, panel, cases, promises, barred)", "__eq__(self, other)"],
+}
+
+
+def parsed(name):
+    return ast.parse((FOLDER / (name + ".py")).read_text())
+
+
+class Interface(unittest.TestCase):
+    def test_functions(self):
+        for name, told in FUNCTIONS.items():
+            module = importlib.import_module("roundpromises." + name)
+            defined = {node.name for node in parsed(name).body if isinstance(node, ast.FunctionDef)}
+            for wanted in told.replace(") ", ")\n").split("\n"):
+                function = getattr(module, wanted.partition("(")[0])
+                self.assertEqual(function.__name__ + str(inspect.signature(function)), wanted)
+                self.assertIn(function.__name__, defined)
+
+    def test_classes(self):
+        for (name, kind), methods in CLASSES.items():
+            found = getattr(importlib.import_module("roundpromises." + name), kind)
+            body = [node for node in parsed(name).body if isinstance(node, ast.ClassDef) and node.name == kind]
+            inside = {node.name for node in body[0].body if isinstance(node, ast.FunctionDef)}
+            for wanted in methods:
+                method = wanted.partition("(")[0]
+                self.assertIn(method, inside)
+                self.assertEqual(method + str(inspect.signature(vars(found)[method])), wanted)
+
+    def test_attributes(self):
+        panel = Panel(["a"], 1, None, 0)
+        for thing, names in ((panel, "inputs length delays slip"), (constant(1, 1, 0), "size length"),
+                             (Task(panel, [], [], []), "panel cases promises barred")):
+            for name in names.split():
+                self.assertIn(name, vars(thing))
+
+    def test_by_name(self):
+        panel = Panel(slip=0, sight=None, length=1, inputs=["a"])
+        table = Table(answers={(0,): 0, (1,): 0, (None,): 0}, length=1, size=1)
+        task = Task(barred=[], promises=[], cases=[], panel=panel)
+        one = importlib.import_module("roundpromises.one")
+        self.assertIs(one.keeps(table=table, task=task), True)
+        self.assertIs(one.is_right(moment=0, environment=((0,), (0,), 0), task=task), True)
+        serving = importlib.import_module("roundpromises.serving")
+        told = serving.translator(other=panel, one=panel)
+        self.assertTrue(serving.translated(table=table, translator=told, other=panel, one=panel) == table)
+
+    def test_the_package_defines_nothing(self):
+        body = parsed("__init__").body
+        self.assertTrue(all(isinstance(node, ast.Expr) and isinstance(node.value, ast.Constant) for node in body))
+
+    def test_imports_only_from_those_ahead(self):
+        ahead = {name: ORDER[:at] for at, name in enumerate(ORDER)}
+        # Further modules stand ahead of the first one that imports from them.
+        further = {"checks": ["errors"], "looks": ["errors", "checks", "rows"], "readers": []}
+        for path in FOLDER.glob("*.py"):
+            name = path.stem
+            for node in ast.walk(parsed(name)):
+                if isinstance(node, ast.ImportFrom):
+                    source = node.module.removeprefix("roundpromises.")
+                    self.assertIn(source, further.get(name, ahead.get(name, []) + list(further)), path.name)
+
+    def test_folder(self):
+        found = {path.name for path in FOLDER.iterdir() if path.name != "__pycache__"}
+        self.assertEqual(found, {name + ".py" for name in [*ORDER, "__init__", "checks", "looks", "readers"]})
+
+
+if __name__ == "__main__":
+    unittest.main()
