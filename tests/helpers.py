@@ -7,8 +7,28 @@ from roundpromises.rows import rows
 from roundpromises.sights import Panel
 from roundpromises.tables import Table
 
-JUNK = (None, True, False, 0, 1, -1, 9, 1000, "", "a", "out", [], (), {}, [1], (1,), (True,), {"a": 1}, (None,) * 4,
-        Panel(["a"], 1, None, 0))
+JUNK = (
+    None,
+    True,
+    False,
+    0,
+    1,
+    -1,
+    9,
+    1000,
+    "",
+    "a",
+    "out",
+    [],
+    (),
+    {},
+    [1],
+    (1,),
+    (True,),
+    {"a": 1},
+    (None,) * 4,
+    Panel(["a"], 1, None, 0),
+)
 
 
 class Case(unittest.TestCase):
@@ -51,6 +71,7 @@ def seen_until(row, moment):
 
 def all_answers(size, length):
     """All dicts of answers of a size and a length that do not hang on what comes later."""
+
     def told(looks, moment):
         # looks: the rows that look alike so far, in one list
         if moment > length:
@@ -62,6 +83,7 @@ def all_answers(size, length):
         for group in split.values():
             parts.append([{row: moment for row in group}] + told(group, moment + 1))
         return [dict(itertools.chain(*(part.items() for part in choice))) for choice in itertools.product(*parts)]
+
     return told(rows(size, length), 0)
 
 

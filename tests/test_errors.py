@@ -10,9 +10,21 @@ OtherTables BadQuarrel BadWindow OtherPanels BadTranslator BadLetters BadWord Ba
 OtherWorks BadMarks BadGains BadWeights BadStock BadRounds OtherMachines BadDelays BadGuess BadLedger BadView BadSplit
 BadWide BadPlay BadLot BadFaults NothingDone BadPlant""".split()
 TOLD = {
-    "BadCondition": "name", "BadPromises": "at", "BadPanel": "part", "TooMany": "most", "BadTable": "part",
-    "BadTask": "part", "BadWorks": "part", "BadMachine": "part", "BadChanges": "at", "Clash": "name",
-    "BadTries": "at", "BadSeen": "at", "NotNow": "word", "BadJournal": "at", "BadText": "at",
+    "BadCondition": "name",
+    "BadPromises": "at",
+    "BadPanel": "part",
+    "TooMany": "most",
+    "BadTable": "part",
+    "BadTask": "part",
+    "BadWorks": "part",
+    "BadMachine": "part",
+    "BadChanges": "at",
+    "Clash": "name",
+    "BadTries": "at",
+    "BadSeen": "at",
+    "NotNow": "word",
+    "BadJournal": "at",
+    "BadText": "at",
 }
 
 

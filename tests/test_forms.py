@@ -11,13 +11,62 @@ from tests.helpers import JUNK, Case, junk_but
 A, B, ANY, EMPTY = ("one", "a"), ("one", "b"), ("any",), ("empty",)
 LETTERS = ("a", "other")
 LONGEST = 4
-BAD_LETTERS = (None, (), ["a"], "a", ("a", "a"), ("a", "b", "c", "d", "e"), ("out",), ("start",), ("A",), (1,), (["a"],),
-               {"a": 1}, ("abcdefg",), ("",), ("a", None), True)
-BAD_FORMS = (None, (), [], "any", ["any"], ("any", "a"), ("empty", ()), ("one",), ("one", "a", "b"), ("one", "out"),
-             ("one", "A"), ("one", "start"), ("one", ["a"]), ("one", None), ("one", 1), ("one", ("a",)), ("then", A),
-             ("then", A, B, A), ("then", A, [B[0]]), ("either", A), ("both", A, None), ("not",), ("not", A, A), ("many",),
-             ("many", "a"), ("many", A, A), ("never",), ("some", A), (("any",),), (1,), ("not", ("not", ("one", "abcdefg"))),
-             ("then", ANY, ("then", ANY, ("then", ANY, ("any", 1)))), {"any": 1}, True, 0)
+BAD_LETTERS = (
+    None,
+    (),
+    ["a"],
+    "a",
+    ("a", "a"),
+    ("a", "b", "c", "d", "e"),
+    ("out",),
+    ("start",),
+    ("A",),
+    (1,),
+    (["a"],),
+    {"a": 1},
+    ("abcdefg",),
+    ("",),
+    ("a", None),
+    True,
+)
+BAD_FORMS = (
+    None,
+    (),
+    [],
+    "any",
+    ["any"],
+    ("any", "a"),
+    ("empty", ()),
+    ("one",),
+    ("one", "a", "b"),
+    ("one", "out"),
+    ("one", "A"),
+    ("one", "start"),
+    ("one", ["a"]),
+    ("one", None),
+    ("one", 1),
+    ("one", ("a",)),
+    ("then", A),
+    ("then", A, B, A),
+    ("then", A, [B[0]]),
+    ("either", A),
+    ("both", A, None),
+    ("both", None, A),
+    ("not",),
+    ("not", A, A),
+    ("many",),
+    ("many", "a"),
+    ("many", A, A),
+    ("never",),
+    ("some", A),
+    (("any",),),
+    (1,),
+    ("not", ("not", ("one", "abcdefg"))),
+    ("then", ANY, ("then", ANY, ("then", ANY, ("any", 1)))),
+    {"any": 1},
+    True,
+    0,
+)
 
 
 def words_up_to(longest, letters=LETTERS):
@@ -55,10 +104,14 @@ def levels(form):
 
 
 LOW = [("one", "a"), ("one", "other"), ANY, EMPTY]
-MIDDLE = LOW + [(word, form) for word in ("not", "many") for form in LOW] + [
-    (word, one, other) for word in ("then", "either", "both") for one in LOW for other in LOW]
+MIDDLE = (
+    LOW
+    + [(word, form) for word in ("not", "many") for form in LOW]
+    + [(word, one, other) for word in ("then", "either", "both") for one in LOW for other in LOW]
+)
 HIGH = [(word, form) for word in ("not", "many") for form in MIDDLE] + [
-    (word, one, other) for word in ("then", "either", "both") for one in MIDDLE for other in MIDDLE]
+    (word, one, other) for word in ("then", "either", "both") for one in MIDDLE for other in MIDDLE
+]
 
 
 def tall(chance, most, letters):
@@ -88,7 +141,16 @@ class ByHand(Case):
             self.assertIs(matches(ALWAYS, word), True)
 
     def test_is_form(self):
-        for form in (A, ANY, EMPTY, ALWAYS, ("one", "other"), ("then", A, B), ("either", A, ("not", B)), ("both", ANY, EMPTY)):
+        for form in (
+            A,
+            ANY,
+            EMPTY,
+            ALWAYS,
+            ("one", "other"),
+            ("then", A, B),
+            ("either", A, ("not", B)),
+            ("both", ANY, EMPTY),
+        ):
             self.assertIs(is_form(form, ("a", "b", "other")), True, form)
         for thing in BAD_FORMS + tuple(junk_but()):
             self.assertIs(is_form(thing, ("a", "b", "other")), False, thing)
@@ -129,7 +191,20 @@ class ByHand(Case):
         self.refused(BadForm, parting_word, ("one", "other"), ANY, ("a", "b"))
 
     def test_bad_words(self):
-        for word in (None, [], ["a"], "a", ("out",), ("a", "start"), ("A",), (1,), ("",), (("a",),), {"a": 1}, ("abcdefg",)):
+        for word in (
+            None,
+            [],
+            ["a"],
+            "a",
+            ("out",),
+            ("a", "start"),
+            ("A",),
+            (1,),
+            ("",),
+            (("a",),),
+            {"a": 1},
+            ("abcdefg",),
+        ):
             self.refused(BadWord, matches, ANY, word)
             self.refused(BadWord, form_behind, ANY, word)
 
@@ -143,6 +218,32 @@ class ByHand(Case):
         self.assertIs(matches(("not", ("one", "a")), ("other",)), True)
         self.assertIs(matches(("many", ("one", "other")), ("other", "other")), True)
 
+    def test_letters_named_like_words(self):
+        """A letter may have the name of any word of a form: it is told by where it stands."""
+        names = ("one", "any", "empty", "then", "either", "both", "not", "many")
+        words = [(), *((name,) for name in names), *itertools.product(names, repeat=2)]
+        for name in names:
+            form = ("one", name)
+            self.assertIs(is_form(form, (name,)), True)
+            for word in words:
+                self.assertIs(matches(form, word), word == (name,))
+                self.assertIs(matches(("many", form), word), set(word) <= {name})
+                self.assertIs(matches(("not", form), word), word != (name,))
+                self.assertIs(matches(form_behind(("not", form), ()), word), word != (name,))
+                for more in words[:9]:
+                    self.assertIs(
+                        matches(form_behind(("not", ("many", form)), more), word), not set(more + word) <= {name}
+                    )
+                    self.assertIs(
+                        matches(form_behind(("either", form, EMPTY), more), word), more + word in ((), (name,))
+                    )
+                    self.assertIs(matches(form_behind(("both", form, ANY), more), word), more + word == (name,))
+                    self.assertIs(matches(form_behind(("then", form, form), more), word), more + word == (name, name))
+            self.same(parting_word(form, ANY, (name, "a")), ("a",))
+            self.same(parting_word(("many", form), EMPTY, (name, "a")), (name,))
+            self.same(parting_word(("not", form), ("not", ANY), ("a", name)), ("a",))
+            self.assertIs(are_alike(("then", form, ("not", ALWAYS)), ("both", form, EMPTY), (name, "a")), True)
+
     def test_parting_words(self):
         self.same(parting_word(A, B, ("a", "b")), ("a",))
         self.same(parting_word(A, B, ("b", "a")), ("b",))
@@ -154,7 +255,9 @@ class ByHand(Case):
         self.same(parting_word(again, ("then", ALWAYS, ("then", ANY, A)), ("b", "a")), ("a",))
         self.same(parting_word(("then", again, ANY), ("then", again, B), ("a", "b")), ("a", "a"))
         self.same(parting_word(("then", again, ANY), ("then", again, B), ("b", "a")), ("a", "a"))
-        self.same(parting_word(("many", ("then", ANY, ANY)), ("many", ("then", ANY, ("then", ANY, ANY))), ("c",)), ("c", "c"))
+        self.same(
+            parting_word(("many", ("then", ANY, ANY)), ("many", ("then", ANY, ("then", ANY, ANY))), ("c",)), ("c", "c")
+        )
 
     def test_just_thirty_classes(self):
         """Words of 0 to 28 letters are of a class each, all longer ones of one more."""
@@ -162,7 +265,10 @@ class ByHand(Case):
         four, seven = ("then", two, two), ("then", ("then", two, two), ("then", two, ANY))
         self.same(levels(seven), 4)
         long = ("then", ("then", seven, seven), ("then", seven, seven))
-        self.same(parting_word(long, ("then", ("then", seven, seven), ("then", seven, ("then", four, two))), ("a", "b")), ("a",) * 27)
+        self.same(
+            parting_word(long, ("then", ("then", seven, seven), ("then", seven, ("then", four, two))), ("a", "b")),
+            ("a",) * 27,
+        )
         self.assertIs(matches(long, ("b",) * 28), True)
         self.assertIs(matches(long, ("b",) * 27), False)
         turned = ("then", ("then", ANY, two), ("then", two, two))
@@ -176,6 +282,12 @@ class ByHand(Case):
         self.assertIs(matches(pairs, word[1:]), False)
         self.assertIs(matches(("then", pairs, ("many", ("many", ANY))), word[:-1]), True)
         self.assertIs(matches(("not", pairs), word), False)
+
+    def test_nothing_is_read_backwards(self):
+        """Behind any letter, and no or more letters a, two letters more: three at least."""
+        form = ("then", ANY, ("then", ("many", ("either", EMPTY, A)), ("then", ANY, ANY)))
+        for word in words_up_to(5, ("a", "b")):
+            self.assertIs(matches(form, word), len(word) >= 3 and set(word[1:-2]) <= {"a"})
 
     def test_sixty_levels(self):
         for word in ("then", "either", "both", "not", "many"):
@@ -272,8 +384,14 @@ class InFull(Case):
         chance = random.Random(74)
         for _ in range(200):
             form = tall(chance, 3, LETTERS)
-            for same in (("not", ("not", form)), ("either", form, form), ("both", form, ALWAYS), ("then", EMPTY, form),
-                         ("then", form, EMPTY), ("either", ("not", ALWAYS), form)):
+            for same in (
+                ("not", ("not", form)),
+                ("either", form, form),
+                ("both", form, ALWAYS),
+                ("then", EMPTY, form),
+                ("then", form, EMPTY),
+                ("either", ("not", ALWAYS), form),
+            ):
                 self.assertIs(are_alike(form, same, LETTERS), True)
             self.assertIs(are_alike(form, ("not", form), LETTERS), False)
             star = ("many", form)

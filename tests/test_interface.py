@@ -15,27 +15,35 @@ FOLDER = pathlib.Path(roundpromises.__file__).parent
 ORDER = ["errors", "rows", "terms", "promises", "sights", "tables", "one", "serving", "forms"]
 FUNCTIONS = {
     "rows": "is_row(thing, length) rows(size, length) first_of(row, places) last_of(row, places) "
-            "latest_of(row, places) until(row, moment)",
+    "latest_of(row, places) until(row, moment)",
     "terms": "is_condition(thing, names) holds(condition, times) is_cases(thing, names) letters_of(cases) "
-             "letter_of(cases, times)",
+    "letter_of(cases, times)",
     "promises": "is_promise(thing, inputs) asked(promise, inputs, row) allowed(promises, inputs, row) "
-                "is_stronger(one, other, inputs, length) parting_row(one, other, inputs, length)",
+    "is_stronger(one, other, inputs, length) parting_row(one, other, inputs, length)",
     "sights": "is_environment(panel, thing) arrivals_of(panel, environment) many_environments(panel) "
-              "environments(panel) look_alike(one, other, length, moment)",
+    "environments(panel) look_alike(one, other, length, moment)",
     "tables": "constant(size, length, moment) sooner(one, other) later(one, other) rung(panel, table, environment)",
     "one": "is_right(task, environment, moment) good(task, arrivals) keeps(task, table) earliest(task) latest(task) "
-           "had(task, arrivals) quarrel(task) is_quarrel(task, thing) against(task, quarrel, table) "
-           "on_top(task, promise) tightest(task, condition, which, names)",
+    "had(task, arrivals) quarrel(task) is_quarrel(task, thing) against(task, quarrel, table) "
+    "on_top(task, promise) tightest(task, condition, which, names)",
     "serving": "serves(one, other) are_even(one, other) translator(one, other) is_translator(one, other, thing) "
-               "translated(one, other, translator, table) parting_promises(one, other) is_parting(one, other, thing)",
+    "translated(one, other, translator, table) parting_promises(one, other) is_parting(one, other, thing)",
     "forms": "is_form(thing, letters) matches(form, word) form_behind(form, word) are_alike(one, other, letters) "
-             "parting_word(one, other, letters)",
+    "parting_word(one, other, letters)",
 }
 CLASSES = {
-    ("sights", "Panel"): ["__init__(self, inputs, length, sight, slip)", "with_sight(self, sight)",
-                          "with_slip(self, slip)", "__eq__(self, other)"],
-    ("tables", "Table"): ["__init__(self, size, length, answers)", "answers(self)", "answer(self, arrivals)",
-                          "__eq__(self, other)"],
+    ("sights", "Panel"): [
+        "__init__(self, inputs, length, sight, slip)",
+        "with_sight(self, sight)",
+        "with_slip(self, slip)",
+        "__eq__(self, other)",
+    ],
+    ("tables", "Table"): [
+        "__init__(self, size, length, answers)",
+        "answers(self)",
+        "answer(self, arrivals)",
+        "__eq__(self, other)",
+    ],
     ("one", "Task"): ["__init__(self, panel, cases, promises, barred)", "__eq__(self, other)"],
 }
 
@@ -66,8 +74,11 @@ class Interface(unittest.TestCase):
 
     def test_attributes(self):
         panel = Panel(["a"], 1, None, 0)
-        for thing, names in ((panel, "inputs length delays slip"), (constant(1, 1, 0), "size length"),
-                             (Task(panel, [], [], []), "panel cases promises barred")):
+        for thing, names in (
+            (panel, "inputs length delays slip"),
+            (constant(1, 1, 0), "size length"),
+            (Task(panel, [], [], []), "panel cases promises barred"),
+        ):
             for name in names.split():
                 self.assertIn(name, vars(thing))
 

@@ -12,18 +12,52 @@ FOLDER = pathlib.Path(roundpromises.__file__).parent
 FILES = {path.name: path.read_text() for path in sorted(FOLDER.glob("*.py"))}
 TREES = {name: ast.parse(text) for name, text in FILES.items()}
 
-BUILTINS = set("""len range enumerate zip min max sum abs sorted reversed int str bool list tuple dict set frozenset
-isinstance ord repr any all divmod ValueError""".split())
+BUILTINS = set(
+    """len range enumerate zip min max sum abs sorted reversed int str bool list tuple dict set frozenset
+isinstance ord repr any all divmod ValueError""".split()
+)
 METHODS = set("append extend get items keys values setdefault".split())
 ITERATED = {"zip", "enumerate", "reversed", "range"}
 TAKERS = {"list", "tuple", "dict", "sorted", "sum", "any", "all", "enumerate", "zip"}
-BARRED = """register mro elements open input law version_info with_traceback add_note attrgetter breakpoint builtins compile
-copyright credits delattr dir eval exec exit gc getattr globals hasattr help id importlib license locals methodcaller os quit
-setattr super type vars sys typing enum Enum Flag Generic Protocol ABC namedtuple NamedTuple dataclass""".split()
-STATEMENTS = (ast.FunctionDef, ast.ClassDef, ast.ImportFrom, ast.Assign, ast.AugAssign, ast.Expr, ast.If, ast.For,
-              ast.While, ast.Return, ast.Raise, ast.Break, ast.Continue, ast.Pass)
-UNUSED = (ast.GeneratorExp, ast.SetComp, ast.Set, ast.Starred, ast.NamedExpr, ast.JoinedStr, ast.Div, ast.MatMult, ast.Await,
-          ast.Yield, ast.YieldFrom, ast.Global, ast.Nonlocal, ast.Delete, ast.Pow)
+BARRED = """
+register mro elements open input law version_info with_traceback add_note attrgetter breakpoint builtins
+compile copyright credits delattr dir eval exec exit gc getattr globals hasattr help id importlib license
+locals methodcaller os quit setattr super type vars sys typing enum Enum Flag Generic Protocol ABC namedtuple
+NamedTuple dataclass
+""".split()
+STATEMENTS = (
+    ast.FunctionDef,
+    ast.ClassDef,
+    ast.ImportFrom,
+    ast.Assign,
+    ast.AugAssign,
+    ast.Expr,
+    ast.If,
+    ast.For,
+    ast.While,
+    ast.Return,
+    ast.Raise,
+    ast.Break,
+    ast.Continue,
+    ast.Pass,
+)
+UNUSED = (
+    ast.GeneratorExp,
+    ast.SetComp,
+    ast.Set,
+    ast.Starred,
+    ast.NamedExpr,
+    ast.JoinedStr,
+    ast.Div,
+    ast.MatMult,
+    ast.Await,
+    ast.Yield,
+    ast.YieldFrom,
+    ast.Global,
+    ast.Nonlocal,
+    ast.Delete,
+    ast.Pow,
+)
 
 
 def parents(tree):
@@ -36,7 +70,12 @@ def called(node):
 
 def own_names():
     """The functions, classes and methods that the package defines."""
-    return {node.name for tree in TREES.values() for node in ast.walk(tree) if isinstance(node, (ast.FunctionDef, ast.ClassDef))}
+    return {
+        node.name
+        for tree in TREES.values()
+        for node in ast.walk(tree)
+        if isinstance(node, (ast.FunctionDef, ast.ClassDef))
+    }
 
 
 class Language(unittest.TestCase):
@@ -58,7 +97,9 @@ class Language(unittest.TestCase):
             self.assertLessEqual(node.end_lineno - node.lineno + 1, 40, (name, node.name))
 
     def test_words_that_are_barred(self):
-        for name, node in self.nodes(ast.Name, ast.arg, ast.Attribute, ast.FunctionDef, ast.ClassDef, ast.alias, ast.keyword):
+        for name, node in self.nodes(
+            ast.Name, ast.arg, ast.Attribute, ast.FunctionDef, ast.ClassDef, ast.alias, ast.keyword
+        ):
             words = [getattr(node, part, None) for part in ("id", "arg", "attr", "name")]
             for word in words:
                 self.assertNotIn(word, BARRED, name)
@@ -133,9 +174,13 @@ class Language(unittest.TestCase):
     def test_only_known_builtins_and_methods(self):
         own = own_names()
         for name, tree in TREES.items():
-            stored = {node.id for node in ast.walk(tree) if isinstance(node, ast.Name) and isinstance(node.ctx, ast.Store)}
+            stored = {
+                node.id for node in ast.walk(tree) if isinstance(node, ast.Name) and isinstance(node.ctx, ast.Store)
+            }
             stored |= {node.arg for node in ast.walk(tree) if isinstance(node, ast.arg)}
-            stored |= {alias.name for node in ast.walk(tree) if isinstance(node, ast.ImportFrom) for alias in node.names}
+            stored |= {
+                alias.name for node in ast.walk(tree) if isinstance(node, ast.ImportFrom) for alias in node.names
+            }
             for node in ast.walk(tree):
                 if isinstance(node, ast.Name) and node.id not in stored:
                     self.assertIn(node.id, BUILTINS | own, name)
@@ -150,7 +195,9 @@ class Language(unittest.TestCase):
                 if isinstance(part, ast.FunctionDef) and part.name.startswith("__"):
                     self.assertIn(part.name, ("__init__", "__eq__"))
         for name, node in self.nodes(ast.FunctionDef):
-            self.assertEqual((node.decorator_list, node.args.defaults, node.args.vararg, node.args.kwarg), ([], [], None, None))
+            self.assertEqual(
+                (node.decorator_list, node.args.defaults, node.args.vararg, node.args.kwarg), ([], [], None, None)
+            )
             self.assertTrue(node.name in ("__init__", "__eq__") or ast.get_docstring(node), (name, node.name))
 
     def test_is_only_with_none_and_bools(self):
@@ -172,8 +219,11 @@ class Language(unittest.TestCase):
         for name, tree in TREES.items():
             above = parents(tree)
             for node in ast.walk(tree):
-                views = isinstance(node, ast.Call) and isinstance(node.func, ast.Attribute) and node.func.attr in (
-                    "items", "keys", "values")
+                views = (
+                    isinstance(node, ast.Call)
+                    and isinstance(node.func, ast.Attribute)
+                    and node.func.attr in ("items", "keys", "values")
+                )
                 if called(node) in ITERATED or views:
                     over = above[node]
                     fits = isinstance(over, (ast.For, ast.comprehension)) and over.iter is node

@@ -49,8 +49,12 @@ class Example(Case):
 
     def test_heard_1_late(self):
         task = Task(panel_of(1), [], [FOLLOW], [])
-        for row, times, early, late in (((None,), (2,), 2, 2), ((1,), (1,), 1, 1), ((2,), (2,), 2, 2),
-                                        ((0,), (0, 1, 2, None), 0, None)):
+        for row, times, early, late in (
+            ((None,), (2,), 2, 2),
+            ((1,), (1,), 1, 1),
+            ((2,), (2,), 2, 2),
+            ((0,), (0, 1, 2, None), 0, None),
+        ):
             self.same(good(task, row), times)
             self.same(earliest(task).answer(row), early)
             self.same(latest(task).answer(row), late)
@@ -83,20 +87,38 @@ class Tasks(Case):
     def test_equality(self):
         task = Task(panel_of(1), self.cases, [FOLLOW], ["y", "x"])
         self.assertTrue(task == Task(panel_of(1), tuple(self.cases), (FOLLOW,), ("x", "y")))
-        for other in (Task(panel_of(2), self.cases, [FOLLOW], ["y", "x"]), Task(panel_of(1), self.cases, [], ["y", "x"]),
-                      Task(panel_of(1), self.cases[::-1], [FOLLOW], ["y", "x"]),
-                      Task(panel_of(1), self.cases, [FOLLOW], ["y"])):
+        for other in (
+            Task(panel_of(2), self.cases, [FOLLOW], ["y", "x"]),
+            Task(panel_of(1), self.cases, [], ["y", "x"]),
+            Task(panel_of(1), self.cases[::-1], [FOLLOW], ["y", "x"]),
+            Task(panel_of(1), self.cases, [FOLLOW], ["y"]),
+        ):
             self.assertTrue(task != other)
 
     def test_refused(self):
         panel = panel_of(1)
         for thing in (None, [], "panel", ("b",), constant(1, 2, 0)):
             self.refused(BadTask, Task, thing, None, None, None, part="panel")
-        for cases in (None, {}, [("x", (("rings", "a"),))], [("other", ())], [("x", ()), ("x", ())], [["x", ()]],
-                      [("x", ()), ("y", ()), ("z", ()), ("u", ())], [("x", (("rings", "start"),))]):
+        for cases in (
+            None,
+            {},
+            [("x", (("rings", "a"),))],
+            [("other", ())],
+            [("x", ()), ("x", ())],
+            [["x", ()]],
+            [("x", ()), ("y", ()), ("z", ()), ("u", ())],
+            [("x", (("rings", "start"),))],
+        ):
             self.refused(BadTask, Task, panel, cases, None, None, part="cases")
-        for promises in (None, {}, [NEVER] * 7, [((), ("first", ("a",), 0, 1))], [((("rings", "out"),), ("never",))], [None],
-                         [list(NEVER)]):
+        for promises in (
+            None,
+            {},
+            [NEVER] * 7,
+            [((), ("first", ("a",), 0, 1))],
+            [((("rings", "out"),), ("never",))],
+            [None],
+            [list(NEVER)],
+        ):
             self.refused(BadTask, Task, panel, self.cases, promises, None, part="promises")
         for barred in (None, {}, "x", ["z"], ["x", "x"], [1], [["x"]], ["out"], ["x", None], {"x": 1}, ("x", "y", "x")):
             self.refused(BadTask, Task, panel, self.cases, [], barred, part="barred")
@@ -134,8 +156,12 @@ class Right(Case):
             self.assertIs(is_right(task, ((None,), (0,), slip), moment), True)
 
     def test_at_the_end_of_the_longest_round(self):
-        task = Task(Panel(["b"], 8, None, 2), [("x", (("gap", "start", "out", 8), ("gap", "b", "out", 2)))],
-                    [((), ("first", ("b",), 0, 2))], [])
+        task = Task(
+            Panel(["b"], 8, None, 2),
+            [("x", (("gap", "start", "out", 8), ("gap", "b", "out", 2)))],
+            [((), ("first", ("b",), 0, 2))],
+            [],
+        )
         self.same(good(task, (8,)), (8,))
         self.assertIs(is_right(task, ((8,), (0,), 2), 8), True)
         barred = Task(task.panel, task.cases, task.promises, ["x"])
@@ -147,11 +173,14 @@ class Right(Case):
     def test_barred_letters(self):
         cases = [("x", (("rings", "out"),)), ("y", (("silent", "b"),))]
         panel = Panel(["b"], 1, None, 1)
-        for barred, right in ((["x"], lambda time, moment: moment is None),
-                              (["y"], lambda time, moment: moment is not None or time is not None),
-                              (["other"], lambda time, moment: moment is not None or time is None),
-                              (["x", "y"], lambda time, moment: moment is None and time is not None),
-                              (["other", "x", "y"], lambda time, moment: False), ([], lambda time, moment: True)):
+        for barred, right in (
+            (["x"], lambda time, moment: moment is None),
+            (["y"], lambda time, moment: moment is not None or time is not None),
+            (["other"], lambda time, moment: moment is not None or time is None),
+            (["x", "y"], lambda time, moment: moment is None and time is not None),
+            (["other", "x", "y"], lambda time, moment: False),
+            ([], lambda time, moment: True),
+        ):
             task = Task(panel, cases, [], barred)
             for environment in environments(panel):
                 for moment in times_of(1):
@@ -193,8 +222,16 @@ class Quarrels(Case):
         self.assertIs(is_quarrel(self.task, ((2,), self.told)), True)
         self.assertIs(is_quarrel(self.task, ((2,), dict(reversed(self.told.items())))), True)
         for thing in JUNK + (
-            [(2,), self.told], ((2,), self.told, 0), ((2,), list(self.told.items())), ([2], self.told), ((3,), self.told),
-            ((2, 2), self.told), (2, self.told), (None, self.told), ((2,), {}), ((2,), {**self.told, 3: ((0,), (2,), 0)}),
+            [(2,), self.told],
+            ((2,), self.told, 0),
+            ((2,), list(self.told.items())),
+            ([2], self.told),
+            ((3,), self.told),
+            ((2, 2), self.told),
+            (2, self.told),
+            (None, self.told),
+            ((2,), {}),
+            ((2,), {**self.told, 3: ((0,), (2,), 0)}),
             ((2,), {time: self.told[time] for time in (0, 1, 2)}),
             ((2,), {0: self.told[0], True: self.told[1], 2: self.told[2], None: self.told[None]}),
             ((2,), {False: self.told[0], 1: self.told[1], 2: self.told[2], None: self.told[None]}),
@@ -202,12 +239,17 @@ class Quarrels(Case):
             # right there after all
             ((2,), {**self.told, 1: ((0,), (2,), 0)}),
             # arrivals that look different until the time
-            ((2,), {**self.told, None: ((1,), (2,), 0)}), ((2,), {**self.told, 2: ((2,), (2,), 0)}),
+            ((2,), {**self.told, None: ((1,), (2,), 0)}),
+            ((2,), {**self.told, 2: ((2,), (2,), 0)}),
             ((0,), self.told),
             # no environments
-            ((2,), {**self.told, 0: ((1,), (1,), 0)}), ((2,), {**self.told, 0: ((1,), (2,), 1)}),
-            ((2,), {**self.told, 0: [(1,), (2,), 0]}), ((2,), {**self.told, 0: ((True,), (2,), 0)}),
-            ((2,), {**self.told, 0: ((1,), (2,), False)}), ((2,), {**self.told, 0: None}), ((2,), {**self.told, 0: 0}),
+            ((2,), {**self.told, 0: ((1,), (1,), 0)}),
+            ((2,), {**self.told, 0: ((1,), (2,), 1)}),
+            ((2,), {**self.told, 0: [(1,), (2,), 0]}),
+            ((2,), {**self.told, 0: ((True,), (2,), 0)}),
+            ((2,), {**self.told, 0: ((1,), (2,), False)}),
+            ((2,), {**self.told, 0: None}),
+            ((2,), {**self.told, 0: 0}),
         ):
             self.assertIs(is_quarrel(self.task, thing), False, thing)
         self.assertIs(is_quarrel(Task(panel_of(1), [], [FOLLOW], []), ((2,), self.told)), False)
@@ -266,16 +308,24 @@ class Tightest(Case):
         self.same(tightest(Task(panel_of(0, slip=2), [], [], []), (), "last", ("start",)), [(0, 2)])
         self.same(tightest(Task(panel_of(2), [], [FOLLOW], []), (), "first", ("b",)), [])
         self.same(tightest(Task(panel_of(0), [], [NEVER], []), (), "first", ("b",)), [])
-        self.same(tightest(Task(panel_of(0), [], [NEVER], []), (("rings", "b"), ("silent", "b")), "first", ("b",)),
-                  [(-2, -2), (-1, -1), (0, 0), (1, 1), (2, 2)])
+        self.same(
+            tightest(Task(panel_of(0), [], [NEVER], []), (("rings", "b"), ("silent", "b")), "first", ("b",)),
+            [(-2, -2), (-1, -1), (0, 0), (1, 1), (2, 2)],
+        )
 
     def test_refused(self):
         task, full = Task(panel_of(1), [], [FOLLOW], []), Task(panel_of(1), [], [FOLLOW] * 6, [])
         for one in (task, full):
-            for condition in junk_but(()) + [(("rings", "a"),), (("rings", "out"),), (("rings", "b"),) * 5, [("rings", "b")]]:
+            for condition in junk_but(()) + [
+                (("rings", "a"),),
+                (("rings", "out"),),
+                (("rings", "b"),) * 5,
+                [("rings", "b")],
+            ]:
                 self.refused(BadCondition, tightest, one, condition, None, None, name=None)
             for which in JUNK + ("never", "start", ("first",), ["last"]):
                 self.refused(BadWindow, tightest, one, (), which, None)
+                self.refused(BadWindow, tightest, one, (), which, ("b",))
             for names in JUNK + (("a",), ["b"], ("b", "b"), ("start", "b"), ("out",), "b"):
                 self.refused(BadWindow, tightest, one, (), "first", names)
         self.refused(BadPromises, tightest, full, (), "first", ("b",), at=None)
@@ -295,8 +345,10 @@ class Latest(Case):
 
     def test_waits_only_where_all_that_look_alike_can(self):
         """The output never rings if b rings at 1, and rings by 1 if b is silent: at 0 nobody knows which."""
-        promises = [((("gap", "start", "b", 1), ("gap", "b", "start", -1)), ("never",)),
-                    ((("silent", "b"),), ("first", ("start",), 0, 1))]
+        promises = [
+            ((("gap", "start", "b", 1), ("gap", "b", "start", -1)), ("never",)),
+            ((("silent", "b"),), ("first", ("start",), 0, 1)),
+        ]
         task = Task(Panel(["b"], 1, None, 0), [], promises, [])
         self.same([good(task, row) for row in rows(1, 1)], [(0, 1, None), (None,), (1,)])
         self.same([latest(task).answer(row) for row in rows(1, 1)], [None, None, 1])

@@ -36,8 +36,13 @@ def wishes(inputs, few):
     lists += [[QUIET], [LOUD], [QUIET, LOUD], [((), ("never",))], [((), ("latest", ("start",), 1, 1))]]
     lists += [[((("gap", "start", "a", 1),), ("first", ("start",), 0, 0)), QUIET]]
     if len(inputs) == 2:
-        lists = [[], [QUIET], [((), ("last", ("a", "b"), 0, 1))], [((), ("latest", ("a", "b"), 0, 0))],
-                 [((("gap", "a", "b", 1),), ("never",)), ((("silent", "b"),), ("first", ("a",), 0, 1))]]
+        lists = [
+            [],
+            [QUIET],
+            [((), ("last", ("a", "b"), 0, 1))],
+            [((), ("latest", ("a", "b"), 0, 0))],
+            [((("gap", "a", "b", 1),), ("never",)), ((("silent", "b"),), ("first", ("a",), 0, 1))],
+        ]
     barred = [[], ["x"], ["y"], ["other"], ["x", "y"]]
     every = list(itertools.product(lists, barred))
     return every[::few]
@@ -55,7 +60,9 @@ class Facts(Case):
             right = {}
             for environment in every:
                 right[environment] = {time for time in times_of(panel.length) if self.allows(task, environment, time)}
-            wanted = [all(table[arrivals[environment]] in right[environment] for environment in every) for table in answers]
+            wanted = [
+                all(table[arrivals[environment]] in right[environment] for environment in every) for table in answers
+            ]
             yield task, every, arrivals, right, wanted
 
     def allows(self, task, environment, time):
@@ -98,9 +105,13 @@ class Facts(Case):
 
     def good_ones(self, row, length, every, arrivals, right):
         return tuple(
-            time for time in times_of(length)
-            if all(time in right[environment] for environment in every
-                   if seen_until(arrivals[environment], time) == seen_until(row, time))
+            time
+            for time in times_of(length)
+            if all(
+                time in right[environment]
+                for environment in every
+                if seen_until(arrivals[environment], time) == seen_until(row, time)
+            )
         )
 
     def judge_tables(self, task, tables, wanted, goods):
@@ -124,9 +135,14 @@ class Facts(Case):
             self.same(had(task, row), tuple(had_there))
             self.same(had(task, row), tuple(time for time in times if late(time) <= late(last.answer(row))))
             # The answer of the latest: the first good time at which a row that looks alike has its last one.
-            ends = [time for time in times
-                    if any(seen_until(other, time) == seen_until(row, time) and late(more[-1]) <= late(time)
-                           for other, more in goods.items())]
+            ends = [
+                time
+                for time in times
+                if any(
+                    seen_until(other, time) == seen_until(row, time) and late(more[-1]) <= late(time)
+                    for other, more in goods.items()
+                )
+            ]
             self.same(last.answer(row), ends[0])
         for table in kept[:: 1 + len(kept) // 20]:
             self.assertTrue(sooner(first, table) == first)
@@ -174,8 +190,11 @@ class Facts(Case):
                 for promises, barred in wishes(["a"], 9):
                     task = Task(panel, CASES, promises, barred)
                     kept = [table for table in tables if keeps(task, table)]
-                    for condition, which, names in (((), "first", ("a",)), ((("rings", "a"),), "last", ("start",)),
-                                                    ((("silent", "a"),), "latest", ("a",))):
+                    for condition, which, names in (
+                        ((), "first", ("a",)),
+                        ((("rings", "a"),), "last", ("start",)),
+                        ((("silent", "a"),), "latest", ("a",)),
+                    ):
                         self.judge_tightest(task, kept, condition, which, names)
 
     def judge_tightest(self, task, kept, condition, which, names):
@@ -186,8 +205,15 @@ class Facts(Case):
             alone = Task(task.panel, [], [more], [])
             does[(low, high)] = any(keeps(alone, table) for table in kept)
             self.assertIs(on_top(task, more), does[(low, high)])
-        wanted = [(low, high) for low, high in does if does[(low, high)] and not any(
-            does[(least, most)] and low <= least <= most <= high and (least, most) != (low, high) for least, most in does)]
+        wanted = [
+            (low, high)
+            for low, high in does
+            if does[(low, high)]
+            and not any(
+                does[(least, most)] and low <= least <= most <= high and (least, most) != (low, high)
+                for least, most in does
+            )
+        ]
         self.same(tightest(task, condition, which, names), sorted(wanted))
 
     def test_two_inputs_tightest(self):

@@ -10,28 +10,76 @@ from roundpromises.rows import rows
 from roundpromises.terms import holds
 from tests.helpers import Case, junk_but, times_of
 
-BAD_INPUTS = (None, (), ["a"], "a", ("b", "a"), ("a", "a"), ("a", "b", "c", "d"), ("out",), ("A",), (1,), ({},),
-              ("start",), ("a", None), {"a": 1}, ("other",), True)
+BAD_INPUTS = (
+    None,
+    (),
+    ["a"],
+    "a",
+    ("b", "a"),
+    ("a", "a"),
+    ("a", "b", "c", "d"),
+    ("out",),
+    ("A",),
+    (1,),
+    ({},),
+    ("start",),
+    ("a", None),
+    {"a": 1},
+    ("other",),
+    True,
+)
 NEVER = ((), ("never",))
-BAD_PROMISES = (None, (), [(), ("never",)], ((),), ((), ("never",), ()), ([], ("never",)), ((), ["never"]),
-                ((), "never"), ((), ()), ((), ("never", 1)), ((), ("first", ("a",), 0)), ((), ("first", ["a"], 0, 1)),
-                ((), ("first", (), 0, 1)), ((), ("first", ("b", "a"), 0, 1)), ((), ("first", ("a", "a"), 0, 1)),
-                ((), ("first", ("c",), 0, 1)), ((), ("first", ("a", "start"), 0, 1)), ((), ("first", ("out",), 0, 1)),
-                ((), ("first", "a", 0, 1)), ((), ("first", ("a",), 1, 0)), ((), ("first", ("a",), -9, 0)),
-                ((), ("first", ("a",), 0, 9)), ((), ("first", ("a",), True, 1)), ((), ("first", ("a",), 0, True)),
-                ((), ("first", ("a",), None, 1)), ((), ("middle", ("a",), 0, 1)), ((), (["first"], ("a",), 0, 1)),
-                ((("rings", "out"),), ("never",)), ((("rings", "c"),), ("never",)), ((("gap", "a", "out", 0),), ("never",)),
-                ((("rings", "a"),) * 5, ("never",)), ((), ("first", (1,), 0, 1)), ((), ("first", (["a"],), 0, 1)),
-                ((), ("first", ("a",), 0, 1, 1)), ((), ["first", ("a",), 0, 1]))
+BAD_PROMISES = (
+    None,
+    (),
+    [(), ("never",)],
+    ((),),
+    ((), ("never",), ()),
+    ([], ("never",)),
+    ((), ["never"]),
+    ((), "never"),
+    ((), ()),
+    ((), ("never", 1)),
+    ((), ("first", ("a",), 0)),
+    ((), ("first", ["a"], 0, 1)),
+    ((), ("first", (), 0, 1)),
+    ((), ("first", ("b", "a"), 0, 1)),
+    ((), ("first", ("a", "a"), 0, 1)),
+    ((), ("first", ("c",), 0, 1)),
+    ((), ("first", ("a", "start"), 0, 1)),
+    ((), ("first", ("out",), 0, 1)),
+    ((), ("first", "a", 0, 1)),
+    ((), ("first", ("a",), 1, 0)),
+    ((), ("first", ("a",), -9, 0)),
+    ((), ("first", ("a",), 0, 9)),
+    ((), ("first", ("a",), True, 1)),
+    ((), ("first", ("a",), 0, True)),
+    ((), ("first", ("a",), None, 1)),
+    ((), ("middle", ("a",), 0, 1)),
+    ((), (["first"], ("a",), 0, 1)),
+    ((("rings", "out"),), ("never",)),
+    ((("rings", "c"),), ("never",)),
+    ((("gap", "a", "out", 0),), ("never",)),
+    ((("rings", "a"),) * 5, ("never",)),
+    ((), ("first", (1,), 0, 1)),
+    ((), ("first", (["a"],), 0, 1)),
+    ((), ("first", ("a",), 0, 1, 1)),
+    ((), ["first", ("a",), 0, 1]),
+)
 
 
 class Promises(Case):
     def test_is_promise(self):
         inputs = ("a", "b")
-        for thing in (NEVER, ((), ("first", ("a",), -8, 8)), ((), ("last", ("a", "b"), 0, 0)),
-                      ((), ("latest", ("b",), 8, 8)), ((), ("first", ("start",), -8, -8)),
-                      ((("gap", "start", "a", 1), ("silent", "b")), ("never",)),
-                      ((("gap", "a", "start", -1), ("rings", "b"), ("silent", "b"), ("rings", "a")), ("never",))):
+        for thing in (
+            NEVER,
+            ((), ("first", ("a",), -8, 8)),
+            ((), ("last", ("a", "b"), 0, 0)),
+            ((), ("latest", ("b",), 8, 8)),
+            ((), ("first", ("start",), -8, -8)),
+            ((("gap", "start", "a", 1), ("silent", "b")), ("never",)),
+            ((("gap", "a", "start", -1), ("rings", "b"), ("silent", "b"), ("rings", "a")), ("never",)),
+        ):
             self.assertIs(is_promise(thing, inputs), True, thing)
         for thing in BAD_PROMISES + tuple(junk_but()):
             self.assertIs(is_promise(thing, inputs), False, thing)
@@ -99,11 +147,13 @@ class Promises(Case):
             self.same(allowed(promises, inputs, row), wanted)
 
     def test_bad_promises(self):
-        for function in (lambda promises: allowed(promises, ("a", "b"), "no row"),
-                         lambda promises: is_stronger(promises, "none", ("a", "b"), 0),
-                         lambda promises: is_stronger([], promises, ("a", "b"), 0),
-                         lambda promises: parting_row(promises, "none", ("a", "b"), 0),
-                         lambda promises: parting_row([], promises, ("a", "b"), 0)):
+        for function in (
+            lambda promises: allowed(promises, ("a", "b"), "no row"),
+            lambda promises: is_stronger(promises, "none", ("a", "b"), 0),
+            lambda promises: is_stronger([], promises, ("a", "b"), 0),
+            lambda promises: parting_row(promises, "none", ("a", "b"), 0),
+            lambda promises: parting_row([], promises, ("a", "b"), 0),
+        ):
             for promises in (None, {}, "ab", 3, [NEVER] * 7, (NEVER,) * 7, {NEVER}, [None] * 7):
                 self.refused(BadPromises, function, promises, at=None)
             for at in range(6):
@@ -127,10 +177,18 @@ class Promises(Case):
         self.same(parting_row([NEVER], [((("silent", "a"),), ("first", ("start",), 0, 3))], ("a",), 2), (None,))
         self.assertIs(is_stronger([NEVER, narrow], [], ("a",), 1), True)
         # What can only ring behind the last number, length + 2, makes no difference.
-        self.assertIs(is_stronger([((), ("first", ("start",), 0, 8))], [((), ("first", ("start",), 0, 4))], ("a",), 2), True)
-        self.assertIs(is_stronger([((), ("first", ("start",), 0, 8))], [((), ("first", ("start",), 0, 3))], ("a",), 2), False)
-        self.assertIs(is_stronger([((), ("first", ("start",), 5, 8))], [((), ("first", ("start",), 0, 0))], ("a",), 2), True)
-        self.assertIs(is_stronger([((), ("first", ("start",), 4, 8))], [((), ("first", ("start",), 0, 0))], ("a",), 2), False)
+        self.assertIs(
+            is_stronger([((), ("first", ("start",), 0, 8))], [((), ("first", ("start",), 0, 4))], ("a",), 2), True
+        )
+        self.assertIs(
+            is_stronger([((), ("first", ("start",), 0, 8))], [((), ("first", ("start",), 0, 3))], ("a",), 2), False
+        )
+        self.assertIs(
+            is_stronger([((), ("first", ("start",), 5, 8))], [((), ("first", ("start",), 0, 0))], ("a",), 2), True
+        )
+        self.assertIs(
+            is_stronger([((), ("first", ("start",), 4, 8))], [((), ("first", ("start",), 0, 0))], ("a",), 2), False
+        )
 
     def test_against_all_numbers(self):
         """The numbers that are allowed have no gap; lists are compared number by number."""
@@ -138,7 +196,8 @@ class Promises(Case):
         inputs = ("a", "b")
         windows = [("never",)] + [
             (which, names, low, high)
-            for which in ("first", "last", "latest") for names in (("a",), ("b",), ("a", "b"), ("start",))
+            for which in ("first", "last", "latest")
+            for names in (("a",), ("b",), ("a", "b"), ("start",))
             for low, high in ((-8, -2), (-2, 1), (0, 0), (0, 2), (1, 8))
         ]
         conditions = [(), (("rings", "a"),), (("silent", "b"),), (("gap", "a", "b", 1),), (("gap", "start", "a", 1),)]
@@ -180,8 +239,10 @@ class Promises(Case):
     def test_one_input_in_full(self):
         for time in times_of(8):
             for low, high in ((-8, -8), (-3, 2), (8, 8)):
-                self.same(asked(((), ("first", ("a",), low, high)), ("a",), (time,)),
-                          None if time is None else (time + low, time + high))
+                self.same(
+                    asked(((), ("first", ("a",), low, high)), ("a",), (time,)),
+                    None if time is None else (time + low, time + high),
+                )
 
 
 if __name__ == "__main__":

@@ -21,8 +21,20 @@ class Rows(Case):
         for length in range(1, 9):
             for row in ((0,), (length,), (None,), (0, None, length), (None, None, None), (length, 0)):
                 self.assertIs(is_row(row, length), True)
-            for thing in ((length + 1,), (-1,), (), (0, 0, 0, 0), [0], (True,), (False, 0), ("0",), ((0,),), ([],),
-                          (0, None, length + 1), {0: 1}):
+            for thing in (
+                (length + 1,),
+                (-1,),
+                (),
+                (0, 0, 0, 0),
+                [0],
+                (True,),
+                (False, 0),
+                ("0",),
+                ((0,),),
+                ([],),
+                (0, None, length + 1),
+                {0: 1},
+            ):
                 self.assertIs(is_row(thing, length), False, thing)
         for thing in junk_but((1,)):
             self.assertIs(is_row(thing, 1), False, thing)
@@ -34,7 +46,9 @@ class Rows(Case):
 
     def test_rows_are_all_and_ascend(self):
         self.same(rows(1, 1), [(0,), (1,), (None,)])
-        self.same(rows(2, 1), [(0, 0), (0, 1), (0, None), (1, 0), (1, 1), (1, None), (None, 0), (None, 1), (None, None)])
+        self.same(
+            rows(2, 1), [(0, 0), (0, 1), (0, None), (1, 0), (1, 1), (1, None), (None, 0), (None, 1), (None, None)]
+        )
         for size, length in itertools.product((1, 2, 3), range(1, 9)):
             found = rows(size, length)
             self.assertEqual(len(found), (length + 2) ** size)

@@ -42,8 +42,11 @@ def readings(one, other, at):
     for time in times:
         origins = [origin for origin in times if time in heard(one, at, origin)]
         if origins:
-            told[time] = [believed for believed in times if late(believed) >= late(time)
-                          and all(believed in heard(other, at, origin) for origin in origins)]
+            told[time] = [
+                believed
+                for believed in times
+                if late(believed) >= late(time) and all(believed in heard(other, at, origin) for origin in origins)
+            ]
     return told
 
 
@@ -69,11 +72,26 @@ class ByHand(Case):
         self.assertIs(is_translator(one, other, {"b": told}), True)
         self.assertIs(is_translator(one, other, {"b": dict(reversed(told.items()))}), True)
         for thing in JUNK + (
-            {}, {"b": {}}, {"b": list(told.items())}, {"a": told}, {"b": told, "a": told}, {"b": {**told, 0: 2}},
-            {"b": {**told, 0: None}}, {"b": {**told, 2: 2}}, {"b": {**told, 0: True}}, {"b": {**told, 0: 0}},
-            {"b": {**told, 0: "1"}}, {"b": {**told, 0: [1]}}, {"b": {**told, 3: None}}, {"b": {0: 1, 1: 2, 2: None}},
-            {"b": {0: 1, True: 2, 2: None, None: None}}, {"b": {False: 1, 1: 2, 2: None, None: None}},
-            {"b": {**told, None: 2}}, {"b": {"x": 1, 1: 2, 2: None, None: None}}, [("b", told)], {1: told},
+            {},
+            {"b": {}},
+            {"b": list(told.items())},
+            {"a": told},
+            {"b": told, "a": told},
+            {"b": {**told, 0: 2}},
+            {"b": {**told, 0: None}},
+            {"b": {**told, 2: 2}},
+            {"b": {**told, 0: True}},
+            {"b": {**told, 0: 0}},
+            {"b": {**told, 0: "1"}},
+            {"b": {**told, 0: [1]}},
+            {"b": {**told, 3: None}},
+            {"b": {0: 1, 1: 2, 2: None}},
+            {"b": {0: 1, True: 2, 2: None, None: None}},
+            {"b": {False: 1, 1: 2, 2: None, None: None}},
+            {"b": {**told, None: 2}},
+            {"b": {"x": 1, 1: 2, 2: None, None: None}},
+            [("b", told)],
+            {1: told},
         ):
             self.assertIs(is_translator(one, other, thing), False, thing)
         self.assertIs(is_translator(one.with_slip(1), other, {"b": told}), False)
@@ -89,8 +107,11 @@ class ByHand(Case):
                 for keys in itertools.combinations(times_of(1), many):
                     for believed in itertools.product(times_of(1), repeat=many):
                         chosen = dict(zip(keys, believed))
-                        wanted = (one.slip <= other.slip and set(chosen) == set(told)
-                                  and all(time in told[key] for key, time in chosen.items()))
+                        wanted = (
+                            one.slip <= other.slip
+                            and set(chosen) == set(told)
+                            and all(time in told[key] for key, time in chosen.items())
+                        )
                         self.assertIs(is_translator(one, other, {"b": chosen}), wanted)
                         found += wanted
             self.assertIs(serves(one, other), found > 0)
@@ -110,9 +131,14 @@ class ByHand(Case):
     def test_partings_by_hand(self):
         self.same(parting_promises(one_input(0, 0), one_input(0, 1)), None)
         self.same(parting_promises(one_input(0, 0), one_input(0, 1, slip=2)), None)
-        for one, other in ((one_input(1, 1), one_input(0, 0)), (one_input(0, 0, slip=1), one_input(0, 0)),
-                           (one_input(3, 3), one_input(2, 2)), (one_input(0, 1), one_input(1, 1)),
-                           (one_input(0, 2, 0, 6), one_input(1, 2, 2, 6)), (one_input(7, 7, 0, 6), one_input(6, 6, 2, 6))):
+        for one, other in (
+            (one_input(1, 1), one_input(0, 0)),
+            (one_input(0, 0, slip=1), one_input(0, 0)),
+            (one_input(3, 3), one_input(2, 2)),
+            (one_input(0, 1), one_input(1, 1)),
+            (one_input(0, 2, 0, 6), one_input(1, 2, 2, 6)),
+            (one_input(7, 7, 0, 6), one_input(6, 6, 2, 6)),
+        ):
             found = parting_promises(one, other)
             self.assertLessEqual(len(found), 2)
             self.assertTrue(all(is_promise(promise, one.inputs) for promise in found))
@@ -139,8 +165,15 @@ class ByHand(Case):
 
     def test_refused(self):
         panel = one_input(0, 1)
-        calls = (serves, are_even, translator, parting_promises, lambda one, other: is_translator(one, other, None),
-                 lambda one, other: is_parting(one, other, None), lambda one, other: translated(one, other, None, None))
+        calls = (
+            serves,
+            are_even,
+            translator,
+            parting_promises,
+            lambda one, other: is_translator(one, other, None),
+            lambda one, other: is_parting(one, other, None),
+            lambda one, other: translated(one, other, None, None),
+        )
         for call in calls:
             for thing in (None, [], "panel", 3, constant(1, 2, 0)):
                 self.refused(BadPanel, call, thing, None, part=None)
@@ -149,7 +182,9 @@ class ByHand(Case):
                 self.refused(OtherPanels, call, panel, other)
         for thing in JUNK + ({"b": {}},):
             self.refused(BadTranslator, translated, panel, panel, thing, None)
-        self.refused(BadTranslator, translated, one_input(0, 0, slip=1), one_input(0, 0), translator(panel, panel), None)
+        self.refused(
+            BadTranslator, translated, one_input(0, 0, slip=1), one_input(0, 0), translator(panel, panel), None
+        )
         told = translator(panel, panel)
         for thing in JUNK:
             self.refused(BadTable, translated, panel, panel, told, thing, part=None)
@@ -165,6 +200,7 @@ class ByHand(Case):
         self.assertIs(is_parting(most, most, [NEVER]), False)
         self.refused(TooMany, is_parting, most, most.with_slip(2), None, most=2000)
         self.refused(TooMany, is_parting, most.with_slip(2), most, [NEVER], most=2000)
+        self.refused(TooMany, is_parting, most.with_slip(2), most, None, most=2000)
         self.refused(OtherPanels, is_parting, most.with_slip(2), one_input(0, 0), None)
         self.assertIs(is_parting(most, most.with_slip(0), [((), ("first", ("start",), 0, 0))]), True)
 
@@ -180,8 +216,12 @@ class ByHand(Case):
 
 def deeds(panel, table):
     """What can come about with a Table: all pairs of a true row and when the output rings, as bits."""
-    every = {pair: at for at, pair in enumerate(itertools.product(
-        rows(len(panel.inputs), panel.length), list(range(panel.length + 3)) + [None]))}
+    every = {
+        pair: at
+        for at, pair in enumerate(
+            itertools.product(rows(len(panel.inputs), panel.length), list(range(panel.length + 3)) + [None])
+        )
+    }
     bits = 0
     for environment in environments(panel):
         bits |= 1 << every[(environment[0], rung(panel, table, environment))]
@@ -236,7 +276,8 @@ class InFull(Case):
             if serves(one, other):
                 told = translator(one, other)
                 for promises, barred in itertools.product(
-                        ([], [((), ("first", ("b",), 0, 2))], [((("silent", "b"),), ("never",))]), ([], ["x"], ["other"])):
+                    ([], [((), ("first", ("b",), 0, 2))], [((("silent", "b"),), ("never",))]), ([], ["x"], ["other"])
+                ):
                     theirs, mine = Task(other, cases, promises, barred), Task(one, cases, promises, barred)
                     for table in tables[::5]:
                         if keeps(theirs, table):
@@ -246,7 +287,9 @@ class InFull(Case):
         """Serving is transitive; each panel serves for itself, and for itself with wider pairs or a greater slip."""
         for length in (1, 2, 3):
             every = panels(["b"], length, slips=(0, 2))
-            told = {(a, b): serves(one, other) for (a, one), (b, other) in itertools.product(enumerate(every), repeat=2)}
+            told = {
+                (a, b): serves(one, other) for (a, one), (b, other) in itertools.product(enumerate(every), repeat=2)
+            }
             for a, one in enumerate(every):
                 self.assertIs(told[(a, a)], True)
                 self.assertIs(are_even(one, one), True)
@@ -273,8 +316,11 @@ class InFull(Case):
                     self.assertIs(is_parting(one.with_slip(0), other.with_slip(2), found), True)
 
     def test_no_parting_where_one_serves(self):
-        pool = [NEVER] + [(condition, window) for condition in ((), (("rings", "b"),), (("silent", "b"),))
-                          for window in (("never",), ("first", ("b",), 0, 1), ("first", ("b",), 1, 1), ("first", ("start",), 0, 1))]
+        pool = [NEVER] + [
+            (condition, window)
+            for condition in ((), (("rings", "b"),), (("silent", "b"),))
+            for window in (("never",), ("first", ("b",), 0, 1), ("first", ("b",), 1, 1), ("first", ("start",), 0, 1))
+        ]
         lists = [[], *([promise] for promise in pool), *([a, b] for a, b in itertools.combinations(pool, 2))]
         for one, other in itertools.product(panels(["b"], 1, slips=(0, 1)), repeat=2):
             if serves(one, other):
@@ -282,7 +328,10 @@ class InFull(Case):
                     self.assertIs(is_parting(one, other, promises), False)
             else:
                 for promises in lists[::9]:
-                    wanted = earliest(Task(other, [], promises, [])) is not None and earliest(Task(one, [], promises, [])) is None
+                    wanted = (
+                        earliest(Task(other, [], promises, [])) is not None
+                        and earliest(Task(one, [], promises, [])) is None
+                    )
                     self.assertIs(is_parting(one, other, promises), wanted)
 
     def test_arrivals_agree_with_what_may_be_heard(self):

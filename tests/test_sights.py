@@ -15,11 +15,28 @@ from roundpromises.rows import rows, until
 from roundpromises.sights import Panel, arrivals_of, environments, is_environment, look_alike, many_environments
 from tests.helpers import JUNK, Case, late, pairs_of_delays, times_of
 
-BAD_SIGHTS = ({}, [], (), 3, "ab", True, {"a": (0, 0)}, {"a": (0, 0), "b": (0, 0), "c": (0, 0)},
-              {"a": (0, 0), "c": (0, 0)}, {"a": [0, 0], "b": (0, 0)}, {"a": (0, 5), "b": (0, 0)},
-              {"a": (1, 0), "b": (0, 0)}, {"a": (-1, 0), "b": (0, 0)}, {"a": (0, True), "b": (0, 0)},
-              {"a": (False, 0), "b": (0, 0)}, {"a": (0,), "b": (0, 0)}, {"a": (0, 0, 0), "b": (0, 0)},
-              {"a": None, "b": (0, 0)}, {"a": (0, None), "b": (0, 0)}, {1: (0, 0), "b": (0, 0)})
+BAD_SIGHTS = (
+    {},
+    [],
+    (),
+    3,
+    "ab",
+    True,
+    {"a": (0, 0)},
+    {"a": (0, 0), "b": (0, 0), "c": (0, 0)},
+    {"a": (0, 0), "c": (0, 0)},
+    {"a": [0, 0], "b": (0, 0)},
+    {"a": (0, 5), "b": (0, 0)},
+    {"a": (1, 0), "b": (0, 0)},
+    {"a": (-1, 0), "b": (0, 0)},
+    {"a": (0, True), "b": (0, 0)},
+    {"a": (False, 0), "b": (0, 0)},
+    {"a": (0,), "b": (0, 0)},
+    {"a": (0, 0, 0), "b": (0, 0)},
+    {"a": None, "b": (0, 0)},
+    {"a": (0, None), "b": (0, 0)},
+    {1: (0, 0), "b": (0, 0)},
+)
 
 
 class Panels(Case):
@@ -31,8 +48,23 @@ class Panels(Case):
         self.same(Panel(["a"], 1, {"a": (2, 2)}, 0).delays, ((2, 2),))
 
     def test_refused(self):
-        for inputs in (None, [], (), "ab", ["a", "a"], ["a", "b", "c", "d"], ["out"], ["A"], [1], [["a"]], {"a": 1}, [None],
-                       ["start"], ["other"], True):
+        for inputs in (
+            None,
+            [],
+            (),
+            "ab",
+            ["a", "a"],
+            ["a", "b", "c", "d"],
+            ["out"],
+            ["A"],
+            [1],
+            [["a"]],
+            {"a": 1},
+            [None],
+            ["start"],
+            ["other"],
+            True,
+        ):
             self.refused(BadPanel, Panel, inputs, 0, 3, 3, part="inputs")
         for length in (0, 9, None, True, "3", [3], -1):
             self.refused(BadPanel, Panel, ["b", "a"], length, {}, 3, part="length")
@@ -47,10 +79,13 @@ class Panels(Case):
         panel = Panel(["a", "b"], 3, {"a": (0, 1), "b": (2, 4)}, 1)
         self.assertTrue(panel == Panel(("b", "a"), 3, {"b": (2, 4), "a": (0, 1)}, 1))
         self.assertFalse(panel != Panel(("b", "a"), 3, {"b": (2, 4), "a": (0, 1)}, 1))
-        for other in (Panel(["a", "c"], 3, {"a": (0, 1), "c": (2, 4)}, 1),
-                      Panel(["a", "b"], 4, {"a": (0, 1), "b": (2, 4)}, 1),
-                      Panel(["a", "b"], 3, {"a": (0, 2), "b": (2, 4)}, 1),
-                      Panel(["a", "b"], 3, {"a": (0, 1), "b": (2, 4)}, 2), Panel(["a"], 3, {"a": (0, 1)}, 1)):
+        for other in (
+            Panel(["a", "c"], 3, {"a": (0, 1), "c": (2, 4)}, 1),
+            Panel(["a", "b"], 4, {"a": (0, 1), "b": (2, 4)}, 1),
+            Panel(["a", "b"], 3, {"a": (0, 2), "b": (2, 4)}, 1),
+            Panel(["a", "b"], 3, {"a": (0, 1), "b": (2, 4)}, 2),
+            Panel(["a"], 3, {"a": (0, 1)}, 1),
+        ):
             self.assertTrue(panel != other)
             self.assertFalse(panel == other)
         self.assertTrue(Panel(["a"], 2, None, 0) == Panel(["a"], 2, {"a": (0, 0)}, 0))
@@ -58,7 +93,9 @@ class Panels(Case):
     def test_with_sight_and_slip(self):
         panel = Panel(["a", "b"], 3, {"a": (0, 1), "b": (2, 4)}, 1)
         self.assertTrue(panel.with_sight(None) == Panel(["a", "b"], 3, None, 1))
-        self.assertTrue(panel.with_sight({"b": (1, 1), "a": (4, 4)}) == Panel(["a", "b"], 3, {"a": (4, 4), "b": (1, 1)}, 1))
+        self.assertTrue(
+            panel.with_sight({"b": (1, 1), "a": (4, 4)}) == Panel(["a", "b"], 3, {"a": (4, 4), "b": (1, 1)}, 1)
+        )
         self.assertTrue(panel.with_slip(2) == Panel(["a", "b"], 3, {"a": (0, 1), "b": (2, 4)}, 2))
         self.same((panel.delays, panel.slip), (((0, 1), (2, 4)), 1))
 
@@ -77,18 +114,35 @@ class Environments(Case):
         for thing in (((0, None), (0, 4), 0), ((3, 3), (1, 2), 1), ((None, None), (0, 2), 0)):
             self.assertIs(is_environment(panel, thing), True)
         for thing in JUNK + (
-            ((0, 4), (0, 4), 0), ((0,), (0, 4), 0), ((0, 0, 0), (0, 4), 0), ([0, 0], (0, 4), 0), ((True, 0), (0, 4), 0),
-            ((0, 0), (2, 4), 0), ((0, 0), (0, 1), 0), ((0, 0), (0, 5), 0), ((0, 0), (0,), 0), ((0, 0), (0, 4, 0), 0),
-            ((0, 0), [0, 4], 0), ((0, 0), (True, 4), 0), ((0, 0), (None, 4), 0), ((0, 0), (0, 4), 2),
-            ((0, 0), (0, 4), -1), ((0, 0), (0, 4), True), ((0, 0), (0, 4), None), ((0, 0), (0, 4)),
-            ((0, 0), (0, 4), 0, 0), [(0, 0), (0, 4), 0],
+            ((0, 4), (0, 4), 0),
+            ((0,), (0, 4), 0),
+            ((0, 0, 0), (0, 4), 0),
+            ([0, 0], (0, 4), 0),
+            ((True, 0), (0, 4), 0),
+            ((0, 0), (2, 4), 0),
+            ((0, 0), (0, 1), 0),
+            ((0, 0), (0, 5), 0),
+            ((0, 0), (0,), 0),
+            ((0, 0), (0, 4, 0), 0),
+            ((0, 0), [0, 4], 0),
+            ((0, 0), (True, 4), 0),
+            ((0, 0), (None, 4), 0),
+            ((0, 0), (0, 4), 2),
+            ((0, 0), (0, 4), -1),
+            ((0, 0), (0, 4), True),
+            ((0, 0), (0, 4), None),
+            ((0, 0), (0, 4)),
+            ((0, 0), (0, 4), 0, 0),
+            [(0, 0), (0, 4), 0],
         ):
             self.assertIs(is_environment(panel, thing), False, thing)
 
     def test_arrivals(self):
         panel = Panel(["a", "b"], 3, {"a": (0, 4), "b": (0, 4)}, 2)
         for row, delays in itertools.product(rows(2, 3), itertools.product(range(5), repeat=2)):
-            wanted = tuple(None if time is None or time + delay > 3 else time + delay for time, delay in zip(row, delays))
+            wanted = tuple(
+                None if time is None or time + delay > 3 else time + delay for time, delay in zip(row, delays)
+            )
             self.same(arrivals_of(panel, (row, delays, 2)), wanted)
         self.same(arrivals_of(panel, ((0, 3), (3, 0), 0)), (3, 3))
         self.same(arrivals_of(panel, ((0, 3), (4, 1), 0)), (None, None))
@@ -109,11 +163,23 @@ class Environments(Case):
                 self.assertEqual(len(found), many)
 
     def test_ascending_by_hand(self):
-        self.same(environments(Panel(["a"], 1, {"a": (1, 2)}, 1)), [
-            ((0,), (1,), 0), ((0,), (1,), 1), ((0,), (2,), 0), ((0,), (2,), 1),
-            ((1,), (1,), 0), ((1,), (1,), 1), ((1,), (2,), 0), ((1,), (2,), 1),
-            ((None,), (1,), 0), ((None,), (1,), 1), ((None,), (2,), 0), ((None,), (2,), 1),
-        ])
+        self.same(
+            environments(Panel(["a"], 1, {"a": (1, 2)}, 1)),
+            [
+                ((0,), (1,), 0),
+                ((0,), (1,), 1),
+                ((0,), (2,), 0),
+                ((0,), (2,), 1),
+                ((1,), (1,), 0),
+                ((1,), (1,), 1),
+                ((1,), (2,), 0),
+                ((1,), (2,), 1),
+                ((None,), (1,), 0),
+                ((None,), (1,), 1),
+                ((None,), (2,), 0),
+                ((None,), (2,), 1),
+            ],
+        )
 
     def test_just_as_many_as_can_be(self):
         panel = Panel(["a", "b", "c"], 8, None, 1)

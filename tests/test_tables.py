@@ -23,7 +23,8 @@ def hangs_on_later(answers):
     """Whether some row has a moment as its answer that a row that looks alike until then has not."""
     return any(
         moment is not None and seen_until(other, moment) == seen_until(row, moment) and answers[other] != moment
-        for row, moment in answers.items() for other in answers
+        for row, moment in answers.items()
+        for other in answers
     )
 
 
@@ -61,13 +62,26 @@ class Tables(Case):
             self.refused(BadTable, Table, size, 0, None, part="size")
         for length in (0, 9, None, True, "2"):
             self.refused(BadTable, Table, 1, length, None, part="length")
-        for bad in (None, [], {}, list(answers.items()), {**answers, (3,): None}, {**answers, (0, 0): None},
-                    {**answers, (2,): 3}, {**answers, (2,): -1}, {**answers, (2,): True}, {**answers, (2,): "2"},
-                    {**answers, (2,): [2]}, {**answers, "x": None}, {row: None for row in rows(1, 2)[1:]},
-                    {row: None for row in rows(2, 2)}, {row: None for row in rows(1, 3)},
-                    {(0,): None, (True,): None, (2,): None, (None,): None},
-                    {(False,): None, (1,): None, (2,): None, (None,): None},
-                    {(0,): None, 1: None, (2,): None, (None,): None}):
+        for bad in (
+            None,
+            [],
+            {},
+            list(answers.items()),
+            {**answers, (3,): None},
+            {**answers, (0, 0): None},
+            {**answers, (2,): 3},
+            {**answers, (2,): -1},
+            {**answers, (2,): True},
+            {**answers, (2,): "2"},
+            {**answers, (2,): [2]},
+            {**answers, "x": None},
+            {row: None for row in rows(1, 2)[1:]},
+            {row: None for row in rows(2, 2)},
+            {row: None for row in rows(1, 3)},
+            {(0,): None, (True,): None, (2,): None, (None,): None},
+            {(False,): None, (1,): None, (2,): None, (None,): None},
+            {(0,): None, 1: None, (2,): None, (None,): None},
+        ):
             self.refused(BadTable, Table, 1, 2, bad, part="answers")
         self.refused(BadTable, Table, 1, 2, {row: False for row in rows(1, 2)}, part="answers")
 

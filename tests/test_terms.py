@@ -7,24 +7,93 @@ from roundpromises.errors import BadCases, BadCondition, BadNames, BadTimes
 from roundpromises.terms import holds, is_cases, is_condition, letter_of, letters_of
 from tests.helpers import Case, junk_but
 
-NO_NAMES = ("", "abcdefg", "start", "other", "A", "a1", "a b", "a_", "aB", "\u00e9", "\u0430", "a\n", 1, None, True,
-            ["a"], ("a",))
-BAD_LISTS = (None, "ab", {"a": 1}, 3, ["a", "a"], ("out", "out"), ["start"], ["other"], [1], ["A"], [["a"]],
-             ["a", None], ["abcdefg"], [""])
-BAD_CONDITIONS = (None, [], "", ("rings", "a"), [("rings", "a")], (("rings",),), (("rings", "a", "b"),),
-                  (["rings", "a"],), (("ring", "a"),), (("rings", "start"),), (("silent", "start"),),
-                  (("silent", "other"),), (("gap", "a", "a", 0),), (("gap", "start", "start", 0),),
-                  (("gap", "a", "b"),), (("gap", "a", "b", 9),), (("gap", "a", "b", -9),), (("gap", "a", "b", True),),
-                  (("gap", "a", "b", None),), (("gap", "a", "other", 1),), (("gap", "a", "b", 1, 1),),
-                  (("rings", "a"),) * 5, ((),), (None,), ({},), {}, 7, True, (("rings", ["a"]),))
+NO_NAMES = (
+    "",
+    "abcdefg",
+    "start",
+    "other",
+    "A",
+    "a1",
+    "a b",
+    "a_",
+    "aB",
+    "\u00e9",
+    "\u0430",
+    "a\n",
+    1,
+    None,
+    True,
+    ["a"],
+    ("a",),
+)
+BAD_LISTS = (
+    None,
+    "ab",
+    {"a": 1},
+    3,
+    ["a", "a"],
+    ("out", "out"),
+    ["start"],
+    ["other"],
+    [1],
+    ["A"],
+    [["a"]],
+    ["a", None],
+    ["abcdefg"],
+    [""],
+)
+BAD_CONDITIONS = (
+    None,
+    [],
+    "",
+    ("rings", "a"),
+    [("rings", "a")],
+    (("rings",),),
+    (("rings", "a", "b"),),
+    (["rings", "a"],),
+    (("ring", "a"),),
+    (("rings", "start"),),
+    (("silent", "start"),),
+    (("silent", "other"),),
+    (("gap", "a", "a", 0),),
+    (("gap", "start", "start", 0),),
+    (("gap", "a", "b"),),
+    (("gap", "a", "b", 9),),
+    (("gap", "a", "b", -9),),
+    (("gap", "a", "b", True),),
+    (("gap", "a", "b", None),),
+    (("gap", "a", "other", 1),),
+    (("gap", "a", "b", 1, 1),),
+    (("gap", "other", "a", 1),),
+    (("gap", None, "a", 1),),
+    (("fall", "a", "b", 1),),
+    ((None, "a", "b", 1),),
+    (("rings", "a", "b", 1),),
+    (("rings", "a"),) * 5,
+    ((),),
+    (None,),
+    ({},),
+    {},
+    7,
+    True,
+    (("rings", ["a"]),),
+)
 
 
 class Conditions(Case):
     def test_conditions(self):
         names = ["a", "b", "out", "rings", "abcdef"]
-        for thing in ((), (("rings", "a"),), (("silent", "out"),), (("gap", "a", "out", 8),), (("gap", "b", "a", -8),),
-                      (("gap", "start", "a", 0),), (("gap", "out", "start", 3),), (("rings", "rings"),) * 4,
-                      (("rings", "abcdef"), ("silent", "a"), ("gap", "a", "b", 1), ("gap", "start", "out", 0))):
+        for thing in (
+            (),
+            (("rings", "a"),),
+            (("silent", "out"),),
+            (("gap", "a", "out", 8),),
+            (("gap", "b", "a", -8),),
+            (("gap", "start", "a", 0),),
+            (("gap", "out", "start", 3),),
+            (("rings", "rings"),) * 4,
+            (("rings", "abcdef"), ("silent", "a"), ("gap", "a", "b", 1), ("gap", "start", "out", 0)),
+        ):
             self.assertIs(is_condition(thing, names), True, thing)
             self.assertIs(is_condition(thing, tuple(names)), True)
         for thing in BAD_CONDITIONS + tuple(junk_but(())):
@@ -49,14 +118,27 @@ class Conditions(Case):
     def test_holds(self):
         times = {"a": 3, "b": None, "c": 0, "out": 12}
         for condition, wanted in (
-            ((), True), ((("rings", "a"),), True), ((("rings", "b"),), False), ((("silent", "b"),), True),
-            ((("silent", "c"),), False), ((("rings", "c"),), True), ((("rings", "out"),), True),
-            ((("gap", "c", "a", 3),), True), ((("gap", "c", "a", 4),), False), ((("gap", "a", "c", -3),), True),
-            ((("gap", "a", "c", -2),), False), ((("gap", "a", "b", -8),), False), ((("gap", "b", "a", -8),), False),
-            ((("gap", "start", "a", 3),), True), ((("gap", "start", "a", 4),), False),
-            ((("gap", "a", "start", -3),), True), ((("gap", "a", "start", -2),), False),
-            ((("gap", "start", "c", 0),), True), ((("gap", "start", "b", -8),), False),
-            ((("gap", "a", "out", 8),), True), ((("rings", "a"), ("silent", "b"), ("rings", "b")), False),
+            ((), True),
+            ((("rings", "a"),), True),
+            ((("rings", "b"),), False),
+            ((("silent", "b"),), True),
+            ((("silent", "c"),), False),
+            ((("rings", "c"),), True),
+            ((("rings", "out"),), True),
+            ((("gap", "c", "a", 3),), True),
+            ((("gap", "c", "a", 4),), False),
+            ((("gap", "a", "c", -3),), True),
+            ((("gap", "a", "c", -2),), False),
+            ((("gap", "a", "b", -8),), False),
+            ((("gap", "b", "a", -8),), False),
+            ((("gap", "start", "a", 3),), True),
+            ((("gap", "start", "a", 4),), False),
+            ((("gap", "a", "start", -3),), True),
+            ((("gap", "a", "start", -2),), False),
+            ((("gap", "start", "c", 0),), True),
+            ((("gap", "start", "b", -8),), False),
+            ((("gap", "a", "out", 8),), True),
+            ((("rings", "a"), ("silent", "b"), ("rings", "b")), False),
             ((("rings", "a"), ("silent", "b"), ("gap", "c", "a", 0), ("rings", "c")), True),
         ):
             self.assertIs(holds(condition, times), wanted, condition)
@@ -71,8 +153,23 @@ class Conditions(Case):
         for condition in bad:
             self.refused(BadCondition, holds, condition, {"a": 1}, name=None)
             self.refused(BadCondition, holds, condition, "no times", name=None)
-        for times in (None, [], {"start": 0}, {"other": 1}, {"a": 13}, {"a": -1}, {"a": True}, {"a": "1"}, {1: 1},
-                      {"A": 1}, {"a": 1, "b": []}, (("a", 1),), {None: 1}, {"abcdefg": 1}, {("a",): 1}):
+        for times in (
+            None,
+            [],
+            {"start": 0},
+            {"other": 1},
+            {"a": 13},
+            {"a": -1},
+            {"a": True},
+            {"a": "1"},
+            {1: 1},
+            {"A": 1},
+            {"a": 1, "b": []},
+            (("a", 1),),
+            {None: 1},
+            {"abcdefg": 1},
+            {("a",): 1},
+        ):
             self.refused(BadTimes, holds, (), times)
             self.refused(BadTimes, holds, (("rings", "z"),), times)
 
@@ -88,12 +185,41 @@ class Conditions(Case):
 
 
 class Cases(Case):
-    good = ([], (), [("a", ())], (("a", ()), ("b", (("rings", "x"),)), ("c", (("silent", "out"),))),
-            [("rings", (("gap", "start", "x", 2),))], [("x", (("rings", "x"),))])
-    bad = (None, {}, "a", 1, [("a",)], [["a", ()]], [("other", ())], [("out", ())], [("start", ())], [("A", ())],
-           [("a", ()), ("a", ())], [("a", []),], [("a", ()), ("b", ()), ("c", ()), ("d", ())], [("a", (), ())],
-           [(1, ())], [(["a"], ())], [("a", (("rings", "start"),))], [None], [("a", None)], [()], (("a", ()), "b"),
-           [("a", (("rings", "x"),) * 5)], True)
+    good = (
+        [],
+        (),
+        [("a", ())],
+        (("a", ()), ("b", (("rings", "x"),)), ("c", (("silent", "out"),))),
+        [("rings", (("gap", "start", "x", 2),))],
+        [("x", (("rings", "x"),))],
+    )
+    bad = (
+        None,
+        {},
+        "a",
+        1,
+        [("a",)],
+        [["a", ()]],
+        [("other", ())],
+        [("out", ())],
+        [("start", ())],
+        [("A", ())],
+        [("a", ()), ("a", ())],
+        [
+            ("a", []),
+        ],
+        [("a", ()), ("b", ()), ("c", ()), ("d", ())],
+        [("a", (), ())],
+        [(1, ())],
+        [(["a"], ())],
+        [("a", (("rings", "start"),))],
+        [None],
+        [("a", None)],
+        [()],
+        (("a", ()), "b"),
+        [("a", (("rings", "x"),) * 5)],
+        True,
+    )
 
     def test_is_cases(self):
         for thing in self.good:
