@@ -1,39 +1,165 @@
-"""Looks: what can be answered to each row of arrivals, given which times are right where.
+"""Looks: what can be answered to each row of arrivals, given which times are wrong where.
 
-A *look* is a pair (time, row): all that is heard until a time, the row being cut there. A time that is
-wrong in some environment *spoils* the look that this environment has until then.
+Rows are told by their places in the list of all rows of a panel's size and length, times as in bits.py. A *look*
+is a time and the row that is heard until then; a time that is wrong in some environment *spoils* the look that
+this environment has until then. A row has as its good times those whose looks it does not find spoiled.
 """
 
-from roundpromises.rows import cut, times_of
+from roundpromises.bits import all_times, time_bit, times_in
+from roundpromises.rows import cut, rows, times_of
+from roundpromises.tables import Table
 
 
-def spoilers(length, judged):
-    """The dict from all spoiled looks to the first environment that spoils each.
+class Lay:
+    """What hangs on a panel alone: all rows, their looks, and which row of true times can arrive as which.
 
-    Judged is a list of triples: an environment, its arrivals, and the times that are right in it.
+    For each row, its parts are the pairs of the place of a row that it is cut to and the bits of the times until
+    which it is; for each cut row, its members are the pairs of a row with such a part and these bits; brought are
+    the arrivals that a row can have, and bringers the rows with which some environment has these arrivals.
     """
-    found = {}
-    for environment, arrivals, right in judged:
-        for time in times_of(length):
-            if time not in right:
-                found.setdefault((time, cut(arrivals, time)), environment)
+
+    def __init__(self, panel):
+        self.size = len(panel.inputs)
+        self.length = panel.length
+        self.times = {time_bit(time, panel.length): time for time in times_of(panel.length)}
+        self.rows = rows(self.size, panel.length)
+        self.places = {row: at for at, row in enumerate(self.rows)}
+        self.parts = [parts_of(row, panel.length, self.places) for row in self.rows]
+        self.brought = brought_places(panel)
+        self.members = [[] for _ in self.rows]
+        self.bringers = [[] for _ in self.rows]
+        for at, parts in enumerate(self.parts):
+            for place, times in parts:
+                self.members[place].append((at, times))
+        for at, places in enumerate(self.brought):
+            for place in places:
+                self.bringers[place].append(at)
+
+
+def lay_of(panel):
+    """The Lay of a panel, worked out once."""
+    if panel._lay is None:
+        panel._lay = Lay(panel)
+    return panel._lay
+
+
+def parts_of(row, length, places):
+    """The parts of a row, in the order of their times."""
+    starts = sorted(set([0] + [time for time in row if time is not None]))
+    ends = starts[1:] + [length + 2]
+    return [(places[cut(row, start)], (1 << end) - (1 << start)) for start, end in zip(starts, ends)]
+
+
+def brought_places(panel):
+    """For each row of true times the list of the places of the arrivals that it can have."""
+    many = panel.length + 2
+    found = [[0]]
+    for least, greatest in panel.delays:
+        heard = [heard_at(time, least, greatest, panel.length) for time in range(many)]
+        found = [[place * many + at for place in places for at in ends] for places in found for ends in heard]
     return found
 
 
-def good_times(length, spoiled, row):
-    """The ascending tuple of the times whose looks a row of arrivals does not find spoiled."""
-    return tuple([time for time in times_of(length) if (time, cut(row, time)) not in spoiled])
+def heard_at(time, least, greatest, length):
+    """The times at which one input may be heard, with length + 1 for never."""
+    if time > length:
+        return [time]
+    first = min(time + least, length + 1)
+    return list(range(first, min(time + greatest, length + 1) + 1))
 
 
-def last_looks(goods):
-    """The looks at which some row has its last good time: a dict of True.
+def heard_wrongs(lay, wrongs):
+    """For each row of arrivals the times that are wrong in some environment that brings it.
 
-    Goods is a dict from all rows to their good times, none of them without one.
+    Wrongs are, for each row of true times, the times that are wrong in some environment with it, with the same
+    times for whatever delays.
     """
-    return {(times[-1], cut(row, times[-1])): True for row, times in goods.items()}
+    found = [0 for _ in lay.rows]
+    for wrong, places in zip(wrongs, lay.brought):
+        if wrong:
+            for place in places:
+                found[place] = found[place] | wrong
+    return found
 
 
-def latest_answer(goods, lasts, row):
+def good_times(lay, wrongs):
+    """For each row of arrivals its good times, given the times that are wrong in environments that bring each."""
+    spoiled = [0 for _ in lay.rows]
+    for wrong, parts in zip(wrongs, lay.parts):
+        if wrong:
+            for place, times in parts:
+                spoiled[place] = spoiled[place] | wrong & times
+    every = all_times(lay.length)
+    found = []
+    for parts in lay.parts:
+        bad = 0
+        for place, times in parts:
+            bad = bad | spoiled[place] & times
+        found.append(every & ~bad)
+    return found
+
+
+def answers_by_row(lay, goods):
+    """The dict from all rows to the ascending tuples of their good times."""
+    told = {bits: times_in(bits, lay.length) for bits in sorted(set(goods))}
+    return {row: told[bits] for row, bits in zip(lay.rows, goods)}
+
+
+def last_times(lay, goods):
+    """For each row the times until which it is the look of some row that has its last good time there."""
+    found = [0 for _ in lay.rows]
+    for good, parts in zip(goods, lay.parts):
+        last = 1 << (good.bit_length() - 1)
+        for place, times in parts:
+            found[place] = found[place] | last & times
+    return found
+
+
+def latest_time(lay, goods, lasts, at):
     """The first good time of a row at which some row that looks alike has its last one."""
-    ends = [time for time in goods[row] if (time, cut(row, time)) in lasts]
-    return ends[0]
+    found = 0
+    for place, times in lay.parts[at]:
+        found = found | goods[at] & lasts[place] & times
+    return lowest(found)
+
+
+def lowest(bits):
+    """The lowest bit of a number that has one, as a number of this bit alone."""
+    return bits & -bits
+
+
+def table_of(lay, answers):
+    """The Table with these answers, each told by its bit, to the rows in their order."""
+    return Table(lay.size, lay.length, {row: lay.times[answer] for row, answer in zip(lay.rows, answers)})
+
+
+def earliest_table(lay, goods):
+    """The Table that answers each row with its least good time."""
+    return table_of(lay, [lowest(good) for good in goods])
+
+
+def look_until(lay, at, bit):
+    """The place of the row to which a row is cut at the time of a bit."""
+    found = [place for place, times in lay.parts[at] if times & bit]
+    return found[0]
+
+
+def is_answered_rightly(lay, wrongs, answers):
+    """Tell whether no answer, a dict from rows, is a time that is wrong in an environment that brings the row."""
+    return not any([wrong & time_bit(answers[row], lay.length) for wrong, row in zip(wrongs, lay.rows)])
+
+
+def strife_of(lay, at, judged):
+    """A pair of a row without good times and, for each time, an environment that spoils its look until then.
+
+    Judged is a list of triples of an environment, the place of its arrivals, and the times that are wrong in it.
+    """
+    ends = dict(lay.parts[at])
+    found = {}
+    for environment, place, wrong in judged:
+        for end, times in lay.parts[place]:
+            hit = wrong & times & ends.get(end, 0)
+            while hit:
+                found.setdefault(lowest(hit), environment)
+                hit = hit - lowest(hit)
+    return lay.rows[at], {time: found[time_bit(time, lay.length)] for time in times_of(lay.length)}

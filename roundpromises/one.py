@@ -1,20 +1,26 @@
 """One round: whether a Table keeps a task, which ones do, and what shows that none does."""
 
+from roundpromises.bits import allowed_bits, letter_bits, ringing_bit, times_in, wrong_times
 from roundpromises.checks import are_different, is_list, is_tuple_of
 from roundpromises.errors import BadCondition, BadPromises, BadQuarrel, BadTask, BadWindow
-from roundpromises.looks import good_times, last_looks, latest_answer, spoilers
-from roundpromises.promises import MOST_PROMISES, WHICH, allowed_in, are_promises, are_window_names, check_promise
-from roundpromises.rows import check_moment, check_row_of, cut, is_not_before, is_row_of, is_time, rows, times_of
-from roundpromises.sights import (
-    Panel,
-    arrivals_in,
-    check_environment,
-    check_few_environments,
-    environments,
-    is_environment_of,
+from roundpromises.looks import (
+    answers_by_row,
+    earliest_table,
+    good_times,
+    heard_wrongs,
+    is_answered_rightly,
+    last_times,
+    latest_time,
+    lay_of,
+    look_until,
+    table_of,
 )
-from roundpromises.tables import Table, check_fits, check_table, ringing
-from roundpromises.terms import are_cases_of, is_condition_of, letter_in, letters_of
+from roundpromises.promises import MOST_PROMISES, WHICH, are_promises, are_window_names, check_promise
+from roundpromises.rows import check_moment, check_row_of, cut, is_row_of, is_time, times_of
+from roundpromises.sights import Panel, arrivals_in, bringing, check_environment, check_few_environments
+from roundpromises.sights import is_environment_of
+from roundpromises.tables import check_fits, check_table
+from roundpromises.terms import are_cases_of, is_condition_of, letters_of
 
 
 class Task:
@@ -34,10 +40,14 @@ class Task:
         self.cases = tuple(cases)
         self.promises = tuple(promises)
         self.barred = tuple(sorted(barred))
-        self._ringings = {row: right_ringings(self, row) for row in rows(size_of(self), panel.length)}
-        self._spoiled = spoilers(panel.length, judged_environments(self))
-        self._goods = {row: good_times(panel.length, self._spoiled, row) for row in self._ringings}
-        self._lasts = last_looks(self._goods) if is_kept(self) else {}
+        lay = lay_of(panel)
+        self._ringings = [right_ringings(self, row) for row in lay.rows]
+        self._wrongs = [wrong_times(ringings, panel.length, panel.slip) for ringings in self._ringings]
+        self._heard_wrongs = heard_wrongs(lay, self._wrongs)
+        self._goods = good_times(lay, self._heard_wrongs)
+        self._answers = answers_by_row(lay, self._goods)
+        self._lasts = last_times(lay, self._goods) if is_kept(self) else []
+        self._quarrel = None if is_kept(self) else found_quarrel(self, self._goods.index(0))
 
     def __eq__(self, other):
         return (
@@ -61,7 +71,7 @@ def good(task, arrivals):
     """The ascending tuple of the times that are good for a row of arrivals."""
     check_task(task)
     check_row_of(arrivals, size_of(task), task.panel.length)
-    return task._goods[arrivals]
+    return task._answers[arrivals]
 
 
 def keeps(task, table):
@@ -69,19 +79,13 @@ def keeps(task, table):
     check_task(task)
     check_table(table)
     check_fits(task.panel, table)
-    answers = table.answers()
-    for environment in environments(task.panel):
-        if not is_right_in(task, environment, answers[arrivals_in(task.panel, environment)]):
-            return False
-    return True
+    return is_answered_rightly(lay_of(task.panel), task._heard_wrongs, table.answers())
 
 
 def earliest(task):
     """The Table that keeps the task and answers each row as early as any that does; None if none does."""
     check_task(task)
-    if not is_kept(task):
-        return None
-    return Table(size_of(task), task.panel.length, {row: times[0] for row, times in task._goods.items()})
+    return earliest_table(lay_of(task.panel), task._goods) if is_kept(task) else None
 
 
 def latest(task):
@@ -89,8 +93,8 @@ def latest(task):
     check_task(task)
     if not is_kept(task):
         return None
-    answers = {row: latest_answer(task._goods, task._lasts, row) for row in task._goods}
-    return Table(size_of(task), task.panel.length, answers)
+    lay = lay_of(task.panel)
+    return table_of(lay, [latest_time(lay, task._goods, task._lasts, at) for at in range(len(lay.rows))])
 
 
 def had(task, arrivals):
@@ -99,17 +103,19 @@ def had(task, arrivals):
     check_row_of(arrivals, size_of(task), task.panel.length)
     if not is_kept(task):
         return ()
-    last = latest_answer(task._goods, task._lasts, arrivals)
-    return tuple([time for time in task._goods[arrivals] if is_not_before(last, time)])
+    lay = lay_of(task.panel)
+    at = lay.places[arrivals]
+    last = latest_time(lay, task._goods, task._lasts, at)
+    return times_in(task._goods[at] & (2 * last - 1), lay.length)
 
 
 def quarrel(task):
     """A row of arrivals, and for each time an environment that speaks against it; None if there is none."""
     check_task(task)
-    for row, times in task._goods.items():
-        if not times:
-            return row, {time: task._spoiled[(time, cut(row, time))] for time in times_of(task.panel.length)}
-    return None
+    if is_kept(task):
+        return None
+    arrivals, answers = task._quarrel
+    return arrivals, dict(answers)
 
 
 def is_quarrel(task, thing):
@@ -192,7 +198,7 @@ def size_of(task):
 
 def is_kept(task):
     """Tell whether some Table keeps a task: exactly if each row has a good time."""
-    return all([len(times) > 0 for times in task._goods.values()])
+    return 0 not in task._goods
 
 
 def with_promise(task, promise):
@@ -209,29 +215,40 @@ def least_high(task, condition, beginning, low, start):
 
 
 def right_ringings(task, row):
-    """The times at which the output may ring in an environment with this row, late by the slip or not."""
-    inputs = task.panel.inputs
-    span, may = allowed_in(task.promises, inputs, row)
-    found = [] if span is None else list(range(span[0], span[1] + 1))
-    found += [None] if may else []
+    """The ringings that are right in an environment with this row."""
+    times = dict(zip(task.panel.inputs, row))
+    found = allowed_bits(task.promises, times)
     if not task.barred:
-        return tuple(found)
-    times = dict(zip(inputs, row))
-    return tuple([time for time in found if letter_in(task.cases, {**times, "out": time}) not in task.barred])
+        return found
+    for letter, bits in zip(letters_of(task.cases), letter_bits(task.cases, times)):
+        if letter in task.barred:
+            found = found & ~bits
+    return found
 
 
 def is_right_in(task, environment, moment):
     """What is_right tells, of values that are known to be right."""
-    return ringing(moment, environment) in task._ringings[environment[0]]
+    row, _, slip = environment
+    return task._ringings[lay_of(task.panel).places[row]] & ringing_bit(moment, slip) != 0
 
 
-def judged_environments(task):
-    """For each environment of a task the triple of it, its arrivals and the times that are right in it."""
-    found = []
-    for environment in environments(task.panel):
-        right = [time for time in times_of(task.panel.length) if is_right_in(task, environment, time)]
-        found.append((environment, arrivals_in(task.panel, environment), right))
-    return found
+def found_quarrel(task, at):
+    """A quarrel about a row of arrivals that has no good time."""
+    lay = lay_of(task.panel)
+    answers = {time: spoiling(task, at, 1 << place, time) for place, time in enumerate(times_of(lay.length))}
+    return lay.rows[at], answers
+
+
+def spoiling(task, at, bit, time):
+    """An environment that spoils the look of a row until a time, which has this bit."""
+    lay = lay_of(task.panel)
+    for arrivals, times in lay.members[look_until(lay, at, bit)]:
+        if task._heard_wrongs[arrivals] & times & bit:
+            bringers = [row for row in lay.bringers[arrivals] if task._wrongs[row] & bit]
+            row = bringers[0]
+            wrong = [slip for slip in range(task.panel.slip + 1) if not task._ringings[row] & ringing_bit(time, slip)]
+            return bringing(task.panel, lay.rows[row], lay.rows[arrivals], wrong[0])
+    return None
 
 
 def speaks_against(task, arrivals, time, environment):

@@ -113,8 +113,12 @@ def are_window_names(thing, inputs):
 
 def asked_in(promise, inputs, row):
     """What asked tells, of values that are known to be right."""
+    return asked_at(promise, dict(zip(inputs, row)))
+
+
+def asked_at(promise, times):
+    """What a promise asks at the times of the inputs, a dict from their names."""
     condition, window = promise
-    times = dict(zip(inputs, row))
     if not is_true(condition, times):
         return None
     if window == NEVER:
@@ -126,14 +130,20 @@ def asked_in(promise, inputs, row):
 
 def allowed_in(promises, inputs, row):
     """What allowed tells, of values that are known to be right."""
+    low, high, may = span_at(promises, dict(zip(inputs, row)))
+    return ((low, high) if low <= high else None), may
+
+
+def span_at(promises, times):
+    """The first and the last ringing, none if they fall, that promises allow, and whether it may never ring."""
     low, high, may = 0, LAST_RINGING, True
     for promise in promises:
-        asks = asked_in(promise, inputs, row)
+        asks = asked_at(promise, times)
         if asks == "never":
             high = -1
         elif asks is not None:
             low, high, may = max(low, asks[0]), min(high, asks[1]), False
-    return ((low, high) if low <= high else None), may
+    return low, high, may
 
 
 def clipped(span, last):

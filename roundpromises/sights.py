@@ -25,6 +25,8 @@ class Panel:
         self.length = length
         self.delays = tuple([(0, 0) if sight is None else sight[name] for name in names])
         self.slip = slip
+        # What looks.py works out for this panel once, when it is asked for.
+        self._lay = None
 
     def __eq__(self, other):
         return (
@@ -158,3 +160,15 @@ def arrivals_in(panel, environment):
     """What arrivals_of tells, of values that are known to be right."""
     row, delays, _ = environment
     return tuple([arrival(time, delay, panel.length) for time, delay in zip(row, delays)])
+
+
+def bringing(panel, row, arrivals, slip):
+    """An environment with a row and a slip that brings arrivals which this row can have."""
+    delays = []
+    for time, heard, (least, greatest) in zip(row, arrivals, panel.delays):
+        if time is None:
+            delays.append(least)
+        else:
+            # Who does not hear of a ring may take it to be as late as it can be.
+            delays.append(greatest if heard is None else heard - time)
+    return row, tuple(delays), slip

@@ -105,15 +105,26 @@ def are_answers(thing, size, length):
         return False
     if not all([is_row_of(row, size, length) and is_time(time, length) for row, time in thing.items()]):
         return False
-    return all([is_settled(thing, row, moment) for row in rows(size, length) for moment in range(length + 1)])
+    return all([is_settled(thing, row) for row in rows(size, length)])
 
 
-def is_settled(answers, row, moment):
+def is_settled(answers, row):
     """Tell whether a row has a moment as its answer exactly if its look until then, itself a row, has it.
 
     All rows that look alike until a moment have one look, so they all have that answer, or none of them.
     """
-    return (answers[row] == moment) == (answers[cut(row, moment)] == moment)
+    starts = sorted(set([0] + [time for time in row if time is not None]))
+    # From the last start on the row is its own look.
+    for start, end in zip(starts, starts[1:]):
+        looks = answers[cut(row, start)]
+        if looks != answers[row] and (is_from(looks, start, end) or is_from(answers[row], start, end)):
+            return False
+    return True
+
+
+def is_from(time, start, end):
+    """Tell whether a time is a moment from a start on and before an end."""
+    return time is not None and start <= time < end
 
 
 def earlier_answer(one, other, row):

@@ -230,7 +230,7 @@ ORDERED = [
 def shown(value):
     """A value as words, objects by their attributes."""
     if isinstance(value, (Panel, Table, Task)):
-        return repr({name: shown(part) for name, part in vars(value).items()})
+        return repr({name: shown(part) for name, part in vars(value).items() if name != "_lay"})
     if isinstance(value, (list, tuple)):
         return repr([type(value).__name__, *map(shown, value)])
     if isinstance(value, dict):

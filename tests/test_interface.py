@@ -13,6 +13,8 @@ from roundpromises.tables import Table, constant
 
 FOLDER = pathlib.Path(roundpromises.__file__).parent
 ORDER = ["errors", "rows", "terms", "promises", "sights", "tables", "one", "serving", "forms"]
+# Each further module, and the first module of the interface from which it does not import.
+FURTHER = {"checks": "rows", "bits": "sights", "looks": "one", "readers": "rows"}
 FUNCTIONS = {
     "rows": "is_row(thing, length) rows(size, length) first_of(row, places) last_of(row, places) "
     "latest_of(row, places) until(row, moment)",
@@ -100,7 +102,9 @@ class Interface(unittest.TestCase):
     def test_imports_only_from_those_ahead(self):
         ahead = {name: ORDER[:at] for at, name in enumerate(ORDER)}
         # Further modules stand ahead of the first one that imports from them.
-        further = {"checks": ["errors"], "looks": ["errors", "checks", "rows"], "readers": []}
+        further = {
+            name: ahead[behind] + [other for other in FURTHER if other != name] for name, behind in FURTHER.items()
+        }
         for path in FOLDER.glob("*.py"):
             name = path.stem
             for node in ast.walk(parsed(name)):
@@ -110,7 +114,7 @@ class Interface(unittest.TestCase):
 
     def test_folder(self):
         found = {path.name for path in FOLDER.iterdir() if path.name != "__pycache__"}
-        self.assertEqual(found, {name + ".py" for name in [*ORDER, "__init__", "checks", "looks", "readers"]})
+        self.assertEqual(found, {name + ".py" for name in [*ORDER, *FURTHER, "__init__"]})
 
 
 if __name__ == "__main__":

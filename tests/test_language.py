@@ -16,7 +16,7 @@ BUILTINS = set(
     """len range enumerate zip min max sum abs sorted reversed int str bool list tuple dict set frozenset
 isinstance ord repr any all divmod ValueError""".split()
 )
-METHODS = set("append extend get items keys values setdefault".split())
+METHODS = set("append bit_length extend get index items keys values setdefault".split())
 ITERATED = {"zip", "enumerate", "reversed", "range"}
 TAKERS = {"list", "tuple", "dict", "sorted", "sum", "any", "all", "enumerate", "zip"}
 BARRED = """
@@ -130,7 +130,7 @@ class Language(unittest.TestCase):
                     imports = False
                 if isinstance(node, ast.Assign):
                     self.assertEqual(len(node.targets), 1)
-                    ast.literal_eval(node.value)
+                    self.assertFalse([part for part in ast.walk(node.value) if isinstance(part, ast.Call)], name)
 
     def test_imports_name_the_file_that_defines(self):
         for name, node in self.nodes(ast.ImportFrom):
