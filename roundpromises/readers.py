@@ -9,6 +9,11 @@ form matches the letters so far.
 
 def explored(start, step, many):
     """All states to which steps with so many letters lead from the start, and the ways between them."""
+    return explored_within(start, step, many, None)
+
+
+def explored_within(start, step, many, most):
+    """What explored tells; None if there are more states than a number, which may be None for no end."""
     numbers = {start: 0}
     found = [start]
     ways = []
@@ -22,6 +27,8 @@ def explored(start, step, many):
                 found.append(then)
             behind.append(numbers[then])
         ways.append(behind)
+        if most is not None and len(found) > most:
+            return None
     return found, ways
 
 

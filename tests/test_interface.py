@@ -10,11 +10,13 @@ import roundpromises
 from roundpromises.one import Task
 from roundpromises.sights import Panel
 from roundpromises.tables import Table, constant
+from roundpromises.works import Works
 
 FOLDER = pathlib.Path(roundpromises.__file__).parent
 ORDER = ["errors", "rows", "terms", "promises", "sights", "tables", "one", "serving", "forms"]
+ORDER += ["works", "ever", "again", "stock"]
 # Each further module, and the first module of the interface from which it does not import.
-FURTHER = {"checks": "rows", "bits": "sights", "looks": "one", "readers": "rows"}
+FURTHER = {"checks": "rows", "bits": "sights", "looks": "one", "readers": "rows", "modes": "forms"}
 FUNCTIONS = {
     "rows": "is_row(thing, length) rows(size, length) first_of(row, places) last_of(row, places) "
     "latest_of(row, places) until(row, moment)",
@@ -32,6 +34,15 @@ FUNCTIONS = {
     "translated(one, other, translator, table) parting_promises(one, other) is_parting(one, other, thing)",
     "forms": "is_form(thing, letters) matches(form, word) form_behind(form, word) are_alike(one, other, letters) "
     "parting_word(one, other, letters)",
+    "works": "task_of(works, mode, barred) same_plays(one, other) parting_letters(one, other)",
+    "ever": "good_modes(works) rank(works, mode) lasts(works) kept_task(works, mode) strategy(works) "
+    "late_strategy(works) is_strategy(works, thing) doom(works) is_doom(works, thing) "
+    "round_letter(works, environment, moment) keeps_round(works, mode, environment, moment)",
+    "again": "fine_modes(works, marks) staircase(works, marks) is_staircase(works, marks, thing) pit(works, marks) "
+    "is_pit(works, marks, thing) can_return(works, letters) can_cease(works, letters)",
+    "stock": "least_stock(works, gains, mode) stock_for(works, gains, mode, rounds) larder(works, gains) "
+    "is_larder(works, gains, thing) ruin(works, gains, stock) is_ruin(works, gains, stock, thing) "
+    "leak(works, gains) is_leak(works, gains, thing)",
 }
 CLASSES = {
     ("sights", "Panel"): [
@@ -47,6 +58,18 @@ CLASSES = {
         "__eq__(self, other)",
     ],
     ("one", "Task"): ["__init__(self, panel, cases, promises, barred)", "__eq__(self, other)"],
+    ("works", "Works"): [
+        "__init__(self, panel, cases, rules)",
+        "__len__(self)",
+        "active(self, mode)",
+        "ways(self, mode)",
+        "mode_behind(self, word)",
+        "word_to(self, mode)",
+        "with_panel(self, panel)",
+        "with_rule(self, rule)",
+        "without(self, name)",
+        "__eq__(self, other)",
+    ],
 }
 
 
@@ -80,6 +103,7 @@ class Interface(unittest.TestCase):
             (panel, "inputs length delays slip"),
             (constant(1, 1, 0), "size length"),
             (Task(panel, [], [], []), "panel cases promises barred"),
+            (Works(panel, [], []), "panel cases rules names letters"),
         ):
             for name in names.split():
                 self.assertIn(name, vars(thing))

@@ -16,7 +16,7 @@ BUILTINS = set(
     """len range enumerate zip min max sum abs sorted reversed int str bool list tuple dict set frozenset
 isinstance ord repr any all divmod ValueError""".split()
 )
-METHODS = set("append bit_length extend get index items keys values setdefault".split())
+METHODS = set("append bit_length extend get index items keys pop values setdefault".split())
 ITERATED = {"zip", "enumerate", "reversed", "range"}
 TAKERS = {"list", "tuple", "dict", "sorted", "sum", "any", "all", "enumerate", "zip"}
 BARRED = """
@@ -40,6 +40,7 @@ STATEMENTS = (
     ast.Break,
     ast.Continue,
     ast.Pass,
+    ast.Delete,
 )
 UNUSED = (
     ast.GeneratorExp,
@@ -55,7 +56,6 @@ UNUSED = (
     ast.YieldFrom,
     ast.Global,
     ast.Nonlocal,
-    ast.Delete,
     ast.Pow,
 )
 
@@ -193,12 +193,14 @@ class Language(unittest.TestCase):
             for part in node.body:
                 self.assertIsInstance(part, (ast.FunctionDef, ast.Expr), name)
                 if isinstance(part, ast.FunctionDef) and part.name.startswith("__"):
-                    self.assertIn(part.name, ("__init__", "__eq__"))
+                    self.assertIn(part.name, ("__init__", "__eq__", "__len__"))
         for name, node in self.nodes(ast.FunctionDef):
             self.assertEqual(
                 (node.decorator_list, node.args.defaults, node.args.vararg, node.args.kwarg), ([], [], None, None)
             )
-            self.assertTrue(node.name in ("__init__", "__eq__") or ast.get_docstring(node), (name, node.name))
+            self.assertTrue(
+                node.name in ("__init__", "__eq__", "__len__") or ast.get_docstring(node), (name, node.name)
+            )
 
     def test_is_only_with_none_and_bools(self):
         for name, node in self.nodes(ast.Compare):
