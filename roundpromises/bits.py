@@ -62,6 +62,11 @@ def ringing_bit(moment, late):
     return SILENT if moment is None else 1 << (moment + late)
 
 
+def rung_bits(moment, slip):
+    """The ringings when the output is rung at a time, and late by each slip up to one."""
+    return SILENT if moment is None else ((2 << slip) - 1) << moment
+
+
 def time_bit(moment, length):
     """The bit of a time."""
     return 1 << (length + 1 if moment is None else moment)

@@ -1,6 +1,5 @@
 """For ever: from which modes all promises can be kept for ever, and what shows that, or that it is not so."""
 
-from roundpromises.checks import is_number, is_tuple_of
 from roundpromises.modes import (
     can_bar,
     is_allowed_at,
@@ -14,6 +13,7 @@ from roundpromises.modes import (
     task_with,
 )
 from roundpromises.one import latest
+from roundpromises.ranks import is_lower, is_ranked, ranked
 from roundpromises.rows import check_moment
 from roundpromises.sights import check_environment
 from roundpromises.works import are_modes, check_mode, check_works, task_of
@@ -107,32 +107,15 @@ def keeps_round(works, mode, environment, moment):
     return is_allowed_at(works, mode, environment, moment)
 
 
-def is_ranked(thing):
-    """Tell whether any value is a pair of a rank and something else."""
-    return is_tuple_of(thing, 2) and is_number(thing[0]) and thing[0] >= 1
-
-
 def ranks_of(works):
     """The rank of each mode, None for good ones, worked out once."""
     modes = modes_of(works)
     if modes.ranks is None:
-        modes.ranks = found_ranks(works)
+        found = ranked(
+            list(range(len(works))), lambda mode, ranks: can_bar(works, mode, sinking_to(works, ranks, mode))
+        )
+        modes.ranks = [found.get(mode) for mode in range(len(works))]
     return modes.ranks
-
-
-def found_ranks(works):
-    """The rank of each mode: rank by rank, those that cannot keep away from the ranks below."""
-    ranks = {}
-    level = 0
-    many = -1
-    while many < len(ranks):
-        many = len(ranks)
-        level += 1
-        left = [mode for mode in range(len(works)) if mode not in ranks]
-        lost = [mode for mode in left if not can_bar(works, mode, sinking_to(works, ranks, mode))]
-        for mode in lost:
-            ranks[mode] = level
-    return [ranks.get(mode) for mode in range(len(works))]
 
 
 def sinking_to(works, ranks, mode):
@@ -142,7 +125,7 @@ def sinking_to(works, ranks, mode):
 
 def sinking_letters(works, ranks, mode):
     """The letters that lead from a mode to one with a lesser rank."""
-    return letters_where([to in ranks and ranks[to] < ranks[mode] for to in works._ways[mode]])
+    return letters_where([is_lower(ranks, to, mode) for to in works._ways[mode]])
 
 
 def lost_letters(works, mode):

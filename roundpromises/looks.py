@@ -6,7 +6,9 @@ this environment has until then. A row has as its good times those whose looks i
 """
 
 from roundpromises.bits import all_times, time_bit, times_in
-from roundpromises.rows import cut, rows, times_of
+from roundpromises.checks import is_tuple_of
+from roundpromises.rows import cut, is_row_of, is_time, rows, times_of
+from roundpromises.sights import arrivals_in, is_environment_of
 from roundpromises.tables import Table
 
 
@@ -149,17 +151,37 @@ def is_answered_rightly(lay, wrongs, answers):
     return not any([wrong & time_bit(answers[row], lay.length) for wrong, row in zip(wrongs, lay.rows)])
 
 
-def strife_of(lay, at, judged):
+def strife_of(panel, at, every, is_wrong):
     """A pair of a row without good times and, for each time, an environment that spoils its look until then.
 
-    Judged is a list of triples of an environment, the place of its arrivals, and the times that are wrong in it.
+    Every is a list of environments, among which they are; is_wrong tells whether a time is wrong in one.
     """
+    lay = lay_of(panel)
     ends = dict(lay.parts[at])
     found = {}
-    for environment, place, wrong in judged:
-        for end, times in lay.parts[place]:
-            hit = wrong & times & ends.get(end, 0)
-            while hit:
-                found.setdefault(lowest(hit), environment)
-                hit = hit - lowest(hit)
-    return lay.rows[at], {time: found[time_bit(time, lay.length)] for time in times_of(lay.length)}
+    for environment in every:
+        for end, times in lay.parts[lay.places[arrivals_in(panel, environment)]]:
+            for time in times_in(times & ends.get(end, 0), lay.length):
+                if time not in found and is_wrong(time, environment):
+                    found[time] = environment
+    return lay.rows[at], {time: found[time] for time in times_of(lay.length)}
+
+
+def is_strife(panel, thing, speaks):
+    """Tell whether any value is a pair of a row of arrivals and a dict from just all times to environments.
+
+    Those of each time look like these arrivals until then, and speak, which is asked of both, against the time.
+    """
+    if not is_tuple_of(thing, 2) or not is_row_of(thing[0], len(panel.inputs), panel.length):
+        return False
+    arrivals, answers = thing
+    if not isinstance(answers, dict) or len(answers) != len(times_of(panel.length)):
+        return False
+    if not all([is_time(time, panel.length) for time in answers.keys()]):
+        return False
+    for time, environment in answers.items():
+        if not is_environment_of(panel, environment):
+            return False
+        if cut(arrivals_in(panel, environment), time) != cut(arrivals, time) or not speaks(time, environment):
+            return False
+    return True

@@ -21,6 +21,9 @@ class Modes:
         self.allowed = {}
         self.goods = {}
         self.tasks = {}
+        self.lefts = {}
+        self.rung = {}
+        self.heard = None
         self.ranks = None
 
 

@@ -1,7 +1,7 @@
 """One round: whether a Table keeps a task, which ones do, and what shows that none does."""
 
 from roundpromises.bits import allowed_bits, letter_bits, ringing_bit, times_in, wrong_times
-from roundpromises.checks import are_different, is_list, is_tuple_of
+from roundpromises.checks import are_different, is_list
 from roundpromises.errors import BadCondition, BadPromises, BadQuarrel, BadTask, BadWindow
 from roundpromises.looks import (
     answers_by_row,
@@ -9,6 +9,7 @@ from roundpromises.looks import (
     good_times,
     heard_wrongs,
     is_answered_rightly,
+    is_strife,
     last_times,
     latest_time,
     lay_of,
@@ -16,9 +17,8 @@ from roundpromises.looks import (
     table_of,
 )
 from roundpromises.promises import MOST_PROMISES, WHICH, are_promises, are_window_names, check_promise
-from roundpromises.rows import check_moment, check_row_of, cut, is_row_of, is_time, times_of
-from roundpromises.sights import Panel, arrivals_in, bringing, check_environment, check_few_environments
-from roundpromises.sights import is_environment_of
+from roundpromises.rows import check_moment, check_row_of, times_of
+from roundpromises.sights import Panel, bringing, check_environment, check_few_environments
 from roundpromises.tables import check_fits, check_table
 from roundpromises.terms import are_cases_of, is_condition_of, letters_of
 
@@ -121,15 +121,7 @@ def quarrel(task):
 def is_quarrel(task, thing):
     """Tell whether any value is a quarrel of a task."""
     check_task(task)
-    panel = task.panel
-    if not is_tuple_of(thing, 2) or not is_row_of(thing[0], size_of(task), panel.length):
-        return False
-    arrivals, answers = thing
-    if not isinstance(answers, dict) or len(answers) != len(times_of(panel.length)):
-        return False
-    if not all([is_time(time, panel.length) for time in answers.keys()]):
-        return False
-    return all([speaks_against(task, arrivals, time, environment) for time, environment in answers.items()])
+    return is_strife(task.panel, thing, lambda time, environment: not is_right_in(task, environment, time))
 
 
 def against(task, quarrel, table):
@@ -249,11 +241,3 @@ def spoiling(task, at, bit, time):
             wrong = [slip for slip in range(task.panel.slip + 1) if not task._ringings[row] & ringing_bit(time, slip)]
             return bringing(task.panel, lay.rows[row], lay.rows[arrivals], wrong[0])
     return None
-
-
-def speaks_against(task, arrivals, time, environment):
-    """Tell whether any value is an environment that looks like arrivals until a time that is wrong in it."""
-    if not is_environment_of(task.panel, environment):
-        return False
-    looks = cut(arrivals_in(task.panel, environment), time) == cut(arrivals, time)
-    return looks and not is_right_in(task, environment, time)

@@ -3,8 +3,8 @@
 from roundpromises.again import are_worths
 from roundpromises.checks import is_number, is_tuple_of, is_within
 from roundpromises.errors import BadGains, BadRounds, BadStock
-from roundpromises.ever import is_ranked
 from roundpromises.modes import can_bar, is_quarrel_with, is_table_with, letters_where, quarrel_with, table_with
+from roundpromises.ranks import is_ranked
 from roundpromises.works import are_modes, check_mode, check_works, is_mode
 
 MOST_GAIN = 9

@@ -64,7 +64,7 @@ class Works:
     def mode_behind(self, word):
         """The mode of a word."""
         check_word_of(word, self.letters)
-        return state_behind(self._ways, self.letters, word)
+        return led_by(self._ways, self.letters, word)
 
     def word_to(self, mode):
         """The first of the shortest words of a mode."""
@@ -182,7 +182,7 @@ def explored_modes(readers, many):
     return actives, ways
 
 
-def state_behind(ways, letters, word):
+def led_by(ways, letters, word):
     """The state to which ways lead from state 0 by the letters of a word."""
     at = 0
     for letter in word:

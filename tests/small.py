@@ -78,8 +78,8 @@ def free_works(seed):
 
 
 @functools.lru_cache(None)
-def tables_of(length):
-    return all_tables(1, length)
+def tables_of(length, size=1):
+    return all_tables(size, length)
 
 
 def ringing(environment, time):
@@ -105,7 +105,7 @@ class Rounds:
     def __init__(self, works):
         self.works = works
         self.every = environments(works.panel)
-        self.tables = tables_of(works.panel.length)
+        self.tables = tables_of(works.panel.length, len(works.panel.inputs))
         self.arrivals = {environment: arrivals_of(works.panel, environment) for environment in self.every}
         self.fits = {}
         self.letters = {}
@@ -137,6 +137,19 @@ class Rounds:
         """The pairs (letter, mode behind) of a set of letters."""
         ways = self.works.ways(mode)
         return [(letter, ways[letter]) for letter in sorted(letters)]
+
+    def good(self):
+        """The greatest set of modes each of which has an option that stays in it."""
+        modes = set(self.options)
+        left = None
+        while left != modes:
+            left = modes
+            modes = {
+                mode
+                for mode in left
+                if any(all(to in left for _, to in self.goes(mode, letters)) for letters in self.options[mode])
+            }
+        return modes
 
     def plans(self):
         """All ways to choose one option in each mode that has one."""

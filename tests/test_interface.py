@@ -7,6 +7,7 @@ import pathlib
 import unittest
 
 import roundpromises
+from roundpromises.machines import Machine
 from roundpromises.one import Task
 from roundpromises.sights import Panel
 from roundpromises.tables import Table, constant
@@ -14,9 +15,10 @@ from roundpromises.works import Works
 
 FOLDER = pathlib.Path(roundpromises.__file__).parent
 ORDER = ["errors", "rows", "terms", "promises", "sights", "tables", "one", "serving", "forms"]
-ORDER += ["works", "ever", "again", "stock"]
+ORDER += ["works", "ever", "again", "stock", "machines", "chances", "corners", "learning", "ledgers"]
 # Each further module, and the first module of the interface from which it does not import.
-FURTHER = {"checks": "rows", "bits": "sights", "looks": "one", "readers": "rows", "modes": "forms"}
+FURTHER = {"checks": "rows", "bits": "sights", "looks": "one", "readers": "rows", "modes": "forms", "ranks": "rows"}
+FURTHER.update({"courses": "forms", "odds": "forms", "views": "forms"})
 FUNCTIONS = {
     "rows": "is_row(thing, length) rows(size, length) first_of(row, places) last_of(row, places) "
     "latest_of(row, places) until(row, moment)",
@@ -43,6 +45,22 @@ FUNCTIONS = {
     "stock": "least_stock(works, gains, mode) stock_for(works, gains, mode, rounds) larder(works, gains) "
     "is_larder(works, gains, thing) ruin(works, gains, stock) is_ruin(works, gains, stock, thing) "
     "leak(works, gains) is_leak(works, gains, thing)",
+    "machines": "machines_alike(one, other) parting_course(one, other) least_machine(machine) "
+    "led(works, machine, environments) keeps_for_ever(works, machine) breaking(works, machine) machine_of(works) "
+    "is_fine_with(works, marks, machine) stock_with(works, gains, machine)",
+    "chances": "whole_weight(works, weights, rounds) best_weight(works, weights, mode, rounds) "
+    "plan(works, weights, rounds) is_plan(works, weights, rounds, thing) account(works, weights, rounds) "
+    "is_account(works, weights, rounds, thing) weight_with(works, weights, machine, rounds) "
+    "machine_for(works, weights, rounds) first_loss(works, weights, mode)",
+    "corners": "with_delays(works, delays) greatest_delays(works) least_delays(works) least_seen(works) "
+    "greatest_slip(works)",
+    "learning": "first_guess(works) guess_left(works, guess, row, arrivals) is_safe(works, mode, guess) "
+    "can_learn(works) lore(works) is_lore(works, thing) riddle(works) is_riddle(works, thing) "
+    "greatest_guesses(works) least_guesses(works)",
+    "ledgers": "view_left(works, ledger, view, arrivals, moment, name) course_to(works, ledger, seen, mode) "
+    "is_safe_view(works, ledger, view) can_do_with(works, ledger) wit(works, ledger) is_wit(works, ledger, thing) "
+    "blind_spot(works, ledger) is_blind_spot(works, ledger, thing) ledger_of(works, split) coarsest_splits(works) "
+    "finest_gaps(works)",
 }
 CLASSES = {
     ("sights", "Panel"): [
@@ -68,6 +86,13 @@ CLASSES = {
         "with_panel(self, panel)",
         "with_rule(self, rule)",
         "without(self, name)",
+        "__eq__(self, other)",
+    ],
+    ("machines", "Machine"): [
+        "__init__(self, size, length, letters, states)",
+        "__len__(self)",
+        "state_behind(self, word)",
+        "table_behind(self, word)",
         "__eq__(self, other)",
     ],
 }
@@ -104,6 +129,7 @@ class Interface(unittest.TestCase):
             (constant(1, 1, 0), "size length"),
             (Task(panel, [], [], []), "panel cases promises barred"),
             (Works(panel, [], []), "panel cases rules names letters"),
+            (Machine(1, 1, ("a",), [(constant(1, 1, 0), {"a": 0})]), "size length letters states"),
         ):
             for name in names.split():
                 self.assertIn(name, vars(thing))

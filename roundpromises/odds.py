@@ -1,0 +1,148 @@
+"""Odds: what the answers of one round are worth, look by look, if each row has a weight.
+
+A look until a moment is told by the pair of the moment and the place of the row that is heard until then; what is
+answered never, by the place of the row that is heard in the whole round. The worth of an answer is told letter by
+letter: the sum of the weights of the environments that keep the promises of the mode and leave this letter.
+"""
+
+from roundpromises.bits import ringing_bit
+from roundpromises.looks import lay_of
+from roundpromises.modes import allowed_rings, modes_of
+from roundpromises.rows import cut, times_of
+from roundpromises.tables import Table
+
+
+class Odds:
+    """The looks of a works' panel, and the worths of answers to them in each mode, worked out when asked for.
+
+    Looks are, for each moment, the ascending list of the places of the rows that can be heard until then; nexts
+    are, for each look but those until the last moment, the places of the rows that can be heard one moment later.
+    """
+
+    def __init__(self, works, weights):
+        lay = lay_of(works.panel)
+        self.works = works
+        self.lay = lay
+        self.weights = [weights[row] for row in lay.rows]
+        self.looks = [looks_until(lay, moment) for moment in range(lay.length + 1)]
+        self.nexts = {}
+        for moment, places in enumerate(self.looks[1:]):
+            for place in places:
+                look = (moment, lay.places[cut(lay.rows[place], moment)])
+                self.nexts.setdefault(look, []).append(place)
+        self.brought = [counted_places(works.panel, row, lay.places) for row in lay.rows]
+        self.worths = {}
+
+    def worths_in(self, mode):
+        """The dict from looks, and from pairs of None and a place, to the worths of answering then."""
+        if mode not in self.worths:
+            self.worths[mode] = found_worths(self, mode)
+        return self.worths[mode]
+
+
+def looks_until(lay, moment):
+    """The ascending list of the places of the rows that can be heard until a moment."""
+    return [at for at, row in enumerate(lay.rows) if cut(row, moment) == row]
+
+
+def counted_places(panel, row, places):
+    """The list of pairs of the place of arrivals and how many delays bring them with a row."""
+    found = [((), 1)]
+    for time, (least, greatest) in zip(row, panel.delays):
+        heard = {}
+        for delay in range(least, greatest + 1):
+            end = None if time is None or time + delay > panel.length else time + delay
+            heard[end] = heard.get(end, 0) + 1
+        found = [(ahead + (end,), many * more) for ahead, many in found for end, more in heard.items()]
+    return [(places[arrivals], many) for arrivals, many in found]
+
+
+def found_worths(odds, mode):
+    """What worths_in tells of a mode."""
+    panel = odds.works.panel
+    nothing = [0 for _ in odds.works.letters]
+    found = {(None, place): nothing for place in range(len(odds.lay.rows))}
+    for moment, places in enumerate(odds.looks):
+        for place in places:
+            found[(moment, place)] = nothing
+    allowed = allowed_rings(odds.works, mode)
+    leaving = modes_of(odds.works).leaving
+    for row, weight in enumerate(odds.weights):
+        if weight:
+            for moment in times_of(panel.length):
+                kept = kept_slips(allowed[row], leaving[row], moment, panel.slip)
+                if sum(kept):
+                    add_worths(odds, found, row, moment, [many * weight for many in kept])
+    return found
+
+
+def kept_slips(allowed, leaving, moment, slip):
+    """For each letter, with how many slips an answer keeps the promises and leaves it."""
+    rings = [ringing_bit(moment, late) & allowed for late in range(slip + 1)]
+    return [len([bit for bit in rings if bit & leaves]) for leaves in leaving]
+
+
+def add_worths(odds, found, row, moment, worths):
+    """Add the worths of an answer with a row to all looks that this row can bring."""
+    for place, many in odds.brought[row]:
+        if moment is not None:
+            place = odds.lay.places[cut(odds.lay.rows[place], moment)]
+        found[(moment, place)] = [ahead + many * worth for ahead, worth in zip(found[(moment, place)], worths)]
+
+
+def best_sums(odds, mode, behind):
+    """For each look the greatest sum that the answers to it can have, if a mode behind counts as often as told."""
+    sums = sums_of(odds, mode, behind)
+    last = odds.lay.length
+    found = {}
+    for moment in reversed(range(last + 1)):
+        for place in odds.looks[moment]:
+            found[(moment, place)] = max(sums[(moment, place)], waiting_sum(odds, sums, found, (moment, place)))
+    return found
+
+
+def waiting_sum(odds, sums, found, look):
+    """The sum of what is found for the looks into which one falls apart; behind the last moment, of never."""
+    if look[0] == odds.lay.length:
+        return sums[(None, look[1])]
+    return sum([found[(look[0] + 1, place)] for place in odds.nexts[look]])
+
+
+def sums_of(odds, mode, behind):
+    """For each look the sum of the worths of answering then, each letter counting as often as its mode behind."""
+    counts = [behind[to] for to in odds.works._ways[mode]]
+    return {
+        look: sum([worth * count for worth, count in zip(worths, counts)])
+        for look, worths in odds.worths_in(mode).items()
+    }
+
+
+def top_of(odds, found):
+    """The sum of what is found for all looks until the moment 0."""
+    return sum([found[(0, place)] for place in odds.looks[0]])
+
+
+def best_table(odds, mode, behind):
+    """A Table whose answers have the greatest sum: it answers a look if no later answers can have more."""
+    sums = sums_of(odds, mode, behind)
+    found = best_sums(odds, mode, behind)
+    answers = {}
+    for row in odds.lay.rows:
+        answers[row] = None
+        for moment in reversed(range(odds.lay.length + 1)):
+            look = (moment, odds.lay.places[cut(row, moment)])
+            if sums[look] >= waiting_sum(odds, sums, found, look):
+                answers[row] = moment
+    return Table(odds.lay.size, odds.lay.length, answers)
+
+
+def table_worths(odds, mode, table):
+    """The worths of a Table in a mode, letter by letter: those of all looks that it answers."""
+    answered = {}
+    for row, moment in table.answers().items():
+        answered[(moment, odds.lay.places[cut(row, moment)])] = True
+    worths = odds.worths_in(mode)
+    found = [0 for _ in odds.works.letters]
+    for look in answered:
+        found = [ahead + worth for ahead, worth in zip(found, worths[look])]
+    return found
