@@ -8,9 +8,9 @@ from roundpromises.promises import LAST_RINGING, span_at
 from roundpromises.rows import times_of
 from roundpromises.terms import is_term_true, time_at
 
-SILENT = 1 << (LAST_RINGING + 1)
-RINGS = SILENT - 1
-ALL_RINGINGS = RINGS + SILENT
+SILENT = 2048
+RINGS = 2047
+ALL_RINGINGS = 4095
 
 
 def allowed_bits(promises, times):

@@ -34,7 +34,7 @@ def is_safe(works, mode, guess):
     check_learning(works)
     check_mode(works, mode)
     check_guess(works, guess)
-    return (mode, tuple(guess)) not in ranks_from(works, [(mode, guess)])
+    return (mode, guess) not in ranks_from(works, [(mode, guess)])
 
 
 def can_learn(works):

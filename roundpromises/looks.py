@@ -24,6 +24,7 @@ class Lay:
         self.size = len(panel.inputs)
         self.length = panel.length
         self.times = {time_bit(time, panel.length): time for time in times_of(panel.length)}
+        self.told = {}
         self.rows = rows(self.size, panel.length)
         self.places = {row: at for at, row in enumerate(self.rows)}
         self.parts = [parts_of(row, panel.length, self.places) for row in self.rows]
@@ -63,9 +64,7 @@ def brought_places(panel):
 
 
 def heard_at(time, least, greatest, length):
-    """The times at which one input may be heard, with length + 1 for never."""
-    if time > length:
-        return [time]
+    """The times at which one input may be heard, with length + 1 for never, also for its own time."""
     first = min(time + least, length + 1)
     return list(range(first, min(time + greatest, length + 1) + 1))
 
@@ -101,10 +100,11 @@ def good_times(lay, wrongs):
     return found
 
 
-def answers_by_row(lay, goods):
-    """The dict from all rows to the ascending tuples of their good times."""
-    told = {bits: times_in(bits, lay.length) for bits in sorted(set(goods))}
-    return {row: told[bits] for row, bits in zip(lay.rows, goods)}
+def told_times(lay, bits):
+    """The ascending tuple of the times whose bits a number has, worked out once."""
+    if bits not in lay.told:
+        lay.told[bits] = times_in(bits, lay.length)
+    return lay.told[bits]
 
 
 def last_times(lay, goods):

@@ -1,10 +1,9 @@
 """One round: whether a Table keeps a task, which ones do, and what shows that none does."""
 
-from roundpromises.bits import allowed_bits, letter_bits, ringing_bit, times_in, wrong_times
+from roundpromises.bits import allowed_bits, letter_bits, ringing_bit, wrong_times
 from roundpromises.checks import are_different, is_list
 from roundpromises.errors import BadCondition, BadPromises, BadQuarrel, BadTask, BadWindow
 from roundpromises.looks import (
-    answers_by_row,
     earliest_table,
     good_times,
     heard_wrongs,
@@ -15,6 +14,7 @@ from roundpromises.looks import (
     lay_of,
     look_until,
     table_of,
+    told_times,
 )
 from roundpromises.promises import MOST_PROMISES, WHICH, are_promises, are_window_names, check_promise
 from roundpromises.rows import check_moment, check_row_of, times_of
@@ -45,7 +45,7 @@ class Task:
         self._wrongs = [wrong_times(ringings, panel.length, panel.slip) for ringings in self._ringings]
         self._heard_wrongs = heard_wrongs(lay, self._wrongs)
         self._goods = good_times(lay, self._heard_wrongs)
-        self._answers = answers_by_row(lay, self._goods)
+        self._answers = {row: told_times(lay, bits) for row, bits in zip(lay.rows, self._goods)}
         self._lasts = last_times(lay, self._goods) if is_kept(self) else []
         self._quarrel = None if is_kept(self) else found_quarrel(self, self._goods.index(0))
 
@@ -106,7 +106,7 @@ def had(task, arrivals):
     lay = lay_of(task.panel)
     at = lay.places[arrivals]
     last = latest_time(lay, task._goods, task._lasts, at)
-    return times_in(task._goods[at] & (2 * last - 1), lay.length)
+    return told_times(lay, task._goods[at] & (2 * last - 1))
 
 
 def quarrel(task):

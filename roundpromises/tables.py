@@ -26,11 +26,12 @@ class Table:
             raise BadTable("size")
         if not is_within(length, 1, LONGEST):
             raise BadTable("length")
-        if not are_answers(answers, size, length):
+        every = rows(size, length)
+        if not are_answers(answers, every, size, length):
             raise BadTable("answers")
         self.size = size
         self.length = length
-        self._answers = {row: answers[row] for row in rows(size, length)}
+        self._answers = {row: answers[row] for row in every}
 
     def __eq__(self, other):
         return (
@@ -99,13 +100,13 @@ def check_fits(panel, table):
         raise OtherTables("the table has the size and the length of the panel")
 
 
-def are_answers(thing, size, length):
-    """Tell whether any value is the answers of a Table."""
-    if not isinstance(thing, dict) or len(thing) != len(rows(size, length)):
+def are_answers(thing, every, size, length):
+    """Tell whether any value is the answers of a Table; every is the list of all its rows."""
+    if not isinstance(thing, dict) or len(thing) != len(every):
         return False
     if not all([is_row_of(row, size, length) and is_time(time, length) for row, time in thing.items()]):
         return False
-    return all([is_settled(thing, row) for row in rows(size, length)])
+    return all([is_settled(thing, row) for row in every])
 
 
 def is_settled(answers, row):

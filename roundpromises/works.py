@@ -172,13 +172,13 @@ def explored_modes(readers, many):
 
     def step(state, letter):
         """The states of all readers behind one letter more."""
-        return tuple([ways[at][letter] for at, (_, ways) in zip(state, readers)])
+        return tuple([behind[at][letter] for at, (_, behind) in zip(state, readers)])
 
     told = explored_within(tuple([0 for _ in readers]), step, many, MOST_MODES)
     if told is None:
         return None
     found, ways = told
-    actives = [[rule for rule, (marks, _) in enumerate(readers) if marks[state[rule]]] for state in found]
+    actives = [[rule for rule, (marks, _) in enumerate(readers) if marks[places[rule]]] for places in found]
     return actives, ways
 
 

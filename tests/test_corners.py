@@ -138,6 +138,17 @@ class Seen(Case):
         self.same(greatest_delays(works), [(3, 0, 3)])
         self.same(least_delays(works), [(0, 1, 0)])
 
+    def test_not_seen_is_later_than_the_end(self):
+        """Whoever hears of b as late as the last moment hears of it at 0 alone, and that would be enough."""
+        rules = [
+            ("x", ALWAYS, ((("gap", "b", "start", 0),), ("first", ("start",), 2, 2))),
+            ("y", ALWAYS, ((("gap", "start", "b", 1),), ("never",))),
+            ("z", ALWAYS, ((("silent", "b"),), ("never",))),
+        ]
+        works = Works(Panel(["b"], 2, None, 0), [], rules)
+        self.same((greatest_delays(works), least_delays(works)), ([(2,)], [(3,)]))
+        self.same(least_seen(works), [("b",)])
+
     def test_one_of_two(self):
         """Whoever sees either input can take the other one to ring with it."""
         asks = ((("rings", "a"), ("rings", "b")), ("first", ("start",), 2, 2))

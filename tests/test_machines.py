@@ -90,8 +90,10 @@ class Making(Case):
             ((None, None, None, None), "size"),
             ((4, 2, LETTERS, []), "size"),
             ((True, 2, LETTERS, []), "size"),
+            ((0, 2, LETTERS, []), "size"),
             ((1, None, None, None), "length"),
             ((1, 9, None, None), "length"),
+            ((1, 0, None, None), "length"),
             ((1, False, None, None), "length"),
             ((1, 2, None, None), "letters"),
             ((1, 2, [], None), "letters"),
@@ -143,6 +145,7 @@ class Making(Case):
             CALM,
         ):
             self.assertFalse(machine == unlike)
+        self.assertFalse(Machine(1, 2, ("y", "x", "other"), [(NEVER, LOOP)]) == CALM)
         self.assertFalse(Machine(2, 2, LETTERS, [(constant(2, 2, None), LOOP)]) == CALM)
         for other in JUNK:
             self.assertFalse(machine == other)

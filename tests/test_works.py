@@ -289,10 +289,16 @@ class Same(Case):
         self.assertIs(same_plays(more, one), True)
 
     def test_only_ringings_up_to_two_behind_the_end_count(self):
-        rules = [[("r", ALWAYS, ((), ("first", ("start",), 0, high)))] for high in (3, 4, 5)]
-        three, four, five = [Works(PANEL, CASES, told) for told in rules]
-        self.same(parting_letters(three, four), ())
-        self.assertIsNone(parting_letters(four, five))
+        def asking(low, high):
+            return Works(PANEL, CASES, [("r", ALWAYS, ((), ("first", ("start",), low, high)))])
+
+        for high in range(8):
+            # Both allow the same but for the ringing at high.
+            wanted = () if high <= PANEL.length + 2 else None
+            self.same(parting_letters(asking(0, high), asking(0, high - 1) if high else asking(1, 8)), wanted)
+            self.same(parting_letters(asking(0, 8), asking(1, 8)), ())
+        silent = Works(PANEL, CASES, [("r", ALWAYS, ((), ("first", ("start",), 0, 8)))])
+        self.same(parting_letters(Works(PANEL, CASES, []), silent), ())
 
     def test_wrong(self):
         works = Works(PANEL, CASES, [])
