@@ -2,10 +2,11 @@
 
 from roundpromises.checks import is_number, is_tuple_of, is_within
 from roundpromises.errors import BadRounds, BadWeights, TooMany
+from roundpromises.looks import lay_of
 from roundpromises.machines import check_pair, machine_with
 from roundpromises.modes import is_table_for
-from roundpromises.odds import Odds, best_sums, best_table, sums_of, table_worths, top_of, waiting_sum
-from roundpromises.rows import cut, is_row_of, rows
+from roundpromises.odds import best_sums, best_table, bests_of, odds_of, sums_of, table_worths, top_of, waiting_sum
+from roundpromises.rows import cut, is_row_of
 from roundpromises.stock import check_rounds
 from roundpromises.works import check_mode, check_works, is_mode
 
@@ -18,7 +19,7 @@ def whole_weight(works, weights, rounds):
     check_works(works)
     check_weights(works, weights)
     check_rounds(rounds)
-    return whole_of(Odds(works, weights), rounds)
+    return whole_of(odds_of(works, weights), rounds)
 
 
 def best_weight(works, weights, mode, rounds):
@@ -27,7 +28,7 @@ def best_weight(works, weights, mode, rounds):
     check_weights(works, weights)
     check_mode(works, mode)
     check_rounds(rounds)
-    return bests_of(Odds(works, weights), rounds)[rounds][mode]
+    return bests_of(odds_of(works, weights), rounds)[rounds][mode]
 
 
 def plan(works, weights, rounds):
@@ -35,7 +36,7 @@ def plan(works, weights, rounds):
     check_works(works)
     check_weights(works, weights)
     check_rounds(rounds)
-    odds = Odds(works, weights)
+    odds = odds_of(works, weights)
     bests = bests_of(odds, rounds)
     return {(mode, left): best_table(odds, mode, bests[left - 1]) for mode, left in all_pairs(works, rounds)}
 
@@ -49,7 +50,7 @@ def is_plan(works, weights, rounds, thing):
         return False
     if not all([is_pair_left(works, rounds, key) and is_table_for(works, table) for key, table in thing.items()]):
         return False
-    odds = Odds(works, weights)
+    odds = odds_of(works, weights)
     bests = bests_of(odds, rounds)
     for mode, left in all_pairs(works, rounds):
         # The pairs with fewer rounds left were found to reach the best weights, so these count behind the round.
@@ -63,7 +64,7 @@ def account(works, weights, rounds):
     check_works(works)
     check_weights(works, weights)
     check_rounds(rounds)
-    odds = Odds(works, weights)
+    odds = odds_of(works, weights)
     bests = bests_of(odds, rounds)
     found = {}
     for mode, left in all_pairs(works, rounds):
@@ -79,7 +80,7 @@ def is_account(works, weights, rounds, thing):
     check_works(works)
     check_weights(works, weights)
     check_rounds(rounds)
-    odds = Odds(works, weights)
+    odds = odds_of(works, weights)
     many = sum([len(places) for places in odds.looks])
     if not isinstance(thing, dict) or len(thing) != len(works) * rounds * many:
         return False
@@ -103,7 +104,7 @@ def weight_with(works, weights, machine, rounds):
     check_weights(works, weights)
     check_pair(works, machine)
     check_rounds(rounds)
-    odds = Odds(works, weights)
+    odds = odds_of(works, weights)
     pairs = [(mode, state) for mode in range(len(works)) for state in range(len(machine))]
     worths = {pair: table_worths(odds, pair[0], machine.states[pair[1]][0]) for pair in pairs}
     kept = {pair: 1 for pair in pairs}
@@ -140,7 +141,7 @@ def first_loss(works, weights, mode):
     check_works(works)
     check_weights(works, weights)
     check_mode(works, mode)
-    odds = Odds(works, weights)
+    odds = odds_of(works, weights)
     bests = bests_of(odds, len(works))
     for rounds in range(1, len(works) + 1):
         if bests[rounds][mode] < whole_of(odds, rounds):
@@ -150,15 +151,18 @@ def first_loss(works, weights, mode):
 
 def check_weights(works, weights):
     """Refuse what are no weights of a works."""
-    if not are_weights(weights, len(works.panel.inputs), works.panel.length):
+    if not are_weights(weights, works.panel):
         raise BadWeights("weights are a dict from just all rows of the panel to numbers from 0 to 9")
 
 
-def are_weights(thing, size, length):
-    """Tell whether any value is a dict from just all rows of a size and a length to numbers from 0 to 9."""
-    if not isinstance(thing, dict) or len(thing) != len(rows(size, length)):
+def are_weights(thing, panel):
+    """Tell whether any value is a dict from just all rows of a panel to numbers from 0 to 9."""
+    lay = lay_of(panel)
+    if not isinstance(thing, dict) or len(thing) != len(lay.rows):
         return False
-    return all([is_row_of(row, size, length) and is_within(weight, 0, MOST_WEIGHT) for row, weight in thing.items()])
+    if not all([is_within(weight, 0, MOST_WEIGHT) for weight in thing.values()]):
+        return False
+    return all([is_row_of(row, lay.size, lay.length) for row in thing.keys()])
 
 
 def all_pairs(works, rounds):
@@ -188,15 +192,6 @@ def whole_of(odds, rounds):
     found = 1
     for _ in range(rounds):
         found = found * sum(odds.weights) * many
-    return found
-
-
-def bests_of(odds, rounds):
-    """For each number of rounds up to one the list of the best weights of the modes."""
-    found = [[1 for _ in range(len(odds.works))]]
-    for _ in range(rounds):
-        behind = found[-1]
-        found.append([top_of(odds, best_sums(odds, mode, behind)) for mode in range(len(odds.works))])
     return found
 
 

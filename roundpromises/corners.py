@@ -41,7 +41,7 @@ def least_seen(works):
     for name in inputs:
         lots = lots + [lot + (name,) for lot in lots]
     doing = [lot for lot in lots if is_lasting(delayed(works, seen_delays(works.panel, lot)))]
-    return sorted([lot for lot in doing if not any([one_left_out(lot, name) in doing for name in lot])])
+    return sorted([lot for lot in doing if not any([less in doing for less in one_left_out(lot)])])
 
 
 def greatest_slip(works):
@@ -106,6 +106,6 @@ def seen_delays(panel, lot):
     return tuple([0 if name in lot else panel.length + 1 for name in panel.inputs])
 
 
-def one_left_out(lot, name):
-    """The lot without one of its names."""
-    return tuple([other for other in lot if other != name])
+def one_left_out(lot):
+    """The list of the lots with one name less."""
+    return [lot[:at] + lot[at + 1 :] for at in range(len(lot))]

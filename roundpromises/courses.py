@@ -111,7 +111,8 @@ def all_behind(ways, start):
     found = {start: True}
     left = [start]
     while left:
-        for end in ways[left.pop()]:
+        place = left.pop()
+        for end in ways[place]:
             if end not in found:
                 found[end] = True
                 left.append(end)

@@ -41,9 +41,9 @@ class Lay:
 
 def lay_of(panel):
     """The Lay of a panel, worked out once."""
-    if panel._lay is None:
-        panel._lay = Lay(panel)
-    return panel._lay
+    if panel._looks is None:
+        panel._looks = Lay(panel)
+    return panel._looks
 
 
 def parts_of(row, length, places):

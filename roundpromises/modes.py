@@ -24,6 +24,7 @@ class Modes:
         self.lefts = {}
         self.rung = {}
         self.heard = None
+        self.odds = {}
         self.ranks = None
 
 

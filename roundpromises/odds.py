@@ -17,6 +17,8 @@ class Odds:
 
     Looks are, for each moment, the ascending list of the places of the rows that can be heard until then; nexts
     are, for each look but those until the last moment, the places of the rows that can be heard one moment later.
+    Ends are, for each row and each moment, the place of the row to which it is cut then. Bests are, for each number
+    of rounds from 0 on as far as it was asked for, the best weights of the modes.
     """
 
     def __init__(self, works, weights):
@@ -24,14 +26,15 @@ class Odds:
         self.works = works
         self.lay = lay
         self.weights = [weights[row] for row in lay.rows]
-        self.looks = [looks_until(lay, moment) for moment in range(lay.length + 1)]
+        self.ends = [ends_of(lay, row) for row in lay.rows]
+        self.looks = [looks_until(self.ends, moment) for moment in range(lay.length + 1)]
         self.nexts = {}
         for moment, places in enumerate(self.looks[1:]):
             for place in places:
-                look = (moment, lay.places[cut(lay.rows[place], moment)])
-                self.nexts.setdefault(look, []).append(place)
+                self.nexts.setdefault((moment, self.ends[place][moment]), []).append(place)
         self.brought = [counted_places(works.panel, row, lay.places) for row in lay.rows]
         self.worths = {}
+        self.bests = [[1 for _ in range(len(works))]]
 
     def worths_in(self, mode):
         """The dict from looks, and from pairs of None and a place, to the worths of answering then."""
@@ -40,9 +43,23 @@ class Odds:
         return self.worths[mode]
 
 
-def looks_until(lay, moment):
+def odds_of(works, weights):
+    """The Odds of a works with weights, worked out once."""
+    known = modes_of(works).odds
+    told = tuple([weights[row] for row in lay_of(works.panel).rows])
+    if told not in known:
+        known[told] = Odds(works, weights)
+    return known[told]
+
+
+def ends_of(lay, row):
+    """For each moment the place of the row to which a row is cut then."""
+    return [lay.places[cut(row, moment)] for moment in range(lay.length + 1)]
+
+
+def looks_until(ends, moment):
     """The ascending list of the places of the rows that can be heard until a moment."""
-    return [at for at, row in enumerate(lay.rows) if cut(row, moment) == row]
+    return [at for at, places in enumerate(ends) if places[moment] == at]
 
 
 def counted_places(panel, row, places):
@@ -85,9 +102,8 @@ def kept_slips(allowed, leaving, moment, slip):
 def add_worths(odds, found, row, moment, worths):
     """Add the worths of an answer with a row to all looks that this row can bring."""
     for place, many in odds.brought[row]:
-        if moment is not None:
-            place = odds.lay.places[cut(odds.lay.rows[place], moment)]
-        found[(moment, place)] = [ahead + many * worth for ahead, worth in zip(found[(moment, place)], worths)]
+        look = (moment, place if moment is None else odds.ends[place][moment])
+        found[look] = [ahead + many * worth for ahead, worth in zip(found[look], worths)]
 
 
 def best_sums(odds, mode, behind):
@@ -122,15 +138,23 @@ def top_of(odds, found):
     return sum([found[(0, place)] for place in odds.looks[0]])
 
 
+def bests_of(odds, rounds):
+    """For each number of rounds, at least up to one, the list of the best weights of the modes."""
+    while len(odds.bests) <= rounds:
+        behind = odds.bests[-1]
+        odds.bests.append([top_of(odds, best_sums(odds, mode, behind)) for mode in range(len(behind))])
+    return odds.bests
+
+
 def best_table(odds, mode, behind):
     """A Table whose answers have the greatest sum: it answers a look if no later answers can have more."""
     sums = sums_of(odds, mode, behind)
     found = best_sums(odds, mode, behind)
     answers = {}
-    for row in odds.lay.rows:
+    for row, ends in zip(odds.lay.rows, odds.ends):
         answers[row] = None
         for moment in reversed(range(odds.lay.length + 1)):
-            look = (moment, odds.lay.places[cut(row, moment)])
+            look = (moment, ends[moment])
             if sums[look] >= waiting_sum(odds, sums, found, look):
                 answers[row] = moment
     return Table(odds.lay.size, odds.lay.length, answers)
@@ -139,8 +163,10 @@ def best_table(odds, mode, behind):
 def table_worths(odds, mode, table):
     """The worths of a Table in a mode, letter by letter: those of all looks that it answers."""
     answered = {}
-    for row, moment in table.answers().items():
-        answered[(moment, odds.lay.places[cut(row, moment)])] = True
+    answers = table.answers()
+    for place, row in enumerate(odds.lay.rows):
+        moment = answers[row]
+        answered[(moment, place if moment is None else odds.ends[place][moment])] = True
     worths = odds.worths_in(mode)
     found = [0 for _ in odds.works.letters]
     for look in answered:

@@ -26,7 +26,7 @@ class Panel:
         self.delays = tuple([(0, 0) if sight is None else sight[name] for name in names])
         self.slip = slip
         # What looks.py works out for this panel once, when it is asked for.
-        self._lay = None
+        self._looks = None
 
     def __eq__(self, other):
         return (

@@ -20,7 +20,7 @@ WHETHER = (
     "holds look_alike keeps on_top serves matches lasts keeps_round same_plays keeps_for_ever machines_alike".split()
 )
 # What objects work out once, when it is asked for.
-KEPT = ("_lay", "_modes")
+KEPT = ("_looks", "_modes")
 
 
 def shown(value):
