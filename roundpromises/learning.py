@@ -75,7 +75,8 @@ def riddle(works):
     ranks = ranks_from(works, [first])
     if first not in ranks:
         return None
-    return {place: (ranks[place], found_strife(works, place, ranks)) for place in sorted(ranks)}
+    every = environments(works.panel)
+    return {place: (ranks[place], found_strife(works, place, ranks, every)) for place in sorted(ranks)}
 
 
 def is_riddle(works, thing):
@@ -260,8 +261,8 @@ def is_strife_at(works, place, ranks, thing):
     return is_strife(works.panel, thing, speaks)
 
 
-def found_strife(works, place, ranks):
-    """A strife at a place that is not safe."""
+def found_strife(works, place, ranks, every):
+    """A strife at a place that is not safe, of some of the environments, which are all of the panel."""
 
     def is_barred(then):
         """Tell whether a place has a lesser rank."""
@@ -271,5 +272,5 @@ def found_strife(works, place, ranks):
         """Tell whether a time is wrong in an environment."""
         return is_wrong_at(works, place, is_barred, time, environment)
 
-    every = [environment for environment in environments(works.panel) if environment[1] in place[1]]
-    return strife_of(works.panel, goods_at(works, place, is_barred).index(0), every, is_wrong)
+    known = [environment for environment in every if environment[1] in place[1]]
+    return strife_of(works.panel, goods_at(works, place, is_barred).index(0), known, is_wrong)

@@ -6,6 +6,7 @@ from roundpromises.looks import earliest_table, is_answered_rightly, lay_of
 from roundpromises.modes import is_table_for
 from roundpromises.ranks import is_ranked
 from roundpromises.rows import check_moment, check_row_of, is_row_of, is_time
+from roundpromises.sights import environments
 from roundpromises.views import (
     environment_leaving,
     found_strife,
@@ -96,7 +97,8 @@ def blind_spot(works, ledger):
     ranks = ranks_from(works, ledger, (0,))
     if (0,) not in ranks:
         return None
-    return {view: (ranks[view], found_strife(works, ledger, view, ranks)) for view in sorted(ranks)}
+    every = environments(works.panel)
+    return {view: (ranks[view], found_strife(works, ledger, view, ranks, every)) for view in sorted(ranks)}
 
 
 def is_blind_spot(works, ledger, thing):

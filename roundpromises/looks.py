@@ -160,8 +160,10 @@ def strife_of(panel, at, every, is_wrong):
     ends = dict(lay.parts[at])
     found = {}
     for environment in every:
+        if len(found) == len(lay.times):
+            break
         for end, times in lay.parts[lay.places[arrivals_in(panel, environment)]]:
-            for time in times_in(times & ends.get(end, 0), lay.length):
+            for time in told_times(lay, times & ends.get(end, 0)):
                 if time not in found and is_wrong(time, environment):
                     found[time] = environment
     return lay.rows[at], {time: found[time] for time in times_of(lay.length)}

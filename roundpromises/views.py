@@ -5,7 +5,7 @@ from roundpromises.looks import good_times, heard_wrongs, is_strife, lay_of, str
 from roundpromises.modes import allowed_rings, is_allowed_at, letter_at, letters_where, modes_of, wrongs_of
 from roundpromises.ranks import is_lower, ranked
 from roundpromises.rows import times_of
-from roundpromises.sights import arrivals_in, bringing, environments
+from roundpromises.sights import arrivals_in, bringing
 
 
 def possible_letters(works, arrivals, moment):
@@ -134,8 +134,8 @@ def is_strife_at(works, ledger, view, ranks, thing):
     return is_strife(works.panel, thing, speaks)
 
 
-def found_strife(works, ledger, view, ranks):
-    """A strife at a view that is not safe."""
+def found_strife(works, ledger, view, ranks, every):
+    """A strife at a view that is not safe, of some of the environments, which are all of the panel."""
 
     def is_barred(then):
         """Tell whether a view has a lesser rank."""
@@ -146,4 +146,4 @@ def found_strife(works, ledger, view, ranks):
         return is_wrong_at(works, ledger, view, is_barred, time, environment)
 
     at = goods_at(works, ledger, view, is_barred).index(0)
-    return strife_of(works.panel, at, environments(works.panel), is_wrong)
+    return strife_of(works.panel, at, every, is_wrong)
