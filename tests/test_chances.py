@@ -175,6 +175,18 @@ class Bests(Case):
             },
         )
 
+    def test_rounds_and_weights_in_any_order(self):
+        works = Works(Panel(["b"], 1, {"b": (0, 1)}, 0), [], [("r", ALWAYS, ((), ("first", ("b",), 0, 0)))])
+        weights = {(0,): 5, (1,): 3, (None,): 1}
+        for rounds in (3, 0, 1, 4, 2):
+            self.same(best_weight(works, weights, 0, rounds), 13**rounds)
+        weights[(1,)] = 0
+        # Not heard at 0: ring for 5 + 1 + 1, which is more than 1 + 1 for waiting.
+        self.same(best_weight(works, weights, 0, 2), 12**2)
+        self.same((whole_weight(works, weights, 2), first_loss(works, weights, 0)), (12**2, None))
+        weights[(1,)] = 3
+        self.same(best_weight(works, dict(reversed(weights.items())), 0, 2), 13**2)
+
     def test_no_rounds(self):
         self.same((whole_weight(WORKS, ALL_ONE, 0), best_weight(WORKS, ALL_ONE, 1, 0)), (1, 1))
         self.same((plan(WORKS, ALL_ONE, 0), account(WORKS, ALL_ONE, 0)), ({}, {}))
