@@ -1,7 +1,9 @@
-"""Courses of a machine: to which pairs of a mode and a state its rounds lead, and by which letters.
+"""Courses: to which pairs of a mode of a works and a state the rounds of somebody lead, and by which letters.
 
-A machine is here whatever has states: pairs of a Table and the indexes of the states behind the letters, in their
-order. The ringings that *come* in a state are, for each row of true times, those that its Table brings there.
+Somebody has *states*: a list of pairs of what is answered and the indexes of the states behind the letters, in their
+order. What is answered is told, for each row of arrivals, by the tuple of the times that may be: a Machine has just
+one, whoever plays a works may have many. The ringings that *come* in a state are, for each row of true times, those
+that its answers bring there.
 """
 
 from roundpromises.bits import ALL_RINGINGS, ringing_bit, rung_bits
@@ -10,13 +12,16 @@ from roundpromises.modes import allowed_rings, modes_of
 from roundpromises.sights import bringing
 
 
-def coming_rings(works, table):
-    """For each row of true times the ringings that come when a Table answers."""
-    lay = lay_of(works.panel)
-    answers = table.answers()
-    rings = [rung_bits(answers[row], works.panel.slip) for row in lay.rows]
+def coming_rings(works, answers):
+    """For each row of true times the ringings that come with answers, told for each row of arrivals."""
+    rings = []
+    for times in answers:
+        bits = 0
+        for time in times:
+            bits = bits | rung_bits(time, works.panel.slip)
+        rings.append(bits)
     found = []
-    for places in lay.brought:
+    for places in lay_of(works.panel).brought:
         bits = 0
         for place in places:
             bits = bits | rings[place]
@@ -37,18 +42,18 @@ def kept_letters(works, mode, coming):
     return [at for at, bits in enumerate(found) if bits]
 
 
-def met_pairs(works, machine):
+def met_pairs(works, states):
     """The dict from all pairs (mode, state) met while promises are kept, the nearest first.
 
     Each leads to the list of its ends: pairs of the index of a letter and the pair behind it.
     """
-    coming = [coming_rings(works, table) for table, _ in machine.states]
+    coming = [coming_rings(works, answers) for answers, _ in states]
     known = {(0, 0): True}
     left = [(0, 0)]
     found = {}
     while len(found) < len(left):
         mode, state = left[len(found)]
-        _, ways = machine.states[state]
+        _, ways = states[state]
         ends = [(at, (works._ways[mode][at], ways[at])) for at in kept_letters(works, mode, coming[state])]
         for _, pair in ends:
             if pair not in known:
@@ -58,40 +63,40 @@ def met_pairs(works, machine):
     return found
 
 
-def first_broken_pair(works, machine, met):
+def first_broken_pair(works, states, met):
     """The first of the pairs met in which a promise may be broken; None if there is none."""
-    coming = [coming_rings(works, table) for table, _ in machine.states]
+    coming = [coming_rings(works, answers) for answers, _ in states]
     for mode, state in met:
         if is_broken(works, mode, coming[state]):
             return mode, state
     return None
 
 
-def course_to_break(works, machine, met, pair):
-    """A list of environments that leads to a pair, the nearest way, and breaks a promise there."""
+def course_to_break(works, states, met, pair):
+    """A list of pairs of an environment and the answer that leads to a pair, the nearest way, and breaks a promise."""
     ahead = {}
     for start, ends in met.items():
         for letter, end in ends:
             ahead.setdefault(end, (start, letter))
     broken = [ALL_RINGINGS & ~rings for rings in allowed_rings(works, pair[0])]
-    found = [environment_with(works, machine.states[pair[1]][0], broken)]
+    found = [round_with(works, states[pair[1]][0], broken)]
     while pair != (0, 0):
         pair, letter = ahead[pair]
         leaving = [leaves[letter] for leaves in modes_of(works).leaving]
         wanted = [rings & leaves for rings, leaves in zip(allowed_rings(works, pair[0]), leaving)]
-        found = [environment_with(works, machine.states[pair[1]][0], wanted)] + found
+        found = [round_with(works, states[pair[1]][0], wanted)] + found
     return found
 
 
-def environment_with(works, table, wanted):
-    """An environment in which a ringing comes that is wanted for its row; None if there is none."""
+def round_with(works, answers, wanted):
+    """An environment and an answer with which a ringing comes that is wanted for its row; None if there is none."""
     lay = lay_of(works.panel)
     for row, places in enumerate(lay.brought):
         for place in places:
-            moment = table.answer(lay.rows[place])
-            for slip in range(works.panel.slip + 1):
-                if ringing_bit(moment, slip) & wanted[row]:
-                    return bringing(works.panel, lay.rows[row], lay.rows[place], slip)
+            for moment in answers[place]:
+                for slip in range(works.panel.slip + 1):
+                    if ringing_bit(moment, slip) & wanted[row]:
+                        return bringing(works.panel, lay.rows[row], lay.rows[place], slip), moment
     return None
 
 

@@ -112,15 +112,18 @@ def led(works, machine, environments):
 def keeps_for_ever(works, machine):
     """Tell whether each round of every course keeps the promises of the active rules."""
     check_pair(works, machine)
-    return is_kept_for_ever(works, machine, met_pairs(works, machine))
+    return is_kept_for_ever(works, machine, met_by(works, machine))
 
 
 def breaking(works, machine):
     """A list of environments, as few as can be, the last of which breaks a promise; None if there is none."""
     check_pair(works, machine)
-    met = met_pairs(works, machine)
-    pair = first_broken_pair(works, machine, met)
-    return None if pair is None else course_to_break(works, machine, met, pair)
+    states = states_of(machine)
+    met = met_pairs(works, states)
+    pair = first_broken_pair(works, states, met)
+    if pair is None:
+        return None
+    return [environment for environment, _ in course_to_break(works, states, met, pair)]
 
 
 def machine_of(works):
@@ -143,7 +146,7 @@ def is_fine_with(works, marks, machine):
     check_works(works)
     check_marks(works, marks)
     check_pair(works, machine)
-    met = met_pairs(works, machine)
+    met = met_by(works, machine)
     if not is_kept_for_ever(works, machine, met):
         return False
     return not is_odd_cycle_met(met, [marks[letter] for letter in works.letters])
@@ -154,7 +157,7 @@ def stock_with(works, gains, machine):
     check_works(works)
     check_gains(works, gains)
     check_pair(works, machine)
-    met = met_pairs(works, machine)
+    met = met_by(works, machine)
     needs = least_needs(met, gains_of(works, gains)) if is_kept_for_ever(works, machine, met) else None
     return None if needs is None else needs[(0, 0)]
 
@@ -189,6 +192,16 @@ def ways_of(machine):
     return [ways for _, ways in machine.states]
 
 
+def states_of(machine):
+    """The states of a Machine as courses.py tells them."""
+    return [([(time,) for time in table.answers().values()], ways) for table, ways in machine.states]
+
+
+def met_by(works, machine):
+    """The pairs of a mode and a state that are met, as courses.py tells them."""
+    return met_pairs(works, states_of(machine))
+
+
 def machine_with(size, length, letters, states):
     """The Machine with these states: pairs of a Table and the indexes behind the letters, in their order."""
     return Machine(size, length, letters, [(table, dict(zip(letters, ways))) for table, ways in states])
@@ -196,4 +209,4 @@ def machine_with(size, length, letters, states):
 
 def is_kept_for_ever(works, machine, met):
     """What keeps_for_ever tells, given the pairs that are met."""
-    return first_broken_pair(works, machine, met) is None
+    return first_broken_pair(works, states_of(machine), met) is None

@@ -25,6 +25,7 @@ class Modes:
         self.rung = {}
         self.heard = None
         self.odds = {}
+        self.strange = {}
         self.ranks = None
 
 

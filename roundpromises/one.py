@@ -1,6 +1,6 @@
 """One round: whether a Table keeps a task, which ones do, and what shows that none does."""
 
-from roundpromises.bits import allowed_bits, letter_bits, ringing_bit, wrong_times
+from roundpromises.bits import allowed_bits, letter_bits, ringing_bit, time_bit, wrong_times
 from roundpromises.checks import are_different, is_list
 from roundpromises.errors import BadCondition, BadPromises, BadQuarrel, BadTask, BadWindow
 from roundpromises.looks import (
@@ -91,22 +91,14 @@ def earliest(task):
 def latest(task):
     """The Table that keeps the task and answers each row as late as any that does; None if none does."""
     check_task(task)
-    if not is_kept(task):
-        return None
-    lay = lay_of(task.panel)
-    return table_of(lay, [latest_time(lay, task._goods, task._lasts, at) for at in range(len(lay.rows))])
+    return table_of(lay_of(task.panel), latest_times(task)) if is_kept(task) else None
 
 
 def had(task, arrivals):
     """The ascending tuple of the times with which Tables that keep the task answer a row of arrivals."""
     check_task(task)
     check_row_of(arrivals, size_of(task), task.panel.length)
-    if not is_kept(task):
-        return ()
-    lay = lay_of(task.panel)
-    at = lay.places[arrivals]
-    last = latest_time(lay, task._goods, task._lasts, at)
-    return told_times(lay, task._goods[at] & (2 * last - 1))
+    return had_at(task, lay_of(task.panel).places[arrivals])
 
 
 def quarrel(task):
@@ -191,6 +183,36 @@ def size_of(task):
 def is_kept(task):
     """Tell whether some Table keeps a task: exactly if each row has a good time."""
     return 0 not in task._goods
+
+
+def latest_times(task):
+    """For each row of arrivals the bit of the latest answer, in a task that some Table keeps."""
+    lay = lay_of(task.panel)
+    return [latest_time(lay, task._goods, task._lasts, at) for at in range(len(lay.rows))]
+
+
+def had_at(task, at):
+    """What had tells, of a row of arrivals told by its place."""
+    if not is_kept(task):
+        return ()
+    lay = lay_of(task.panel)
+    last = latest_time(lay, task._goods, task._lasts, at)
+    return told_times(lay, task._goods[at] & (2 * last - 1))
+
+
+def table_having(task, arrivals, moment):
+    """A Table that keeps the task and answers a row of arrivals with a time that had tells for it.
+
+    It is the latest one, but that what looks like the arrivals until this time is answered with it: that is good
+    for all such rows, and none of them has an earlier answer, as the arrivals would have it too.
+    """
+    lay = lay_of(task.panel)
+    bit = time_bit(moment, lay.length)
+    answers = latest_times(task)
+    for at, times in lay.members[look_until(lay, lay.places[arrivals], bit)]:
+        if times & bit:
+            answers[at] = bit
+    return table_of(lay, answers)
 
 
 def with_promise(task, promise):

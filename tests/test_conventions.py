@@ -9,15 +9,16 @@ from roundpromises.rows import is_row
 from roundpromises.sights import Panel, is_environment
 from roundpromises.tables import Table, constant
 from roundpromises.terms import is_condition
-from tests import calls, calls_machines, calls_works
+from tests import calls, calls_books, calls_machines, calls_works
 from tests.helpers import JUNK, Case
 
-CALLS = calls.CALLS + calls_works.CALLS + calls_machines.CALLS
-ORDERED = calls.ORDERED + calls_works.ORDERED + calls_machines.ORDERED
+CALLS = calls.CALLS + calls_works.CALLS + calls_machines.CALLS + calls_books.CALLS
+ORDERED = calls.ORDERED + calls_works.ORDERED + calls_machines.ORDERED + calls_books.ORDERED
 WRONG = "?"
 THINGS = [calls.PANEL, calls.TABLE, calls.TASK, calls.LOST, *calls_works.THINGS, *calls_machines.THINGS]
 WHETHER = (
-    "holds look_alike keeps on_top serves matches lasts keeps_round same_plays keeps_for_ever machines_alike".split()
+    "holds look_alike keeps on_top serves matches lasts keeps_round same_plays keeps_for_ever machines_alike "
+    "carries surely_keeps surely_breaks".split()
 )
 # What objects work out once, when it is asked for.
 KEPT = ("_looks", "_modes")

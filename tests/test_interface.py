@@ -16,9 +16,10 @@ from roundpromises.works import Works
 FOLDER = pathlib.Path(roundpromises.__file__).parent
 ORDER = ["errors", "rows", "terms", "promises", "sights", "tables", "one", "serving", "forms"]
 ORDER += ["works", "ever", "again", "stock", "machines", "chances", "corners", "learning", "ledgers"]
+ORDER += ["shocks", "carries", "books", "bench"]
 # Each further module, and the first module of the interface from which it does not import.
 FURTHER = {"checks": "rows", "bits": "sights", "looks": "one", "readers": "rows", "modes": "forms", "ranks": "rows"}
-FURTHER.update({"courses": "forms", "odds": "forms", "views": "forms"})
+FURTHER.update({"courses": "forms", "odds": "forms", "views": "forms", "strange": "forms"})
 FUNCTIONS = {
     "rows": "is_row(thing, length) rows(size, length) first_of(row, places) last_of(row, places) "
     "latest_of(row, places) until(row, moment)",
@@ -61,6 +62,13 @@ FUNCTIONS = {
     "is_safe_view(works, ledger, view) can_do_with(works, ledger) wit(works, ledger) is_wit(works, ledger, thing) "
     "blind_spot(works, ledger) is_blind_spot(works, ledger, thing) ledger_of(works, split) coarsest_splits(works) "
     "finest_gaps(works)",
+    "shocks": "bears(works, wide, mode) armour(works, wide) is_armour(works, wide, thing) "
+    "breach(works, wide, rounds) is_breach(works, wide, rounds, thing)",
+    "carries": "is_play(works, thing) carries(one, other) escape(one, other) follower(works, play)",
+    "books": "can_keep(works, lot) greatest_lots(works) least_quarrels(works) least_drops(works) "
+    "history(panel, cases, changes) first_broken(panel, cases, changes) joined(base, one, other)",
+    "bench": "first_wrong_try(size, length, tries) may_answer(size, length, tries, arrivals) "
+    "next_try(size, length, tries) tries_needed(table) surely_keeps(task, tries) surely_breaks(task, tries)",
 }
 CLASSES = {
     ("sights", "Panel"): [

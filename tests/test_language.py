@@ -41,6 +41,7 @@ STATEMENTS = (
     ast.Continue,
     ast.Pass,
     ast.Delete,
+    ast.Try,
 )
 UNUSED = (
     ast.GeneratorExp,
@@ -232,6 +233,12 @@ class Language(unittest.TestCase):
                     fits = fits or (called(over) in TAKERS and over.args[0] is node)
                     fits = fits or (called(over) == "reversed" and called(node) == "range")
                     self.assertTrue(fits, (name, node.lineno))
+
+    def test_only_own_errors_are_caught(self):
+        own = {node.name for node in TREES["errors.py"].body if isinstance(node, ast.ClassDef)}
+        for name, node in self.nodes(ast.ExceptHandler):
+            self.assertIsInstance(node.type, ast.Name, name)
+            self.assertIn(node.type.id, own, name)
 
     def test_raises_own_errors_on_the_spot(self):
         own = own_names()
