@@ -188,7 +188,7 @@ def is_entry(works, rounds, key, number):
 
 def whole_of(odds, rounds):
     """The weight of all environments, multiplied as often as there are rounds."""
-    many = sum([number for _, number in odds.brought[0]]) * (odds.works.panel.slip + 1)
+    many = sum([number for _, number in odds.brought[0]]) * (odds.judged.panel.slip + 1)
     found = 1
     for _ in range(rounds):
         found = found * sum(odds.weights) * many
@@ -197,7 +197,7 @@ def whole_of(odds, rounds):
 
 def reached_by(odds, mode, table, behind):
     """The weight that a Table reaches in a mode, if each mode behind counts as often as told."""
-    counts = [behind[to] for to in odds.works._ways[mode]]
+    counts = [behind[to] for to in odds.judged._ways[mode]]
     return sum([worth * count for worth, count in zip(table_worths(odds, mode, table), counts)])
 
 

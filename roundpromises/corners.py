@@ -58,12 +58,24 @@ def greatest_slip(works):
 def check_few_delays(works):
     """Refuse what is no Works, then one with more delays than can be tried."""
     check_works(works)
-    panel = works.panel
+    check_few_known_delays(works.panel)
+
+
+def check_few_known_delays(panel):
+    """Refuse a panel with more delays, from 0 to length + 1 for each input, than can be tried."""
     many = 1
     for _ in panel.inputs:
         many = many * (panel.length + 2)
     if many > MOST_DELAYS:
         raise TooMany(MOST_DELAYS)
+
+
+def all_known_delays(panel):
+    """The ascending list of all delays, from 0 to length + 1 for each input."""
+    found = [()]
+    for _ in panel.inputs:
+        found = [delays + (delay,) for delays in found for delay in range(panel.length + 2)]
+    return found
 
 
 def are_known_delays(panel, thing):
@@ -81,11 +93,8 @@ def delayed(works, delays):
 
 def delays_that_do(works):
     """The dict from all delays, ascending, to whether they do."""
-    every = [()]
-    for _ in works.panel.inputs:
-        every = [delays + (delay,) for delays in every for delay in range(works.panel.length + 2)]
     done = {}
-    for delays in every:
+    for delays in all_known_delays(works.panel):
         # Lesser delays do if greater ones do; so nothing need be tried behind ones that do not.
         is_open = all([done[less] for less in moved(delays, -1, works.panel.length + 1)])
         done[delays] = is_open and is_lasting(delayed(works, delays))

@@ -7,6 +7,10 @@ An error with an attribute is made with its value; the others are made with a me
 class PromiseError(ValueError):
     """What all errors of this package are."""
 
+    def kind(self):
+        """The name of the error's class."""
+        return self.__class__.__name__
+
 
 class BadLength(PromiseError):
     """A value that is no length of a round."""

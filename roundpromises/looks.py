@@ -174,16 +174,29 @@ def is_strife(panel, thing, speaks):
 
     Those of each time look like these arrivals until then, and speak, which is asked of both, against the time.
     """
+
+    def is_alike(arrivals, time, heard):
+        """Tell whether what is heard looks like the arrivals until a time."""
+        return cut(heard, time) == cut(arrivals, time)
+
+    return is_strife_from(panel, thing, times_of(panel.length), is_alike, speaks)
+
+
+def is_strife_from(panel, thing, times, is_alike, speaks):
+    """Tell whether any value is a pair of a row of arrivals and a dict from just these times to environments.
+
+    Is_alike tells of the arrivals, a time and what is heard in its environment whether they look as they must.
+    """
     if not is_tuple_of(thing, 2) or not is_row_of(thing[0], len(panel.inputs), panel.length):
         return False
     arrivals, answers = thing
-    if not isinstance(answers, dict) or len(answers) != len(times_of(panel.length)):
+    if not isinstance(answers, dict) or len(answers) != len(times):
         return False
-    if not all([is_time(time, panel.length) for time in answers.keys()]):
+    if not all([is_time(time, panel.length) and time in times for time in answers.keys()]):
         return False
     for time, environment in answers.items():
         if not is_environment_of(panel, environment):
             return False
-        if cut(arrivals_in(panel, environment), time) != cut(arrivals, time) or not speaks(time, environment):
+        if not is_alike(arrivals, time, arrivals_in(panel, environment)) or not speaks(time, environment):
             return False
     return True

@@ -22,8 +22,8 @@ class Modes:
         self.goods = {}
         self.tasks = {}
         self.lefts = {}
-        self.rung = {}
-        self.heard = None
+        self.rung_letters = {}
+        self.heard_letters = None
         self.odds = {}
         self.strange = {}
         self.ranks = None

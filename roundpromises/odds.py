@@ -23,7 +23,7 @@ class Odds:
 
     def __init__(self, works, weights):
         lay = lay_of(works.panel)
-        self.works = works
+        self.judged = works
         self.lay = lay
         self.weights = [weights[row] for row in lay.rows]
         self.ends = [ends_of(lay, row) for row in lay.rows]
@@ -76,14 +76,14 @@ def counted_places(panel, row, places):
 
 def found_worths(odds, mode):
     """What worths_in tells of a mode."""
-    panel = odds.works.panel
-    nothing = [0 for _ in odds.works.letters]
+    panel = odds.judged.panel
+    nothing = [0 for _ in odds.judged.letters]
     found = {(None, place): nothing for place in range(len(odds.lay.rows))}
     for moment, places in enumerate(odds.looks):
         for place in places:
             found[(moment, place)] = nothing
-    allowed = allowed_rings(odds.works, mode)
-    leaving = modes_of(odds.works).leaving
+    allowed = allowed_rings(odds.judged, mode)
+    leaving = modes_of(odds.judged).leaving
     for row, weight in enumerate(odds.weights):
         if weight:
             for moment in times_of(panel.length):
@@ -126,7 +126,7 @@ def waiting_sum(odds, sums, found, look):
 
 def sums_of(odds, mode, behind):
     """For each look the sum of the worths of answering then, each letter counting as often as its mode behind."""
-    counts = [behind[to] for to in odds.works._ways[mode]]
+    counts = [behind[to] for to in odds.judged._ways[mode]]
     return {
         look: sum([worth * count for worth, count in zip(worths, counts)])
         for look, worths in odds.worths_in(mode).items()
@@ -168,7 +168,7 @@ def table_worths(odds, mode, table):
         moment = answers[row]
         answered[(moment, place if moment is None else odds.ends[place][moment])] = True
     worths = odds.worths_in(mode)
-    found = [0 for _ in odds.works.letters]
+    found = [0 for _ in odds.judged.letters]
     for look in answered:
         found = [ahead + worth for ahead, worth in zip(found, worths[look])]
     return found

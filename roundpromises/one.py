@@ -258,8 +258,14 @@ def spoiling(task, at, bit, time):
     lay = lay_of(task.panel)
     for arrivals, times in lay.members[look_until(lay, at, bit)]:
         if task._heard_wrongs[arrivals] & times & bit:
-            bringers = [row for row in lay.bringers[arrivals] if task._wrongs[row] & bit]
-            row = bringers[0]
-            wrong = [slip for slip in range(task.panel.slip + 1) if not task._ringings[row] & ringing_bit(time, slip)]
-            return bringing(task.panel, lay.rows[row], lay.rows[arrivals], wrong[0])
+            return environment_against(task, arrivals, bit, time)
     return None
+
+
+def environment_against(task, arrivals, bit, time):
+    """An environment that brings a row of arrivals, told by its place, and in which a time with this bit is wrong."""
+    lay = lay_of(task.panel)
+    bringers = [row for row in lay.bringers[arrivals] if task._wrongs[row] & bit]
+    row = bringers[0]
+    wrong = [slip for slip in range(task.panel.slip + 1) if not task._ringings[row] & ringing_bit(time, slip)]
+    return bringing(task.panel, lay.rows[row], lay.rows[arrivals], wrong[0])

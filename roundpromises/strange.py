@@ -37,10 +37,10 @@ def can_bar_with(works, wide, mode, near, far):
 def borne_more(works, wide, borne):
     """Those of the modes that bear a number, given in a list, that bear the next number too."""
 
-    def can_keep(mode, lost):
-        """Tell whether a round in a mode can be kept within those not lost, and a strange one within the borne."""
+    def can_keep(mode, left_out):
+        """Tell whether a round in a mode can be kept within those not left out, and a strange one within the borne."""
         far = letters_where([to not in borne for to in works._ways[mode]])
-        near = letters_where([to not in borne or to in lost for to in works._ways[mode]])
+        near = letters_where([to not in borne or to in left_out for to in works._ways[mode]])
         return can_bar_with(works, wide, mode, near, far)
 
     lost = ranked(borne, can_keep)

@@ -20,7 +20,7 @@ def possible_letters(works, arrivals, moment):
 
 def letters_rung(works, moment):
     """For each row of true times the letters that are left there when the output is rung at a time."""
-    rung = modes_of(works).rung
+    rung = modes_of(works).rung_letters
     if moment not in rung:
         bits = rung_bits(moment, works.panel.slip)
         rung[moment] = [letters_where([leaves & bits for leaves in leaving]) for leaving in modes_of(works).leaving]
@@ -51,12 +51,12 @@ def environment_leaving(works, arrivals, moment, letter):
 def letters_heard(works):
     """For each row of arrivals that can be heard its place and, time by time, the letters that may be left."""
     modes = modes_of(works)
-    if modes.heard is None:
+    if modes.heard_letters is None:
         lay = lay_of(works.panel)
         heard = [place for place, bringers in enumerate(lay.bringers) if bringers]
         times = times_of(lay.length)
-        modes.heard = [(at, [possible_letters(works, lay.rows[at], time) for time in times]) for at in heard]
-    return modes.heard
+        modes.heard_letters = [(at, [possible_letters(works, lay.rows[at], time) for time in times]) for at in heard]
+    return modes.heard_letters
 
 
 def views_from(works, ledger, start):

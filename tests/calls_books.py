@@ -30,7 +30,9 @@ from tests.calls_works import CASES, EXACT, LOST, MORE, SOON, STILL, VAGUE, WORK
 LAX = ((("gap", "b", "start", -1),), ("first", ("b",), 0, 1))
 STRICT = ((("gap", "b", "start", -1),), ("first", ("b",), 0, 0))
 CALM = Works(
-    EXACT.with_slip(0), CASES, [("lax", ALWAYS, LAX), ("strict", ("then", ALWAYS, ("then", ("one", "x"), ALWAYS)), STRICT)]
+    EXACT.with_slip(0),
+    CASES,
+    [("lax", ALWAYS, LAX), ("strict", ("then", ALWAYS, ("then", ("one", "x"), ALWAYS)), STRICT)],
 )
 WIDE = Panel(["b"], 2, {"b": (0, 1)}, 0)
 PLAY = [(((0,), (0,), 1), 1, "x"), (((None,), (0,), 0), None, "other")]

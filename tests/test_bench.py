@@ -254,7 +254,8 @@ class Surely(Case):
         kept = [keeps(task, Table(2, 1, answers)) for answers in every(2, 1)]
         for seed in range(12):
             tries = drawn_tries(2, 1, seed, most=3)
-            told = [keep for keep, answers in zip(kept, every(2, 1)) if all(answers[row] == time for row, time in tries)]
+            agreeing = [all(answers[row] == time for row, time in tries) for answers in every(2, 1)]
+            told = [keep for keep, agrees in zip(kept, agreeing) if agrees]
             if told:
                 self.assertIs(surely_keeps(task, tries), all(told))
                 self.assertIs(surely_breaks(task, tries), not any(told))

@@ -5,15 +5,15 @@ import unittest
 
 from roundpromises.carries import carries, escape, follower, is_play
 from roundpromises.errors import BadPlay, BadWorks, OtherWorks, TooMany
-from roundpromises.ever import good_modes, kept_task, lasts
+from roundpromises.ever import good_modes, kept_task
 from roundpromises.forms import ALWAYS
 from roundpromises.machines import breaking, keeps_for_ever, led
 from roundpromises.one import good, had
-from roundpromises.sights import Panel, arrivals_of, environments
+from roundpromises.sights import Panel, environments
 from roundpromises.works import Works
 from tests.calls_works import CASES, EXACT, LOST, SOON, STILL, WORKS
 from tests.helpers import JUNK, Case, times_of
-from tests.small import ANY, FORMS, PROMISES, Rounds, free_works, is_fine_round, letter_left, works_by
+from tests.small import ANY, FORMS, Rounds, free_works, is_fine_round, works_by
 
 
 def with_rules(works, seed):

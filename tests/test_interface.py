@@ -16,10 +16,11 @@ from roundpromises.works import Works
 FOLDER = pathlib.Path(roundpromises.__file__).parent
 ORDER = ["errors", "rows", "terms", "promises", "sights", "tables", "one", "serving", "forms"]
 ORDER += ["works", "ever", "again", "stock", "machines", "chances", "corners", "learning", "ledgers"]
-ORDER += ["shocks", "carries", "books", "bench"]
+ORDER += ["shocks", "carries", "books", "bench", "field", "plant", "journals", "texts", "desk"]
 # Each further module, and the first module of the interface from which it does not import.
 FURTHER = {"checks": "rows", "bits": "sights", "looks": "one", "readers": "rows", "modes": "forms", "ranks": "rows"}
 FURTHER.update({"courses": "forms", "odds": "forms", "views": "forms", "strange": "forms"})
+FURTHER.update({"stages": "again", "wording": "works"})
 FUNCTIONS = {
     "rows": "is_row(thing, length) rows(size, length) first_of(row, places) last_of(row, places) "
     "latest_of(row, places) until(row, moment)",
@@ -69,6 +70,9 @@ FUNCTIONS = {
     "history(panel, cases, changes) first_broken(panel, cases, changes) joined(base, one, other)",
     "bench": "first_wrong_try(size, length, tries) may_answer(size, length, tries, arrivals) "
     "next_try(size, length, tries) tries_needed(table) surely_keeps(task, tries) surely_breaks(task, tries)",
+    "field": "explains(panel, table, faults, seen) least_faults(panel, table, seen)",
+    "journals": "picture(plant) journal_of(plant) first_wrong(works, thing) replayed(works, journal)",
+    "texts": "works_text(works) read_works(text) form_text(form) read_form(text) table_text(table) read_table(text)",
 }
 CLASSES = {
     ("sights", "Panel"): [
@@ -103,6 +107,36 @@ CLASSES = {
         "table_behind(self, word)",
         "__eq__(self, other)",
     ],
+    ("plant", "Plant"): [
+        "__init__(self, works)",
+        "hear(self, name)",
+        "ring(self)",
+        "tick(self)",
+        "close(self, row, rung)",
+        "put(self, rule)",
+        "drop(self, name)",
+        "undo(self)",
+        "works(self)",
+        "past(self)",
+        "mode(self)",
+        "moment(self)",
+        "heard(self)",
+        "rung(self)",
+        "book(self)",
+        "broken(self)",
+        "log(self)",
+        "first(self)",
+        "copy(self)",
+        "tried(self, work)",
+        "advice(self)",
+        "is_sure(self)",
+        "threat(self)",
+        "is_threat(self, thing)",
+        "lost_in(self)",
+        "__len__(self)",
+        "__eq__(self, other)",
+    ],
+    ("desk", "Desk"): ["__init__(self, text)", "say(self, line)"],
 }
 
 

@@ -16,7 +16,7 @@ BUILTINS = set(
     """len range enumerate zip min max sum abs sorted reversed int str bool list tuple dict set frozenset
 isinstance ord repr any all divmod ValueError""".split()
 )
-METHODS = set("append bit_length extend get index items keys pop values setdefault".split())
+METHODS = set("append bit_length extend get index items join keys pop split values setdefault".split())
 ITERATED = {"zip", "enumerate", "reversed", "range"}
 TAKERS = {"list", "tuple", "dict", "sorted", "sum", "any", "all", "enumerate", "zip"}
 BARRED = """
@@ -93,7 +93,7 @@ class Language(unittest.TestCase):
             lines = text.split("\n")
             self.assertLessEqual(len(lines), 399, name)
             self.assertLessEqual(max(map(len, lines)), 120, name)
-            self.assertNotIn("\\", text, name)
+            self.assertNotIn("\\", text.replace('"\\n"', ""), name)
         for name, node in self.nodes(ast.FunctionDef):
             self.assertLessEqual(node.end_lineno - node.lineno + 1, 40, (name, node.name))
 
@@ -179,14 +179,15 @@ class Language(unittest.TestCase):
                 node.id for node in ast.walk(tree) if isinstance(node, ast.Name) and isinstance(node.ctx, ast.Store)
             }
             stored |= {node.arg for node in ast.walk(tree) if isinstance(node, ast.arg)}
+            stored |= {node.name for node in ast.walk(tree) if isinstance(node, ast.ExceptHandler)}
             stored |= {
                 alias.name for node in ast.walk(tree) if isinstance(node, ast.ImportFrom) for alias in node.names
             }
             for node in ast.walk(tree):
                 if isinstance(node, ast.Name) and node.id not in stored:
-                    self.assertIn(node.id, BUILTINS | own, name)
+                    self.assertTrue(node.id in BUILTINS | own, (name, node.id))
                 if isinstance(node, ast.Call) and isinstance(node.func, ast.Attribute):
-                    self.assertIn(node.func.attr, METHODS | own, name)
+                    self.assertTrue(node.func.attr in METHODS | own, (name, node.func.attr))
 
     def test_classes(self):
         for name, node in self.nodes(ast.ClassDef):
@@ -239,6 +240,25 @@ class Language(unittest.TestCase):
         for name, node in self.nodes(ast.ExceptHandler):
             self.assertIsInstance(node.type, ast.Name, name)
             self.assertIn(node.type.id, own, name)
+
+    def test_finally(self):
+        """What stands there is put back, if nothing went well: no call, no item, nothing that can fail."""
+        for name, node in self.nodes(ast.Try):
+            for part in node.finalbody:
+                for inner in ast.walk(part):
+                    self.assertNotIsInstance(inner, (ast.Call, ast.Subscript, ast.Return, ast.BinOp), name)
+
+    def test_names_of_classes(self):
+        for name, node in self.nodes(ast.Attribute):
+            if node.attr.startswith("__"):
+                self.assertEqual(name, "errors.py")
+                self.assertIn(ast.unparse(node), ("self.__class__.__name__", "self.__class__"))
+
+    def test_no_name_is_a_method_and_an_attribute(self):
+        methods = {part.name for _, node in self.nodes(ast.ClassDef) for part in node.body if hasattr(part, "name")}
+        for name, node in self.nodes(ast.Attribute):
+            if isinstance(node.ctx, ast.Store):
+                self.assertNotIn(node.attr, methods, name)
 
     def test_raises_own_errors_on_the_spot(self):
         own = own_names()

@@ -103,13 +103,17 @@ class Game:
         return found
 
     def borne(self):
-        """The greatest set of pairs (mode, number) each of which has a Table that stays in it: numbers past all ends."""
+        """The greatest set of pairs (mode, number) each of which has a Table that stays in it."""
         most = 2 * len(self.works) + 1
         pairs = {(mode, number) for mode in self.options for number in range(most + 1)}
         left = None
         while left != pairs:
             left = pairs
-            pairs = {pair for pair in left if any(self.stays(option, pair[1], left) for option in self.options[pair[0]])}
+            pairs = {
+                (mode, number)
+                for mode, number in left
+                if any(self.stays(option, number, left) for option in self.options[mode])
+            }
         numbers = {}
         for mode in self.options:
             told = [number for number in range(most + 1) if (mode, number) in pairs]
@@ -353,7 +357,9 @@ class Breaches(Case):
             told = armour(game.works, game.wide)
             if told is not None and number is not None:
                 for less in range(number + 1):
-                    lesser = {mode: (less if pair[0] is None else min(pair[0], less), pair[1]) for mode, pair in told.items()}
+                    lesser = {
+                        mode: (less if most is None else min(most, less), table) for mode, (most, table) in told.items()
+                    }
                     self.assertIs(is_armour(game.works, game.wide, lesser), True)
 
     def test_wrong(self):
