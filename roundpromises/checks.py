@@ -11,7 +11,7 @@ def is_number(thing):
 
 def is_within(thing, low, high):
     """Tell whether any value is a number from low to high."""
-    return is_number(thing) and low <= thing <= high
+    return isinstance(thing, int) and not isinstance(thing, bool) and low <= thing <= high
 
 
 def is_list(thing):

@@ -9,7 +9,7 @@ from roundpromises.bits import all_times, time_bit, times_in
 from roundpromises.checks import is_tuple_of
 from roundpromises.rows import cut, is_row_of, is_time, rows, times_of
 from roundpromises.sights import arrivals_in, is_environment_of
-from roundpromises.tables import Table
+from roundpromises.tables import known_table
 
 
 class Lay:
@@ -132,7 +132,7 @@ def lowest(bits):
 
 def table_of(lay, answers):
     """The Table with these answers, each told by its bit, to the rows in their order."""
-    return Table(lay.size, lay.length, {row: lay.times[answer] for row, answer in zip(lay.rows, answers)})
+    return known_table(lay.size, lay.length, {row: lay.times[answer] for row, answer in zip(lay.rows, answers)})
 
 
 def earliest_table(lay, goods):

@@ -9,7 +9,7 @@ from roundpromises.bits import ringing_bit
 from roundpromises.looks import lay_of
 from roundpromises.modes import allowed_rings, modes_of
 from roundpromises.rows import cut, times_of
-from roundpromises.tables import Table
+from roundpromises.tables import known_table
 
 
 class Odds:
@@ -157,7 +157,7 @@ def best_table(odds, mode, behind):
             look = (moment, ends[moment])
             if sums[look] >= waiting_sum(odds, sums, found, look):
                 answers[row] = moment
-    return Table(odds.lay.size, odds.lay.length, answers)
+    return known_table(odds.lay.size, odds.lay.length, answers)
 
 
 def table_worths(odds, mode, table):

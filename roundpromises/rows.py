@@ -17,9 +17,10 @@ def rows(size, length):
     """The ascending list of all rows of a size and a length."""
     check_size(size)
     check_length(length)
+    times = times_of(length)
     found = [()]
     for _ in range(size):
-        found = [row + (time,) for row in found for time in times_of(length)]
+        found = [row + (time,) for row in found for time in times]
     return found
 
 
@@ -101,7 +102,7 @@ def is_plain_row(thing, length):
     """Tell whether any value is a row of a length that is known to be one."""
     if not isinstance(thing, tuple) or not 1 <= len(thing) <= MOST_INPUTS:
         return False
-    return all([is_time(time, length) for time in thing])
+    return all([time is None or is_within(time, 0, length) for time in thing])
 
 
 def is_row_of(thing, size, length):

@@ -3,9 +3,9 @@
 from roundpromises.errors import BadTranslator, OtherPanels, TooMany
 from roundpromises.one import Task, is_kept
 from roundpromises.promises import are_promises
-from roundpromises.rows import is_not_before, is_time, rows, times_of
+from roundpromises.rows import is_not_before, is_time, times_of
 from roundpromises.sights import MOST_SLIP, arrival, check_few_environments, check_panel
-from roundpromises.tables import Table, check_fits, check_table
+from roundpromises.tables import check_fits, check_table, known_table
 
 LONGEST_PARTED = 6
 
@@ -46,8 +46,8 @@ def translated(one, other, translator, table):
     check_table(table)
     check_fits(one, table)
     dicts = [translator[name] for name in one.inputs]
-    answers = {row: table.answer(read_row(dicts, row)) for row in rows(table.size, table.length)}
-    return Table(table.size, table.length, answers)
+    told = table.answers()
+    return known_table(table.size, table.length, {row: told[read_row(dicts, row)] for row in told})
 
 
 def parting_promises(one, other):

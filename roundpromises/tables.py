@@ -2,20 +2,18 @@
 
 from roundpromises.checks import is_within
 from roundpromises.errors import BadTable, OtherTables
-from roundpromises.rows import (
-    LONGEST,
-    MOST_INPUTS,
-    check_length,
-    check_moment,
-    check_row_of,
-    check_size,
-    cut,
-    is_not_before,
-    is_row_of,
-    is_time,
-    rows,
-)
+from roundpromises.rows import LONGEST, MOST_INPUTS, check_length, check_moment, check_row_of, check_size, rows
 from roundpromises.sights import arrivals_in, check_environment, check_panel
+
+# What is no time of any length.
+NO_ANSWER = ""
+
+
+class Known:
+    """Answers that are known to be those of a Table: a dict of its own from all rows, ascending."""
+
+    def __init__(self, told):
+        self.told = told
 
 
 class Table:
@@ -26,12 +24,10 @@ class Table:
             raise BadTable("size")
         if not is_within(length, 1, LONGEST):
             raise BadTable("length")
-        every = rows(size, length)
-        if not are_answers(answers, every, size, length):
-            raise BadTable("answers")
         self.size = size
         self.length = length
-        self._answers = {row: answers[row] for row in every}
+        # What the program has put together itself need not be judged.
+        self._answers = answers.told if isinstance(answers, Known) else judged_answers(answers, size, length)
 
     def __eq__(self, other):
         return (
@@ -56,19 +52,21 @@ def constant(size, length, moment):
     check_size(size)
     check_length(length)
     check_moment(moment, length)
-    return Table(size, length, {row: moment for row in rows(size, length)})
+    return known_table(size, length, {row: moment for row in rows(size, length)})
 
 
 def sooner(one, other):
     """The Table with the earlier of both answers to each row."""
     check_alike(one, other)
-    return Table(one.size, one.length, {row: earlier_answer(one, other, row) for row in rows(one.size, one.length)})
+    answers = {row: earlier_time(time, other._answers[row]) for row, time in one._answers.items()}
+    return known_table(one.size, one.length, answers)
 
 
 def later(one, other):
     """The Table with the later of both answers to each row."""
     check_alike(one, other)
-    return Table(one.size, one.length, {row: later_answer(one, other, row) for row in rows(one.size, one.length)})
+    answers = {row: later_time(time, other._answers[row]) for row, time in one._answers.items()}
+    return known_table(one.size, one.length, answers)
 
 
 def rung(panel, table, environment):
@@ -100,42 +98,63 @@ def check_fits(panel, table):
         raise OtherTables("the table has the size and the length of the panel")
 
 
-def are_answers(thing, every, size, length):
-    """Tell whether any value is the answers of a Table; every is the list of all its rows."""
+def known_table(size, length, answers):
+    """The Table with these answers, which are known to be those of one; nobody changes the dict any more."""
+    return Table(size, length, Known(answers))
+
+
+def judged_answers(thing, size, length):
+    """The dict from all rows, ascending, to the answers of a Table; what are none of any is refused."""
+    every = rows(size, length)
     if not isinstance(thing, dict) or len(thing) != len(every):
-        return False
-    if not all([is_row_of(row, size, length) and is_time(time, length) for row, time in thing.items()]):
-        return False
-    return all([is_settled(thing, row) for row in every])
+        raise BadTable("answers")
+    told = [thing.get(row, NO_ANSWER) for row in every]
+    # With answers to all of the rows the dict has no other keys, but True may stand for 1 in them.
+    if not are_moments(told, length) or has_bools(thing) or not are_settled(told, size, length):
+        raise BadTable("answers")
+    return dict(zip(every, told))
 
 
-def is_settled(answers, row):
-    """Tell whether a row has a moment as its answer exactly if its look until then, itself a row, has it.
+def are_moments(things, length):
+    """Tell whether all values of a list are times of a length."""
+    moments = list(range(length + 1))
+    return all([thing is None or (thing in moments and not isinstance(thing, bool)) for thing in things])
 
-    All rows that look alike until a moment have one look, so they all have that answer, or none of them.
+
+def has_bools(every):
+    """Tell whether some time of some rows is a bool."""
+    return any([time is True or time is False for row in every for time in row])
+
+
+def are_settled(told, size, length):
+    """Tell whether times, in the order of all rows, are the answers of a Table.
+
+    A row and the one with never in one place look alike until each time ahead of the moment that it has there: so
+    they have the same answer, or both a later one. Such steps lead to and fro between all rows that look alike.
     """
-    starts = sorted(set([0] + [time for time in row if time is not None]))
-    # From the last start on the row is its own look.
-    for start, end in zip(starts, starts[1:]):
-        looks = answers[cut(row, start)]
-        if looks != answers[row] and (is_from(looks, start, end) or is_from(answers[row], start, end)):
+    many = length + 2
+    late = [many if time is None else time for time in told]
+    # Rows stand so far apart that have neighbouring times in one place: the last one at first.
+    apart = 1
+    for _ in range(size):
+        never = []
+        for start in range(apart * (many - 1), len(late), apart * many):
+            never += late[start : start + apart] * many
+        moments = [moment for moment in range(many) for _ in range(apart)] * (len(late) // (apart * many))
+        if any([one != other and min(one, other) < moment for one, other, moment in zip(late, never, moments)]):
             return False
+        apart = apart * many
     return True
 
 
-def is_from(time, start, end):
-    """Tell whether a time is a moment from a start on and before an end."""
-    return time is not None and start <= time < end
+def earlier_time(time, other):
+    """The earlier one of two times."""
+    return other if time is None or (other is not None and other < time) else time
 
 
-def earlier_answer(one, other, row):
-    """The earlier of the answers of two Tables to a row."""
-    return other.answer(row) if is_not_before(one.answer(row), other.answer(row)) else one.answer(row)
-
-
-def later_answer(one, other, row):
-    """The later of the answers of two Tables to a row."""
-    return one.answer(row) if is_not_before(one.answer(row), other.answer(row)) else other.answer(row)
+def later_time(time, other):
+    """The later one of two times."""
+    return None if time is None or other is None else max(time, other)
 
 
 def ringing(moment, environment):

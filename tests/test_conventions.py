@@ -7,8 +7,9 @@ import unittest
 from roundpromises.desk import Desk
 from roundpromises.errors import PromiseError
 from roundpromises.journals import first_wrong
+from roundpromises.machines import Machine
 from roundpromises.plant import Plant
-from roundpromises.rows import is_row
+from roundpromises.rows import is_row, rows
 from roundpromises.sights import Panel, is_environment
 from roundpromises.tables import Table, constant
 from roundpromises.terms import is_condition
@@ -71,7 +72,32 @@ def spoil(value):
             spoil(part)
 
 
+def tables_in(value):
+    """All Tables in a value, those of machines and dicts too."""
+    if isinstance(value, Table):
+        yield value
+    elif isinstance(value, (list, tuple)):
+        for part in value:
+            yield from tables_in(part)
+    elif isinstance(value, dict):
+        yield from tables_in(list(value.values()))
+    elif isinstance(value, Machine):
+        yield from tables_in(value.states)
+
+
 class Conventions(Case):
+    def test_all_tables_that_are_returned_are_tables(self):
+        """Their answers are those of a Table for whoever passes them, in the order of the rows, and hold no bools."""
+        found = 0
+        for function, *args in CALLS:
+            for table in tables_in(function(*args)):
+                found += 1
+                answers = table.answers()
+                self.same(list(answers), rows(table.size, table.length))
+                self.assertTrue(Table(table.size, table.length, answers) == table, function)
+                self.assertFalse(any(isinstance(time, bool) for time in answers.values()))
+        self.assertGreater(found, 20)
+
     def test_equal_arguments_give_equal_results(self):
         for function, *args in CALLS:
             wanted = shown(function(*args))

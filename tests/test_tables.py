@@ -1,6 +1,7 @@
 """Point 50: Tables."""
 
 import itertools
+import random
 import unittest
 
 from roundpromises.errors import (
@@ -26,6 +27,28 @@ def hangs_on_later(answers):
         for row, moment in answers.items()
         for other in answers
     )
+
+
+def place(item):
+    return [late(time) for time in item[0]]
+
+
+def drawn_answers(chance, size, length):
+    """The answers of a Table, drawn look by look."""
+    found = {}
+    groups = [rows(size, length)]
+    for moment in range(length + 1):
+        looks = {}
+        for row in itertools.chain(*groups):
+            looks.setdefault(seen_until(row, moment), []).append(row)
+        groups = []
+        for group in looks.values():
+            if chance.random() < 0.25:
+                found.update((row, moment) for row in group)
+            else:
+                groups.append(group)
+    found.update((row, None) for row in itertools.chain(*groups))
+    return found
 
 
 class Tables(Case):
@@ -55,6 +78,33 @@ class Tables(Case):
                         self.refused(BadTable, Table, 2, 1, changed, part="answers")
                     else:
                         self.same(Table(2, 1, changed).answer(row), other)
+
+    def test_three_inputs(self):
+        """Drawn answers of three inputs, and all that differ from them in one row."""
+        fits = 0
+        for seed in range(12):
+            chance = random.Random(seed)
+            answers = drawn_answers(chance, 3, 2)
+            self.same(Table(3, 2, answers).answers(), dict(sorted(answers.items(), key=place)))
+            for row in chance.sample(rows(3, 2), 20):
+                for time in times_of(2):
+                    changed = {**answers, row: time}
+                    if hangs_on_later(changed):
+                        self.refused(BadTable, Table, 3, 2, changed, part="answers")
+                    else:
+                        fits += changed != answers
+                        self.same(Table(3, 2, changed).answer(row), time)
+        self.assertGreater(fits, 20)
+
+    def test_sooner_and_later_of_three_inputs(self):
+        for seed in range(10):
+            chance = random.Random(seed)
+            one, other = [Table(3, 3, drawn_answers(chance, 3, 3)) for _ in range(2)]
+            early, last = sooner(one, other), later(one, other)
+            for row in rows(3, 3):
+                times = sorted([one.answer(row), other.answer(row)], key=late)
+                self.same([early.answer(row), last.answer(row)], times)
+            self.assertFalse(hangs_on_later(early.answers()) or hangs_on_later(last.answers()))
 
     def test_refused(self):
         answers = {row: None for row in rows(1, 2)}
