@@ -85,9 +85,7 @@ def joined(base, one, other):
 
 def is_lot(works, thing):
     """Tell whether any value is a lot of a works."""
-    if not isinstance(thing, tuple) or not all([name in works.names for name in thing]):
-        return False
-    return thing == tuple([name for name in works.names if name in thing])
+    return isinstance(thing, tuple) and thing == tuple([name for name in works.names if name in thing])
 
 
 def is_lot_kept(works, lot):
@@ -96,13 +94,13 @@ def is_lot_kept(works, lot):
 
 
 def kept_lots(works):
-    """The dict from all lots, lesser ones first, to whether they can be kept."""
+    """The dict from all lots to whether they can be kept."""
     lots = [()]
     for name in works.names:
         lots = lots + [lot + (name,) for lot in lots]
     kept = {}
-    for lot in sorted(lots, key=len):
-        # Fewer rules never hurt, so what has a lesser lot that cannot be kept need not be tried.
+    for lot in lots:
+        # Fewer rules never hurt, so what has a lesser lot, which came ahead, that cannot be kept need not be tried.
         kept[lot] = all([kept[less] for less in one_left_out(lot)]) and is_lot_kept(works, lot)
     return kept
 

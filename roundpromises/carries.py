@@ -3,7 +3,7 @@
 from roundpromises.checks import is_list, is_tuple_of
 from roundpromises.courses import course_to_break, first_broken_pair, met_pairs
 from roundpromises.errors import BadPlay
-from roundpromises.ever import good_modes, is_lasting, lost_letters, ranks_of
+from roundpromises.ever import good_modes, is_lasting, lost_letters
 from roundpromises.looks import lay_of
 from roundpromises.machines import least_machine, machine_with
 from roundpromises.modes import letter_at, table_with, task_with
@@ -89,11 +89,8 @@ def kept_task_in(works, mode):
 
 def answers_in(works, mode):
     """For each row of arrivals the times with which those who keep the kept Task of a mode answer it."""
-    many = len(lay_of(works.panel).rows)
-    if ranks_of(works)[mode] is not None:
-        return [() for _ in range(many)]
     task = kept_task_in(works, mode)
-    return [had_at(task, at) for at in range(many)]
+    return [had_at(task, at) for at in range(len(lay_of(works.panel).rows))]
 
 
 def played_tables(works, play):

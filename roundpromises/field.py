@@ -32,12 +32,12 @@ def least_faults(panel, table, seen):
     answers = table.answers()
     told = {lates: answered(panel, answers, lates, seen) for lates in all_known_delays(panel)}
     found = []
-    for faults in sorted(all_faults(panel), key=sum_of):
-        # Whatever is within these faults has a lesser sum, so all that could be least came ahead of them.
+    for faults in all_faults(panel):
+        # Whatever is within these faults came ahead of them.
         if not any([are_within(least, faults) for least in found]):
             if is_explained(panel, faults, told[faults[0]], seen):
                 found.append(faults)
-    return sorted(found)
+    return found
 
 
 def check_seen(panel, seen):
@@ -59,15 +59,9 @@ def are_faults(panel, thing):
 
 
 def all_faults(panel):
-    """The list of all faults of a panel."""
+    """The ascending list of all faults of a panel."""
     every = [(lates, slow) for lates in all_known_delays(panel) for slow in range(MOST_SLOW + 1)]
     return [pair + (is_stuck,) for pair in every for is_stuck in (False, True)]
-
-
-def sum_of(faults):
-    """The sum of all that is wrong by some faults."""
-    lates, slow, is_stuck = faults
-    return sum(lates) + slow + (1 if is_stuck else 0)
 
 
 def are_within(faults, others):

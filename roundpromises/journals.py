@@ -3,7 +3,6 @@
 from roundpromises.checks import is_list, is_number, is_tuple_of
 from roundpromises.errors import BadJournal, PromiseError
 from roundpromises.plant import Plant, check_plant
-from roundpromises.works import check_works
 
 # How many parts a deed has, by its word.
 PARTS = {"hear": 2, "ring": 1, "tick": 1, "close": 3, "put": 2, "drop": 2, "undo": 1}
@@ -28,14 +27,12 @@ def journal_of(plant):
 
 def first_wrong(works, thing):
     """The index of the first item for which a value is no journal of a new plant of a works; None if it is one."""
-    check_works(works)
     wrong, _ = led_by_journal(works, thing)
     return wrong
 
 
 def replayed(works, journal):
     """The plant behind a journal."""
-    check_works(works)
     wrong, plant = led_by_journal(works, journal)
     if wrong is not None:
         raise BadJournal(wrong)
@@ -48,7 +45,10 @@ def picture_of(plant):
 
 
 def led_by_journal(works, thing):
-    """The index of the first wrong item of any value, None if there is none, and a new plant led by those ahead."""
+    """The index of the first wrong item of any value, None if there is none, and a new plant led by those ahead.
+
+    What is no Works is refused.
+    """
     plant = Plant(works)
     if not is_list(thing):
         return 0, plant

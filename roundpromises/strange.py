@@ -50,7 +50,7 @@ def borne_more(works, wide, borne):
 def numbers_borne(works, wide, good):
     """For each mode the greatest number that it bears, None for every number, -1 if it is none of the good modes."""
     levels = [list(good)]
-    while levels[-1] and (len(levels) == 1 or levels[-1] != levels[-2]):
+    while len(levels) == 1 or levels[-1] != levels[-2]:
         levels.append(borne_more(works, wide, levels[-1]))
     found = [-1 for _ in range(len(works))]
     for number, borne in enumerate(levels):

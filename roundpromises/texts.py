@@ -111,7 +111,7 @@ class Lines:
     """The lines of a text, taken one behind the other; the last one is left out if it is not ended."""
 
     def __init__(self, text):
-        if not isinstance(text, str) or text == "":
+        if not isinstance(text, str):
             raise BadText(0)
         lines = text.split("\n")
         self.lines = lines[:-1]

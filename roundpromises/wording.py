@@ -152,18 +152,24 @@ def are_window_words(names):
 def read_form_words(words, levels):
     """The form of at most so many levels told by the next words."""
     kind = words.take()
-    if levels > 0 and kind in ("any", "empty"):
+    if kind in ("any", "empty"):
         return (kind,)
-    if levels > 0 and kind == "one":
-        letter = words.take()
-        if is_letter(letter):
-            return kind, letter
-    if levels > 1 and kind in ("not", "many"):
-        return kind, read_form_words(words, levels - 1)
-    if levels > 1 and kind in ("then", "either", "both"):
-        first = read_form_words(words, levels - 1)
-        return kind, first, read_form_words(words, levels - 1)
-    raise BadText(words.number)
+    if kind == "one":
+        return kind, read_letter(words)
+    if levels == 1 or kind not in ("not", "many", "then", "either", "both"):
+        raise BadText(words.number)
+    first = read_form_words(words, levels - 1)
+    if kind in ("not", "many"):
+        return kind, first
+    return kind, first, read_form_words(words, levels - 1)
+
+
+def read_letter(words):
+    """The next word, which must be a letter."""
+    word = words.take()
+    if not is_letter(word):
+        raise BadText(words.number)
+    return word
 
 
 def read_low_form(words):

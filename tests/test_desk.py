@@ -180,6 +180,7 @@ class Desks(Case):
         |close 00 0|close 0 00|close 01 0|close +1 0|close -1 0|close 0 -1|close 0 +1|close 100 0|close 0 100
         |close 0 1 |close  0 1|close 0  1|close 0,1|close None 0|close 0 None|close a 0|close -- 0|close 0.0 0
         |put|put x|put x any|put x any asks|put x any asks never|put x any asks never if|put x any never if always
+        |place x any asks never if always|x any asks never if always|asks x any asks never if always
         |put out any asks never if always|put x none asks never if always
         |put x any any asks never if always
         |put x not not not not not not any asks never if always|put x one out asks never if always

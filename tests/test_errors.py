@@ -52,6 +52,12 @@ class Errors(Case):
                     raise error(value)
                 self.same(getattr(caught.exception, attribute), value)
 
+    def test_kinds(self):
+        for name in PLAIN:
+            self.same(getattr(errors, name)("some words").kind(), name)
+        for name in TOLD:
+            self.same(getattr(errors, name)(None).kind(), name)
+
     def test_defined_here(self):
         for name in ["PromiseError", *PLAIN, *TOLD]:
             self.assertEqual(getattr(errors, name).__module__, "roundpromises.errors")

@@ -109,6 +109,18 @@ class Field(Case):
         self.same(least_faults(PANEL, constant(1, 2, 2), [((2,), 6)]), [((0,), 3, False)])
         self.same(least_faults(PANEL, constant(1, 2, None), [((2,), None)]), [NONE])
 
+    def test_two_inputs_by_hand(self):
+        panel = Panel(["b", "c"], 1, None, 0)
+        last = {row: None if None in row else max(row) for row in itertools.product((0, 1, None), repeat=2)}
+        table = Table(2, 1, last)
+        zero = (0, 0)
+        wanted = [(zero, 1, False), ((0, 1), 0, False), ((1, 0), 0, False)]
+        self.same(least_faults(panel, table, [(zero, 1)]), wanted)
+        self.same(least_faults(panel, table, [(zero, 2)]), [(zero, 2, False), ((0, 1), 1, False), ((1, 0), 1, False)])
+        self.same(least_faults(panel, table, [(zero, 1), ((1, 0), 1)]), [((0, 1), 0, False)])
+        stuck = [(zero, 0, True), ((0, 2), 0, False), ((2, 0), 0, False)]
+        self.same(least_faults(panel, table, [(zero, None)]), stuck)
+
     def test_each_pair_for_itself(self):
         # The delay is another one in each round, the faults are not.
         self.assertIs(explains(PANEL, ECHO, NONE, [((0,), 0), ((0,), 2)]), True)

@@ -309,6 +309,9 @@ class Armours(Case):
         self.assertIs(is_armour(works, WIDE, {0: (0, table), 1: (0, other)}), True)
         self.assertIs(is_armour(works, EXACT, {0: (None, other), 1: (None, other)}), True)
         self.assertIs(is_armour(works, EXACT, {0: (10**11, other), 1: (10**11, other)}), True)
+        for number in (-1, -(10**11), True, False, "1", [1], (1,)):
+            self.assertIs(is_armour(works, EXACT, {0: (number, other), 1: (number, other)}), False)
+            self.assertIs(is_armour(works, EXACT, {0: (0, other), 1: (number, other)}), False)
         # Answers at once: in no round that is not strange an a is left, so mode 1 need be no key with the number 0.
         self.assertIs(is_armour(works, WIDE, {0: (0, other)}), True)
         self.assertIs(is_armour(works, WIDE, {0: (1, other)}), False)
@@ -443,6 +446,10 @@ class Refused(Case):
             self.refused(BadWide, is_breach, works, wide, None, {})
         for wide in (panel, panel.with_slip(2), panel.with_sight({"b": (0, 2)}), panel.with_sight({"b": (1, 3)})):
             self.same(bears(works, wide, 0), None)
+        pair = Panel(["b", "c"], 2, {"b": (1, 2), "c": (1, 2)}, 0)
+        for sight in ({"b": (0, 3), "c": (2, 2)}, {"b": (1, 1), "c": (0, 3)}, {"b": (0, 3), "c": (1, 1)}):
+            self.refused(BadWide, bears, Works(pair, [], []), pair.with_sight(sight), 0)
+        self.same(bears(Works(pair, [], []), pair.with_sight({"b": (0, 2), "c": (1, 3)}), 0), None)
 
     def test_order_of_errors(self):
         panel = Panel(["b", "c"], 8, None, 0)

@@ -307,7 +307,7 @@ class WorksTexts(Case):
         self.refused(BadText, read_works, TEXT.replace("any", "anyone")[:-1], at=7)
 
     def test_numbers(self):
-        for word in ("+1", "01", "-0", "1.0", "1_0", "", "x", "-", "1 ", "10", "3"):
+        for word in ("+1", "01", "-0", "1.0", "1_0", "", "x", "-", "1 ", "10", "3", "-1"):
             self.refused(BadText, read_works, "round 2 " + word + "\ninput b 0 0\n", at=0)
             self.refused(BadText, read_works, "round 1 0\ninput b 0 " + word + "\n", at=1)
         for word in ("0", "9", "-1", "08", "+8"):
@@ -337,7 +337,7 @@ class WorksTexts(Case):
         head = "round 1 0\ninput b 0 0\ninput c 0 0\nrule x any\nasks "
         read_works(head + "first b,c 0 0 if always\n")
         read_works(head + "first start 0 0 if always\n")
-        for names in ("c,b", "b,b", "b,", ",b", "b,,c", "", "b,start", "start,start", "out", "b, c", "B"):
+        for names in ("c,b", "b,b", "b,", ",b", "b,,c", "", "b,start", "start,start", "out", "b, c", "B", "a,b,c,d"):
             self.refused(BadText, read_works, head + "first " + names + " 0 0 if always\n", at=4)
 
     def test_conditions(self):
