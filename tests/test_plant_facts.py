@@ -161,6 +161,7 @@ class AllWays(Case):
                     self.same(point.advice(), self.advised(here, options, good))
                     advices.append(point.advice())
                     self.same(point.lost_in(), None if sure else self.lost(here, options, within))
+                    self.same(point.lost_in(), None if sure else self.lost_by_ranks(here, options))
                     losts.append(point.lost_in())
         self.assertGreater(min(sures.count(True), sures.count(False)), 400)
         for told in (None, *itertools.product((True, False), repeat=2)):
@@ -183,7 +184,17 @@ class AllWays(Case):
                 return rounds + 1
         raise AssertionError
 
-    def test_lost_in_by_lesser_ranks(self):
+    def lost_by_ranks(self, here, options):
+        """The least n such that nothing can be kept with the letters barred that lead to ranks less than n."""
+        works = here.plant.works()
+        for level in range(1, len(works) + 2):
+            ranks = [rank(works, mode) for mode in range(len(works))]
+            kept = {mode for mode, found in enumerate(ranks) if found is None or found >= level}
+            if not any(here.is_kept(answers, kept) for answers in options):
+                return level
+        raise AssertionError
+
+    def test_lost_in_at_the_beginning(self):
         """Beside the ranks of the modes: at the beginning of a round, before anything is heard."""
         for rounds in some():
             works = rounds.works
