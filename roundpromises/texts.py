@@ -2,7 +2,6 @@
 
 from roundpromises.errors import BadForm, BadText
 from roundpromises.forms import is_low_form
-from roundpromises.promises import MOST_PROMISES
 from roundpromises.rows import LONGEST, MOST_INPUTS, rows
 from roundpromises.sights import MOST_SLIP, Panel
 from roundpromises.tables import Table, check_table
@@ -17,7 +16,7 @@ from roundpromises.wording import (
     read_promise,
     time_word,
 )
-from roundpromises.works import Works, check_works
+from roundpromises.works import MOST_RULES, Works, check_works
 
 
 def works_text(works):
@@ -44,20 +43,8 @@ def read_works(text):
     slip = words.take_number(0, MOST_SLIP)
     words.finish()
     sight = read_inputs(lines, length)
-    cases = []
-    while len(cases) < MOST_CASES and lines.is_next("case"):
-        words = lines.take()
-        words.expect("case")
-        letter = words.take_name()
-        cases.append((letter, read_condition(words, ("out",))))
-    rules = []
-    while len(rules) < MOST_PROMISES and lines.is_next("rule"):
-        words = lines.take()
-        words.expect("rule")
-        name = words.take_name()
-        form = read_low_form(words)
-        words.finish()
-        rules.append((name, form, read_promise(lines.take())))
+    cases = read_cases(lines)
+    rules = read_rules(lines)
     lines.finish()
     return Works(Panel(list(sight), length, sight, slip), cases, rules)
 
@@ -154,3 +141,27 @@ def read_inputs(lines, length):
         words.finish()
         sight[name] = (least, greatest)
     return sight
+
+
+def read_cases(lines):
+    """The cases told by the next lines, as many as may be."""
+    cases = []
+    while len(cases) < MOST_CASES and lines.is_next("case"):
+        words = lines.take()
+        words.expect("case")
+        letter = words.take_name()
+        cases.append((letter, read_condition(words, ("out",))))
+    return cases
+
+
+def read_rules(lines):
+    """The rules told by the next pairs of lines, as many as may be."""
+    rules = []
+    while len(rules) < MOST_RULES and lines.is_next("rule"):
+        words = lines.take()
+        words.expect("rule")
+        name = words.take_name()
+        form = read_low_form(words)
+        words.finish()
+        rules.append((name, form, read_promise(lines.take())))
+    return rules
