@@ -459,6 +459,11 @@ class FormTexts(Case):
             seven = ("not", seven)
         self.refused(BadForm, form_text, seven)
         self.same(form_text(seven[1]), "not not not not not any")
+        for kind in ("then", "either", "both"):
+            self.refused(BadText, read_form, (kind + " any ") * 6 + "any", at=0)
+            self.refused(BadText, read_form, (kind + " ") * 6 + " ".join(["any"] * 7), at=0)
+            self.same(form_text(read_form((kind + " any ") * 5 + "any")), (kind + " any ") * 5 + "any")
+            read_form((kind + " ") * 5 + " ".join(["any"] * 6))
         for form in (("one", "out"), ["any"], ("any", "any"), ("then", ("any",)), ("one", ("any",)), ("not", ["any"])):
             self.refused(BadForm, form_text, form)
         for text in (
